@@ -1,0 +1,63 @@
+"""Attacks: moves by which a message comes bare, as few as can be."""
+
+from roadheld.deeds import all_steps, move_done
+from roadheld.forms import is_below, is_number, is_pair, is_row
+from roadheld.handed import checked_messages, checked_most, checked_post, checked_protocols
+from roadheld.rules import rules_of
+from roadheld.solving import Solver
+
+
+def nearest(solver, rows):
+    """Of the first one of rows of layers that comes down by the fewest deeds: their number, the index, the drops."""
+    best = None
+    for index, row in enumerate(rows):
+        found = solver.down(row)
+        if found is not None and (best is None or found[0] < best[0]):
+            best = (found[0], index, found[1])
+    return best
+
+
+def asked_rows(post, protocols, messages):
+    """The layers of each of the messages of a question."""
+    checked_post(post)
+    checked_protocols(protocols)
+    return [layers for layers, _ in checked_messages(messages, post.agents())]
+
+
+def fewest(post, protocols, messages):
+    """The least number of moves by which one of messages comes bare, and its index; None if none does."""
+    rows = asked_rows(post, protocols, messages)
+    best = nearest(Solver(rules_of(post, protocols)), rows)
+    return None if best is None else best[:2]
+
+
+def attack_of(post, protocols, messages, most):
+    """An attack of the fewest moves, or how many there are if they are more than most; None if there is none."""
+    rows = asked_rows(post, protocols, messages)
+    checked_most(most)
+    rules = rules_of(post, protocols)
+    solver = Solver(rules)
+    best = nearest(solver, rows)
+    if best is None:
+        return None
+    number, index, drops = best
+    if number > most:
+        return ("long", number)
+    return (index, [rules[rule][2] for rule in solver.moves_of(drops)])
+
+
+def judged_attack(post, protocols, messages, thing):
+    """What is wrong with any object as an attack, None if nothing is."""
+    rows = asked_rows(post, protocols, messages)
+    if not is_pair(thing) or not is_number(thing[0]) or not is_row(thing[1]):
+        return ("form",)
+    if not is_below(thing[0], len(rows)):
+        return ("index",)
+    table = all_steps(protocols)
+    layers = rows[thing[0]]
+    for at, move in enumerate(thing[1]):
+        word, told = move_done(post, table, (layers, 0), move)
+        if word == "refused":
+            return ("move", at, told)
+        layers = told[0]
+    return ("left", layers) if layers else None

@@ -1,0 +1,53 @@
+"""What is handed in, looked at once: each function tells a plain copy, or refuses what is wrong."""
+
+from roadheld.agents import Post
+from roadheld.errors import BadLayers, BadMessages, BadMost, BadPost, BadProtocols, BadRules
+from roadheld.forms import are_unlike, as_layers, as_messages, as_rules, is_number, is_row, wrong_rule
+from roadheld.protocols import Proto
+
+
+def checked_post(post):
+    """A post, if it is one."""
+    if not isinstance(post, Post):
+        raise BadPost(post)
+    return post
+
+
+def checked_protocols(protocols):
+    """Protocols of unlike names, as a list."""
+    if not is_row(protocols) or not all([isinstance(protocol, Proto) for protocol in protocols]):
+        raise BadProtocols(protocols)
+    if not are_unlike([protocol.name() for protocol in protocols]):
+        raise BadProtocols(protocols)
+    return list(protocols)
+
+
+def checked_messages(messages, agents):
+    """Messages, over some agents, or any where agents is None."""
+    plain = as_messages(messages, agents)
+    if plain is None:
+        raise BadMessages(messages)
+    return plain
+
+
+def checked_layers(layers):
+    """Layers of any agents."""
+    plain = as_layers(layers, None)
+    if plain is None:
+        raise BadLayers(layers)
+    return plain
+
+
+def checked_rules(rules):
+    """Rules over any agents' layers."""
+    wrong = wrong_rule(rules)
+    if wrong is not None:
+        raise BadRules(wrong)
+    return as_rules(rules)
+
+
+def checked_most(most):
+    """The most that is asked for."""
+    if not is_number(most):
+        raise BadMost(most)
+    return most

@@ -1,0 +1,96 @@
+"""Machines: what they take, and how they are put together."""
+
+from roadheld.errors import BadLayers, BadMachine, BadOther, BadStates
+from roadheld.forms import are_unlike, as_layers, is_below, is_row
+from roadheld.walks import as_machine, goings_of, led, prune
+
+
+def is_machine(thing):
+    """Whether any object is a machine."""
+    return as_machine(thing) is not None
+
+
+def checked_machine(machine):
+    """A machine, if it is one, as a plain copy."""
+    plain = as_machine(machine)
+    if plain is None:
+        raise BadMachine(machine)
+    return plain
+
+
+def checked_pair(machine, other):
+    """Two machines as plain copies."""
+    plain = checked_machine(machine)
+    its = as_machine(other)
+    if its is None:
+        raise BadOther(other)
+    return (plain, its)
+
+
+def states_behind(machine, states, layers):
+    """The states to which rows lead from some states along layers, ascending."""
+    many, _, rows, _ = checked_machine(machine)
+    if not is_row(states) or not all([is_below(state, many) for state in states]) or not are_unlike(states):
+        raise BadStates(states)
+    plain = as_layers(layers, None)
+    if plain is None:
+        raise BadLayers(layers)
+    return led(goings_of(rows), states, plain)
+
+
+def machine_takes(machine, goings, layers):
+    """Whether a plain machine, with its goings, takes layers."""
+    return any([state in machine[3] for state in led(goings, machine[1], layers)])
+
+
+def is_taken(machine, layers):
+    """Whether a machine takes layers."""
+    plain = checked_machine(machine)
+    row = as_layers(layers, None)
+    if row is None:
+        raise BadLayers(layers)
+    return machine_takes(plain, goings_of(plain[2]), row)
+
+
+def rows_by_state(rows):
+    """For each state of some rows, for each layer by which rows go from it, the states to which; all ascending."""
+    table = {}
+    for state, layer, other in rows:
+        table.setdefault(state, {}).setdefault(layer, []).append(other)
+    return table
+
+
+def paired_rows(rows, others, many):
+    """The rows from pair to pair, ascending, many being how many states the other machine has."""
+    mine = rows_by_state(rows)
+    its = rows_by_state(others)
+    paired = []
+    # Gone through in this order the rows come ascending.
+    for s in mine:
+        for t in its:
+            for layer in mine[s]:
+                for u in mine[s][layer]:
+                    paired.extend([(s * many + t, layer, u * many + v) for v in its[t].get(layer, [])])
+    return paired
+
+
+def both(machine, other):
+    """The machine of pairs of states, which takes what each of two takes."""
+    mine, its = checked_pair(machine, other)
+    many = its[0]
+    firsts = [s * many + t for s in mine[1] for t in its[1]]
+    ends = [s * many + t for s in mine[3] for t in its[3]]
+    return (mine[0] * many, firsts, paired_rows(mine[2], its[2], many), ends)
+
+
+def either(machine, other):
+    """The machine of the states of two, which takes what one of them takes."""
+    mine, its = checked_pair(machine, other)
+    many = mine[0]
+    rows = mine[2] + [(s + many, layer, t + many) for s, layer, t in its[2]]
+    return (many + its[0], mine[1] + [s + many for s in its[1]], rows, mine[3] + [s + many for s in its[3]])
+
+
+def pruned(machine):
+    """A machine without the states that stand on no way from a first to an end."""
+    return prune(checked_machine(machine))

@@ -1,0 +1,32 @@
+"""Messages, layers on a core, and their texts."""
+
+from roadheld.errors import BadMessage
+from roadheld.forms import as_message
+from roadheld.reading import Reader
+
+SIGNS = ",:-"
+
+
+def layer_text(layer):
+    """The text of a plain layer."""
+    return layer[0] + " " + str(layer[1])
+
+
+def message_text(message):
+    """The text of a message."""
+    plain = as_message(message, None)
+    if plain is None:
+        raise BadMessage(message)
+    layers, core = plain
+    row = ", ".join([layer_text(layer) for layer in layers]) if layers else "nothing"
+    return row + " : " + str(core)
+
+
+def read_message(text):
+    """The message of such a text."""
+    reader = Reader(text, SIGNS)
+    layers = reader.read_layers(False)
+    reader.skip(":")
+    core = reader.read_integer()
+    reader.finish()
+    return (layers, core)

@@ -1,0 +1,160 @@
+"""For each function its right arguments by their names, and for each of these wrong ones and the error that is due."""
+
+from roadheld import agents, alike, attacks, comings, drops, growing, machines, messages, papers, posts, protocols, rules
+from roadheld import errors, refusals
+from roadheld.agents import Post
+from roadheld.protocols import Proto
+from tests.samples import G, H, L, M, P, T, WEAK_RULES, r, strong, things, w1, w2, w3, weak
+
+LOG = [("begin", "greet", "ann", "bob", 0), ("take", ("label", "ann"), 0), ("put", ("label", "eve"), 1),
+       ("answer", "greet", "bob", "eve", 1, 2), ("take", ("cipher", "eve"), 3)]
+HELD = [([("label", "ann"), ("cipher", "bob")], 0), ([], 5)]
+ROWS = [(0, w1, 1), (1, w2, 0)]
+RULE = ([w1], [w2], None)
+COPIES = [Proto("greet", [(0, [], [])]), Proto("greet", [(0, [], [("word", 1)])])]
+
+# Layers that are none whoever the agents are; and such as are none of the post T.
+WRONG_LAYERS = [("cipher", "Ann"), ("cipher", "label"), ("cipher", "abcdefghi"), ("cipher", ""), ("word", 10), ("word", -1),
+                ("word", True), ("word", "1"), ("word", 1.0), ("sign", "ann"), ("cipher", 0), ("cipher",), "cipher",
+                ("cipher", "ann", 1), ["label", None], (["cipher"], "ann"), ("word", 10 ** 3000)]
+NO_POST = [("agents", "eve"), {"agents": []}, Post, G]
+NO_PROTOCOLS = ["weak", [G, G], [G, None], [[G]], COPIES, G, (H, G, H), {"greet": G}, [Proto]]
+NO_MESSAGES = [([], 0), [([], True)], [([], 0.0)], [([w1], 0, 0)], [[w1]], [("word 1", 0)], [([], 0), ([w1, 5], 0)],
+               [([], "0")], [((w1), 0)], {0: ([], 0)}, "", [([w1], None)]] + [[([layer], 0)] for layer in WRONG_LAYERS]
+NO_ROWS = [w1, [w1, None], "w1", [[w1]], {0: w1}] + [[w1, layer] for layer in WRONG_LAYERS]
+NO_RULES = [("x", 0), ({}, 0), ([RULE, None], 1), ([RULE, RULE, ([w1], [w2])], 2), ([([w1], [w2], 0, 0)], 0),
+            ([RULE, ([w1], w2, 0)], 1), ([RULE, ("", [w2], 0)], 1), (RULE, 0), ([RULE, "abc"], 1), ("abc", 0)]
+NO_RULES += [([RULE, ([layer], [], 0)], 1) for layer in WRONG_LAYERS] + [([([], [w1, layer], 0)], 0) for layer in WRONG_LAYERS]
+NO_NUMBERS = [-1, True, False, None, "1", 1.0, [1], -(10 ** 3000)]
+NO_MACHINES = [(0, [], [], []), (-1, [], [], []), (True, [], [], []), (2, [0], []), (2, [0], [], [1], 0), (2, [2], [], []),
+               (2, [], [], [2]), (2, [1, 0], [], []), (2, [0, 0], [], []), (2, [], [], [1, 0]), (2, [], [], [0, 0]),
+               (2, [-1], [], []), (2, [True], [], []), (2, [], [], [False]), (2, 0, [], []), (2, [], {}, []),
+               (2, [0], [(0, w1, 2)], [1]), (2, [0], [(2, w1, 0)], [1]), (2, [0], [(0, w1)], [1]),
+               (2, [0], [(0, w2, 1), (0, w1, 1)], [1]), (2, [0], [(0, w1, 1), (0, w1, 1)], [1]),
+               (2, [0], [(0, w1, 1), (0, w1, 0)], [1]), (2, [0], [(1, w1, 1), (0, w1, 0)], [1]),
+               (2, [0], [(True, w1, 1)], [1]), (2, [0], [(0, w1, True)], [1]), (2, [0], [w1], [1]), (2.0, [0], [], [1]),
+               (2, "0", [], []), {0: 2}, "2001"] + [(2, [0], [(0, layer, 1)], [1]) for layer in WRONG_LAYERS]
+NO_AGENTS = ["", "Ann", "abcdefghi", "cipher", "seal", "label", "word", "nothing", "takes", "puts", "protocol", "a b",
+             "ann1", ["ann"], b"ann", "\u00e4nn", "ann\n"]
+WRONG_PART_LAYERS = [("cipher", 2), ("cipher", True), ("seal", False), ("cipher", -1), ("label", "ann"), ("word", 10),
+                     ("word", True), ("word", -1), ("cipher",), ("cipher", 0, 0), "cipher", ("key", 0), ("seal", 1.0)]
+NO_PART_ROWS = [("word", 1), [("word", 1), 5], "", {}] + [[layer] for layer in WRONG_PART_LAYERS]
+FIRST = (0, [], [("cipher", 1)])
+WRONG_STEPS = [None, (0, []), (0, [], [], []), (2, [], []), (True, [], []), ("0", [], []), (0, None, []), (0, [], "x"),
+               (0, [], [("seal", 1)]), (1, [], [("seal", 0)]), (0, [("cipher", 1)], []), (1, [("cipher", 0)], []),
+               (-1, [], []), [0, [], {}]]
+WRONG_STEPS += [(0, [layer], []) for layer in WRONG_PART_LAYERS] + [(1, [], [layer]) for layer in WRONG_PART_LAYERS]
+NO_STEPS = [([], 0), ((), 0), ("", 0), ({}, 0), ([(1, [], [])], 0), ([(0, [w1], [])], 0), (FIRST, 0)]
+NO_STEPS += [([FIRST, step], 1) for step in WRONG_STEPS] + [([FIRST, FIRST, step], 2) for step in WRONG_STEPS]
+NO_STEPS += [([step, FIRST], 0) for step in WRONG_STEPS]
+
+
+def kept(wrong):
+    """Wrong arguments of which the error keeps the very object."""
+    return [(thing, thing) for thing in list(wrong) + things()]
+
+
+def first_of(wrong):
+    """Wrong arguments of which the error keeps an index: things of all kinds are wrong at 0."""
+    return list(wrong) + [(thing, 0) for thing in things() if not (isinstance(thing, (list, tuple)) and thing == [])]
+
+
+def without(wrong, right):
+    """Wrong arguments but those that are right here."""
+    return [(thing, told) for thing, told in wrong if not any(thing is good for good in right)]
+
+
+POST = (errors.BadPost, "post", kept(NO_POST))
+PROTOCOLS = (errors.BadProtocols, "protocols", kept(NO_PROTOCOLS))
+MESSAGES = (errors.BadMessages, "messages", kept(NO_MESSAGES))
+POST_MESSAGES = (errors.BadMessages, "messages", kept(NO_MESSAGES + [[([("label", "zoe")], 0)]]))
+RULES = (errors.BadRules, "index", first_of(NO_RULES))
+OTHERS = (refusals.BadOthers, "index", first_of(NO_RULES))
+LAYERS = (errors.BadLayers, "layers", kept(NO_ROWS))
+PART_LAYERS = (errors.BadLayers, "layers", kept(NO_PART_ROWS))
+MACHINE = (errors.BadMachine, "machine", kept(NO_MACHINES))
+OTHER_MACHINE = (errors.BadOther, "other", kept(NO_MACHINES))
+MOST = (errors.BadMost, "most", kept(NO_NUMBERS))
+LONG = (refusals.BadLong, "long", kept(NO_NUMBERS))
+PROTOCOL = (errors.BadProtocol, "protocol", kept([[G], "greet", Proto, T]))
+OTHER_PROTOCOL = (errors.BadOther, "other", kept([[G], "greet", Proto, T]))
+POST_LAYER = (errors.BadLayer, "layer", kept(WRONG_LAYERS + [("cipher", "zoe"), ("seal", "zoe"), ("label", "zoe")]))
+ANY = None
+
+CALLS = [
+    (agents.Post, [("agents", ["bob", "ann", "eve"], (errors.BadAgents, "agents", kept(
+        ["ann", ["ann", "ann"], ["ann", "Bob"], {"ann": 1}, "abc"] + [["bob", name] for name in NO_AGENTS]))),
+                   ("keyring", [("seal", "eve"), ("cipher", "eve")], (errors.BadKeys, "keyring", kept(
+                       [[], (), [("seal", "eve")], [("cipher", "eve")], [("cipher", "eve"), ("seal", "ann")],
+                        [("cipher", "eve"), ("seal", "eve"), ("seal", "eve")], ("cipher", "eve"),
+                        [("cipher", "eve"), ("seal", "eve"), ["seal", "eve"]], [("cipher", "zoe"), ("seal", "zoe")],
+                        [("cipher", "eve"), ("seal", "eve"), ("label", "eve")],
+                        [("cipher", "eve"), ("seal", "eve"), ("word", 1)],
+                        [("cipher", "eve"), ("seal", "eve"), ("seal", "zoe")],
+                        [("cipher", "eve"), ("seal", "eve"), None], {("cipher", "eve"): 1, ("seal", "eve"): 1}])))]),
+    (agents.may_put, [("post", T, POST), ("layer", ("seal", "eve"), POST_LAYER)]),
+    (agents.may_take, [("post", T, POST), ("layer", ("cipher", "eve"), POST_LAYER)]),
+    (messages.message_text, [("message", ([("cipher", "bob"), w3], 7), (errors.BadMessage, "message", kept(
+        [([], 0, 0), [[w1]], ([], True), ([], None), (None, 0), (w1, 0), "ab", ([], 1.0), {0: [], 1: 0}]
+        + [([layer], 0) for layer in WRONG_LAYERS])))]),
+    (protocols.Proto, [("name", "greet", (errors.BadName, "name", kept(NO_AGENTS))),
+                       ("steps", G.steps(), (errors.BadSteps, "index", first_of(NO_STEPS)))]),
+    (protocols.dealt, [("layers", [("cipher", 0), ("label", 1), w3], PART_LAYERS),
+                       ("zero", "ann", (errors.BadZero, "zero", kept(NO_AGENTS))),
+                       ("one", "bob", (errors.BadOne, "one", kept(NO_AGENTS + ["ann"])))]),
+    (protocols.protocol_text, [("protocol", G, PROTOCOL)]),
+    (protocols.with_words, [("protocol", G, PROTOCOL), ("words", {}, (errors.BadWords, "words", [
+        (thing, thing) for thing in [{0: 1}, {1: 2, 2: 1}, [], (), "", None, [1]] + things() if not (isinstance(thing, dict) and not thing)]))]),
+    (protocols.words_apart, [("protocol", G, PROTOCOL), ("other", G, OTHER_PROTOCOL)]),
+    (posts.done, [("post", T, POST), ("protocols", [G], PROTOCOLS), ("messages", HELD, POST_MESSAGES),
+                  ("deed", ("answer", "greet", "bob", "ann", 1, 0), ANY)]),
+    (posts.refused, [("post", T, POST), ("protocols", [G, H], PROTOCOLS), ("log", LOG, (errors.BadLog, "log", [
+        (thing, thing) for thing in ["", {}, None, 5, "put", True, {"a": 1}, object(), len, set()]]))]),
+    (posts.held_by, [("post", T, POST), ("protocols", [G, H], PROTOCOLS), ("log", LOG, (errors.BadLog, "log", kept(
+        [LOG[:3] + [("take", ("label", "bob"), 2)], LOG[1:], [("own", True)], LOG[0]])))]),
+    (posts.through, [("post", T, POST), ("protocols", [G, H], PROTOCOLS), ("log", LOG, (errors.BadLog, "log", kept(
+        [LOG[:3] + [("take", ("label", "bob"), 2)], LOG[1:], [("own", True)], LOG[0]])))]),
+    (rules.first_messages, [("post", P, POST), ("protocols", [weak, G], PROTOCOLS),
+                            ("agent", "ann", (errors.BadAgent, "agent", kept(NO_AGENTS + ["zoe"]))),
+                            ("partner", "bob", (errors.BadPartner, "partner", kept(NO_AGENTS + ["zoe", "ann"]))),
+                            ("core", 7, (errors.BadCore, "core", [(thing, thing) for thing in [
+                                True, False, None, "7", 7.0, [7], Post, {}, object()]]))]),
+    (rules.rules_of, [("post", P, POST), ("protocols", [weak, G], PROTOCOLS)]),
+    (rules.after, [("rules", r, RULES), ("layers", [w1, w2], LAYERS), ("rule", 0, (errors.BadRule, "rule", kept(
+        [2, -2, "0", [0], 10 ** 3000])))]),
+    (rules.controls, [("rules", r, RULES)]),
+    (drops.all_drops, [("rules", r, RULES)]),
+    (drops.down, [("rules", r, RULES), ("layers", [w2, w2], LAYERS)]),
+    (attacks.fewest, [("post", T, POST), ("protocols", [G], PROTOCOLS), ("messages", HELD[:1], POST_MESSAGES)]),
+    (attacks.attack_of, [("post", T, POST), ("protocols", [G], PROTOCOLS), ("messages", HELD[:1], POST_MESSAGES),
+                         ("most", 9, MOST)]),
+    (attacks.judged_attack, [("post", T, POST), ("protocols", [G], PROTOCOLS), ("messages", HELD, POST_MESSAGES),
+                             ("thing", (0, [("take", ("label", "ann"))]), ANY)]),
+    (machines.is_machine, [("thing", M, ANY)]),
+    (machines.states_behind, [("machine", M, MACHINE), ("states", [1, 0], (errors.BadStates, "states", kept(
+        [0, [2], [0, 0], [-1], [True], [0, False], "0", {0: 1}, [0.0], [10 ** 3000]]))), ("layers", [w2], LAYERS)]),
+    (machines.is_taken, [("machine", M, MACHINE), ("layers", [w2, w1], LAYERS)]),
+    (machines.both, [("machine", M, MACHINE), ("other", (1, [0], [(0, w2, 0)], [0]), OTHER_MACHINE)]),
+    (machines.either, [("machine", M, MACHINE), ("other", (1, [0], [(0, w2, 0)], [0]), OTHER_MACHINE)]),
+    (machines.pruned, [("machine", (3, [0], [(0, w1, 1), (0, w2, 2)], [1]), MACHINE)]),
+    (papers.judged_paper, [("rules", r, RULES), ("messages", L, MESSAGES), ("machine", M, MACHINE)]),
+    (papers.is_paper, [("rules", r, RULES), ("messages", L, MESSAGES), ("thing", M, ANY)]),
+    (growing.grown, [("rules", r, RULES), ("machine", M, MACHINE)]),
+    (growing.machine_of, [("messages", HELD, MESSAGES)]),
+    (growing.turned, [("rules", r, RULES)]),
+    (comings.fewest_moves, [("rules", r, RULES), ("messages", L, MESSAGES), ("layers", [w3], LAYERS)]),
+    (comings.is_attack_to, [("rules", r, RULES), ("messages", L, MESSAGES), ("layers", [w3], LAYERS),
+                            ("thing", (0, [0, 1]), ANY)]),
+    (comings.attack_to, [("rules", r, RULES), ("messages", L, MESSAGES), ("layers", [w3], LAYERS), ("most", 2, MOST)]),
+    (comings.judged_never, [("rules", r, RULES), ("messages", L, MESSAGES), ("layers", [w2], LAYERS),
+                            ("machine", M, MACHINE)]),
+    (comings.never, [("rules", r, RULES), ("messages", L, MESSAGES), ("layers", [w2], LAYERS)]),
+    (alike.least_machine, [("machine", M, MACHINE)]),
+    (alike.only_of, [("machine", M, MACHINE), ("other", (1, [0], [(0, w2, 0)], [0]), OTHER_MACHINE)]),
+    (alike.parting_layers, [("machine", M, MACHINE), ("other", (1, [0], [(0, w2, 0)], [0]), OTHER_MACHINE)]),
+    (alike.taken_counts, [("machine", M, MACHINE), ("long", 4, LONG)]),
+    (alike.rules_parted, [("rules", r, RULES), ("messages", L, MESSAGES), ("others", r[:1], OTHERS),
+                          ("besides", L, (refusals.BadBesides, "besides", kept(NO_MESSAGES)))]),
+]
+MORE_RULES = WEAK_RULES
+MORE_PROTOCOLS = [strong]
