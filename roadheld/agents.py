@@ -1,12 +1,13 @@
 """Posts of agents: who there is, and which keys the adversary has."""
 
 from roadheld.errors import BadAgents, BadKeys, BadLayer, BadPost
-from roadheld.forms import are_unlike, as_agents, as_key, as_layer, is_row
+from roadheld.forms import as_agents, as_keys, as_layer
 
 
 def has_own_agent(agents, keys):
     """Whether there is an agent both of whose keys are among some keys."""
-    return any([("cipher", agent) in keys and ("seal", agent) in keys for agent in agents])
+    held = {key: True for key in keys}
+    return any([("cipher", agent) in held and ("seal", agent) in held for agent in agents])
 
 
 class Post:
@@ -16,10 +17,8 @@ class Post:
         names = as_agents(agents)
         if names is None:
             raise BadAgents(agents)
-        if not is_row(keyring):
-            raise BadKeys(keyring)
-        keys = [as_key(key, names) for key in keyring]
-        if None in keys or not are_unlike(keys) or not has_own_agent(names, keys):
+        keys = as_keys(keyring, names)
+        if keys is None or not has_own_agent(names, keys):
             raise BadKeys(keyring)
         self._agents = tuple(sorted(names))
         self._keys = tuple(sorted(keys))

@@ -75,10 +75,12 @@ def as_layers(thing, agents):
     return None if None in layers else layers
 
 
-def as_key(thing, agents):
-    """A key of one of agents, as a tuple."""
-    layer = as_layer(thing, agents)
-    return layer if layer is not None and layer[0] in KEYS else None
+def as_keys(thing, agents):
+    """A list of unlike keys of some agents, each as a tuple."""
+    keys = as_layers(thing, {agent: True for agent in agents})
+    if keys is None or not all([kind in KEYS for kind, _ in keys]):
+        return None
+    return keys if are_unlike(keys) else None
 
 
 def as_message(thing, agents):

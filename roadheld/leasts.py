@@ -107,8 +107,6 @@ def determined_by_trying(automaton):
 def least(machine):
     """The least determined machine of a plain machine."""
     many, firsts, rows, ends = prune(machine)
-    if not ends:
-        return (1, [0], [], [])
     layers = sorted({layer: True for _, layer, _ in rows})
     places = {layer: at for at, layer in enumerate(layers)}
     goings = [{} for _ in range(many)]

@@ -40,7 +40,8 @@ def states_behind(machine, states, layers):
 
 def machine_takes(machine, goings, layers):
     """Whether a plain machine, with its goings, takes layers."""
-    return any([state in machine[3] for state in led(goings, machine[1], layers)])
+    ends = {state: True for state in machine[3]}
+    return any([state in ends for state in led(goings, machine[1], layers)])
 
 
 def is_taken(machine, layers):

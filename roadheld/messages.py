@@ -4,8 +4,6 @@ from roadheld.errors import BadMessage
 from roadheld.forms import as_message
 from roadheld.reading import Reader
 
-SIGNS = ",:-"
-
 
 def layer_text(layer):
     """The text of a plain layer."""
@@ -24,7 +22,7 @@ def message_text(message):
 
 def read_message(text):
     """The message of such a text."""
-    reader = Reader(text, SIGNS)
+    reader = Reader(text)
     layers = reader.read_layers(False)
     reader.skip(":")
     core = reader.read_integer()

@@ -4,8 +4,6 @@ from roadheld.errors import BadLayers, BadName, BadOne, BadOther, BadProtocol, B
 from roadheld.forms import are_unlike, as_part_layers, as_step, is_agent, is_below, is_row
 from roadheld.reading import Reader
 
-SIGNS = ",;{}"
-
 
 def as_steps(steps):
     """The steps of a protocol as tuples of tuples."""
@@ -105,7 +103,7 @@ def read_step(reader):
 
 def read_protocol(text):
     """The protocol of such a text."""
-    reader = Reader(text, SIGNS)
+    reader = Reader(text)
     reader.skip("protocol")
     name = reader.read_agent()
     reader.skip("{")
@@ -163,9 +161,9 @@ def words_apart(protocol, other):
         raise BadOther(other)
     words = {}
     for mine, its in zip(all_layers(protocol.steps()), all_layers(other.steps())):
-        if mine[0] == "word" and its[0] == "word":
+        if mine[0] == "word":
             words[mine[1]] = its[1]
-    # The words were matched layer by layer, whatever the steps: what they make shows whether they are right.
+    # The words were matched layer by layer, whatever these are: what they make shows whether they are right.
     if not are_words(protocol, words) or with_words(protocol, words).steps() != other.steps():
         return None
     return words

@@ -14,8 +14,8 @@ def is_digit(sign):
     return "0" <= sign <= "9"
 
 
-def end_of(text, at, signs):
-    """Where the word, number or sign that begins at a place ends; the place itself if none begins there."""
+def end_of(text, at):
+    """Where the word, number or sign that begins at a place ends; a sign that begins none stands for itself."""
     sign = text[at]
     end = at + 1
     if is_letter(sign):
@@ -25,23 +25,20 @@ def end_of(text, at, signs):
         # A number does not begin with 0: behind a 0 another one begins.
         while sign != "0" and end < len(text) and is_digit(text[end]):
             end += 1
-    elif sign not in signs:
-        end = at
     return end
 
 
 class Reader:
     """A text that is read from its begin on, with the one word, number or sign that comes next.
 
-    The word that comes next is empty at the end of the text, and where a sign begins none:
-    so it is never what is looked for, and its place is the one to be told.
+    The word that comes next is empty at the end of the text. A sign that begins no word is never looked for:
+    so it is refused wherever it stands, as any other word is that does not go on there.
     """
 
-    def __init__(self, text, signs):
+    def __init__(self, text):
         if not isinstance(text, str):
             raise BadText(0)
         self.text = text
-        self.signs = signs
         self.word = ""
         self.place = 0
         self.behind = 0
@@ -53,7 +50,7 @@ class Reader:
         while at < len(self.text) and self.text[at] == " ":
             at += 1
         self.place = at
-        self.behind = at if at == len(self.text) else end_of(self.text, at, self.signs)
+        self.behind = at if at == len(self.text) else end_of(self.text, at)
         self.word = self.text[at:self.behind]
 
     def need(self, right):

@@ -4,7 +4,7 @@ from roadheld import agents, alike, attacks, comings, drops, growing, machines, 
 from roadheld import errors, refusals
 from roadheld.agents import Post
 from roadheld.protocols import Proto
-from tests.samples import G, H, L, M, P, T, WEAK_RULES, r, strong, things, w1, w2, w3, weak
+from tests.samples import G, H, L, M, P, T, WEAK_RULES, Alike, Odd, r, strong, things, w1, w2, w3, weak
 
 LOG = [("begin", "greet", "ann", "bob", 0), ("take", ("label", "ann"), 0), ("put", ("label", "eve"), 1),
        ("answer", "greet", "bob", "eve", 1, 2), ("take", ("cipher", "eve"), 3)]
@@ -16,7 +16,7 @@ COPIES = [Proto("greet", [(0, [], [])]), Proto("greet", [(0, [], [("word", 1)])]
 # Layers that are none whoever the agents are; and such as are none of the post T.
 WRONG_LAYERS = [("cipher", "Ann"), ("cipher", "label"), ("cipher", "abcdefghi"), ("cipher", ""), ("word", 10), ("word", -1),
                 ("word", True), ("word", "1"), ("word", 1.0), ("sign", "ann"), ("cipher", 0), ("cipher",), "cipher",
-                ("cipher", "ann", 1), ["label", None], (["cipher"], "ann"), ("word", 10 ** 3000)]
+                ("cipher", "ann", 1), ["label", None], (Odd(), "ann"), (Alike(), 3), [Alike(), "ann"], (["cipher"], "ann"), ("word", 10 ** 3000)]
 NO_POST = [("agents", "eve"), {"agents": []}, Post, G]
 NO_PROTOCOLS = ["weak", [G, G], [G, None], [[G]], COPIES, G, (H, G, H), {"greet": G}, [Proto]]
 NO_MESSAGES = [([], 0), [([], True)], [([], 0.0)], [([w1], 0, 0)], [[w1]], [("word 1", 0)], [([], 0), ([w1, 5], 0)],
@@ -37,7 +37,8 @@ NO_MACHINES = [(0, [], [], []), (-1, [], [], []), (True, [], [], []), (2, [0], [
 NO_AGENTS = ["", "Ann", "abcdefghi", "cipher", "seal", "label", "word", "nothing", "takes", "puts", "protocol", "a b",
              "ann1", ["ann"], b"ann", "\u00e4nn", "ann\n"]
 WRONG_PART_LAYERS = [("cipher", 2), ("cipher", True), ("seal", False), ("cipher", -1), ("label", "ann"), ("word", 10),
-                     ("word", True), ("word", -1), ("cipher",), ("cipher", 0, 0), "cipher", ("key", 0), ("seal", 1.0)]
+                     ("word", True), ("word", -1), ("cipher",), ("cipher", 0, 0), "cipher", ("key", 0), ("seal", 1.0), (Odd(), 0),
+                     (Alike(), 0), ("label", Alike()), ("word", Odd())]
 NO_PART_ROWS = [("word", 1), [("word", 1), 5], "", {}] + [[layer] for layer in WRONG_PART_LAYERS]
 FIRST = (0, [], [("cipher", 1)])
 WRONG_STEPS = [None, (0, []), (0, [], [], []), (2, [], []), (True, [], []), ("0", [], []), (0, None, []), (0, [], "x"),

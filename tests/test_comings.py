@@ -107,6 +107,8 @@ class TestComings(unittest.TestCase):
             self.assertIs(is_attack_to(r, L, [w3], (0, [thing])), False)
             self.assertIs(is_attack_to(r, L, [w3], (thing, [0, 1])), False)
         self.assertIs(is_attack_to(r, L, [w1], (0, [])), True)
+        self.assertIs(is_attack_to(r, L, [], (0, [1])), False)
+        self.assertIs(is_attack_to([([w1, w1], [], 0)], L, [], (0, [0])), False)
 
 
 class TestJudged(unittest.TestCase):

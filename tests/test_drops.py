@@ -53,6 +53,20 @@ class TestDrops(unittest.TestCase):
         self.assertEqual(down(rules, [w2, w1, w2]), 3)
         self.assertEqual(down([([], [w1, w2], 0), ([w1, w2, w3], [], 0)], [w3, w3]), 4)
 
+    def test_the_least_of_two_rules_that_take_nothing(self):
+        a, x, y, z = w1, w2, w3, ("word", 4)
+        rules = [([], [x], 0), ([x, a], [z] * 5, 0), ([z], [], 0), ([], [y], 0), ([y], [x], 0)]
+        for order in (rules, rules[::-1], rules[3:] + rules[:3]):
+            self.assertEqual(dict(all_drops(order))[((), a, ())], 7)
+            self.assertEqual(down(order, [a, a]), 14)
+            self.assertEqual(all_drops(order), sorted(drops_by_trying(order).items()))
+
+    def test_by_trying_many_rules_that_take_nothing(self):
+        letters = [w1, w2, w3]
+        for chance in chances(300):
+            rules = random_rules(chance, letters, 4, (0, 0), (1, 3)) + random_rules(chance, letters, 5, (1, 3), (0, 5))
+            self.assertEqual(all_drops(rules), sorted(drops_by_trying(rules).items()))
+
     def test_by_trying(self):
         letters = [w1, w2, w3, ("cipher", "ann")]
         for chance in chances(1500):

@@ -16,6 +16,7 @@ RIGHT = [
 LOOSE = [
     ("  cipher   bob,word 3:7  ", [("cipher", "bob"), ("word", 3)], 7),
     ("word3:7", [("word", 3)], 7),
+    ("word9,word8:7", [("word", 9), ("word", 8)], 7),
     ("nothing:-  5", [], -5),
     ("nothing : - 5 ", [], -5),
     ("label ann ,label ann :12", [("label", "ann"), ("label", "ann")], 12),
