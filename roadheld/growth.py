@@ -1,5 +1,6 @@
 """A machine, grown until it keeps rules, and takes nothing but what comes by them."""
 
+from roadheld.folding import fold
 from roadheld.walks import prune
 
 # The state from which the grown machine begins, and the node of the rules that take nothing.
@@ -106,7 +107,7 @@ class Growth:
         for state, going in self.rows.items():
             for layer, others in going.items():
                 rows.extend([(state, layer, other) for other in others])
-        return prune((self.many, sorted(self.states_at[ROOT]), sorted(rows), self.ends))
+        return fold(prune((self.many, sorted(self.states_at[ROOT]), sorted(rows), self.ends)))
 
 
 def grow(rules, machine):

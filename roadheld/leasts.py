@@ -30,7 +30,7 @@ def backward(rows):
     return back
 
 
-def split(members, groups, states):
+def parts_of(members, groups, states):
     """The parts of the members of a kind: the groups of those looked at again, and the others."""
     parts = list(groups.values())
     others = [state for state in members if state not in states]
@@ -51,7 +51,7 @@ def kinds_of(rows, ends):
         groups = sorted_out(changed, rows, kinds)
         again = {}
         for kind in groups:
-            parts = split(members[kind], groups[kind], changed)
+            parts = parts_of(members[kind], groups[kind], changed)
             sizes = [len(part) for part in parts]
             keeper = sizes.index(max(sizes))
             members[kind] = parts[keeper]

@@ -5,7 +5,8 @@ def rows_of(machine):
     """For each state of a determined machine the states to which rows go, by layers."""
     goings = {}
     for state, layer, other in machine[2]:
-        goings.setdefault(state, {})[layer] = other
+        going = goings.setdefault(state, {})
+        going[layer] = other
     return goings
 
 

@@ -4,9 +4,10 @@ import random
 import time
 import unittest
 
+from roadheld.alike import only_of
 from roadheld.comings import attack_to, fewest_moves, is_attack_to, judged_never, never
 from roadheld.growing import grown, machine_of
-from roadheld.machines import is_machine, is_taken
+from roadheld.machines import both, is_machine, is_taken
 from roadheld.papers import judged_paper
 from roadheld.rules import after, rules_of
 from tests import plain
@@ -27,6 +28,8 @@ class TestExample(unittest.TestCase):
         self.assertIsNone(fewest_moves(r, L, [w2]))
         self.assertIsNone(never(r, L, [w3]))
         self.assertIsNone(judged_never(r, L, [w2], never(r, L, [w2])))
+        for layers in words_up_to([w1, w2, w3], 4):
+            self.assertEqual(fewest_moves(r, L, layers) is not None, layers in ([w1], [w2, w3], [w3]))
 
     def test_posts(self):
         rules = rules_of(P, [tight])
@@ -35,6 +38,11 @@ class TestExample(unittest.TestCase):
         self.assertIsNone(judged_paper(rules, messages, paper))
         self.assertEqual(fewest_moves(rules, messages, [("cipher", "eve"), ("cipher", "ann")]), 2)
         self.assertIsNone(fewest_moves(rules, messages, [("cipher", "eve")]))
+        letters = sorted({layer for takes, puts, _ in rules for layer in takes + puts})
+        on_top = (2, [0], [(0, ("cipher", "eve"), 1)] + [(1, layer, 1) for layer in letters], [1])
+        held = both(grown(rules, machine_of(messages)), on_top)
+        self.assertEqual(only_of(held, (1, [], [], [])), [("cipher", "eve"), ("cipher", "ann")])
+        self.assertIsNone(only_of(grown(rules, machine_of(messages)), paper))
         row = [("cipher", "bob"), ("label", "ann"), ("cipher", "bob")]
         self.assertEqual(fewest_moves(rules_of(P, [strong]), [(row, 7)], []), 13)
 

@@ -6,6 +6,7 @@ import unittest
 
 from roadheld.alike import least_machine
 from roadheld.comings import attack_to
+from roadheld.folding import fold
 from roadheld.growing import grown, machine_of, turned
 from roadheld.machines import is_machine, is_taken
 from roadheld.papers import judged_paper
@@ -103,6 +104,29 @@ class TestGrown(unittest.TestCase):
         self.assertEqual(grown([], (10 ** 30, [], [], [])), (1, [], [], []))
         told = grown([([], [], 0), ([w1], [], 0)], machine_of([([w1, w1], 0)]))
         self.assertEqual([is_taken(told, [w1] * many) for many in range(4)], [True, True, True, False])
+
+
+class TestFolded(unittest.TestCase):
+    def test_it_takes_the_same_and_keeps_the_same(self):
+        fewer = 0
+        for chance in plain.chances(400):
+            machine = plain.random_machine(chance, LETTERS, chance.randint(1, 6), 10)
+            told = fold(machine)
+            self.assertTrue(is_machine(told))
+            self.assertEqual(fold(told), told)
+            for layers in words_up_to(LETTERS, 4):
+                self.assertIs(plain.is_taken(told, layers), plain.is_taken(machine, layers))
+            for rule in plain.random_rules(chance, LETTERS, 5, (0, 2), (0, 2)):
+                self.assertTrue(plain.is_kept(told, rule) or not plain.is_kept(machine, rule))
+            fewer += told[0] < machine[0]
+        self.assertGreater(fewer, 50)
+
+    def test_by_hand(self):
+        chain = (4, [0], [(0, w1, 1), (0, w1, 2), (1, w2, 3), (2, w2, 3)], [3])
+        self.assertEqual(fold(chain), (3, [0], [(0, w1, 1), (1, w2, 2)], [2]))
+        self.assertEqual(fold((3, [0, 1], [(0, w1, 1), (1, w1, 2), (2, w1, 0)], [0, 1, 2])), (1, [0], [(0, w1, 0)], [0]))
+        self.assertEqual(fold((3, [0], [(0, w1, 1), (1, w1, 2)], [0, 1, 2])), (3, [0], [(0, w1, 1), (1, w1, 2)], [0, 1, 2]))
+        self.assertEqual(fold((1, [], [], [])), (1, [], [], []))
 
 
 class TestMachineOf(unittest.TestCase):
