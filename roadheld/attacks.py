@@ -2,7 +2,7 @@
 
 from roadheld.deeds import all_steps, move_done
 from roadheld.forms import is_below, is_number, is_pair, is_row
-from roadheld.handed import checked_messages, checked_most, checked_post, checked_protocols
+from roadheld.handed import checked_most, checked_question
 from roadheld.rules import rules_of
 from roadheld.solving import Solver
 
@@ -19,9 +19,7 @@ def nearest(solver, rows):
 
 def asked_rows(post, protocols, messages):
     """The layers of each of the messages of a question."""
-    checked_post(post)
-    checked_protocols(protocols)
-    return [layers for layers, _ in checked_messages(messages, post.agents())]
+    return [layers for layers, _ in checked_question(post, protocols, messages)]
 
 
 def fewest(post, protocols, messages):

@@ -62,3 +62,11 @@ class Coded:
         """A drop of numbers as it is told."""
         control, layer, behind = numbers
         return (self.controls[control], self.layers[layer], self.controls[behind])
+
+    def drop_in_numbers(self, drop):
+        """A plain drop in numbers, None if its controls or its layer are none of the rules."""
+        control, layer, behind = drop
+        numbers = self.control_numbers
+        if control not in numbers or behind not in numbers or layer not in self.layer_numbers:
+            return None
+        return (numbers[control], self.layer_numbers[layer], numbers[behind])

@@ -13,11 +13,16 @@ def checked_post(post):
     return post
 
 
+def are_protocols(thing):
+    """Whether a thing is a list of protocols of unlike names."""
+    if not is_row(thing) or not all([isinstance(protocol, Proto) for protocol in thing]):
+        return False
+    return are_unlike([protocol.name() for protocol in thing])
+
+
 def checked_protocols(protocols):
     """Protocols of unlike names, as a list."""
-    if not is_row(protocols) or not all([isinstance(protocol, Proto) for protocol in protocols]):
-        raise BadProtocols(protocols)
-    if not are_unlike([protocol.name() for protocol in protocols]):
+    if not are_protocols(protocols):
         raise BadProtocols(protocols)
     return list(protocols)
 
@@ -28,6 +33,24 @@ def checked_messages(messages, agents):
     if plain is None:
         raise BadMessages(messages)
     return plain
+
+
+def checked_question(post, protocols, messages):
+    """The layers and cores of the messages of a question."""
+    checked_post(post)
+    checked_protocols(protocols)
+    return checked_messages(messages, post.agents())
+
+
+def as_question(thing):
+    """A triple of a post, protocols, and messages over its agents, as a plain copy; None for anything else."""
+    if not is_row(thing) or len(thing) != 3:
+        return None
+    post, protocols, messages = thing
+    if not isinstance(post, Post) or not are_protocols(protocols):
+        return None
+    plain = as_messages(messages, post.agents())
+    return None if plain is None else (post, list(protocols), plain)
 
 
 def checked_layers(layers):

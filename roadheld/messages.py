@@ -10,14 +10,18 @@ def layer_text(layer):
     return layer[0] + " " + str(layer[1])
 
 
+def row_text(layers):
+    """The text of plain layers."""
+    return ", ".join([layer_text(layer) for layer in layers]) if layers else "nothing"
+
+
 def message_text(message):
     """The text of a message."""
     plain = as_message(message, None)
     if plain is None:
         raise BadMessage(message)
     layers, core = plain
-    row = ", ".join([layer_text(layer) for layer in layers]) if layers else "nothing"
-    return row + " : " + str(core)
+    return row_text(layers) + " : " + str(core)
 
 
 def read_message(text):

@@ -121,6 +121,10 @@ class Reader:
             layers.append(self.read_layer(of_parts))
         return layers
 
+    def is_over(self):
+        """Whether nothing comes but the end of the text."""
+        return self.place == len(self.text)
+
     def finish(self):
         """Refuses whatever comes but the end of the text."""
-        self.need(self.place == len(self.text))
+        self.need(self.is_over())

@@ -88,7 +88,9 @@ class Solver:
         return sorted([(item, number) for item, number in self.numbers.items() if len(item) == 3])
 
     def used(self, drop):
-        """The drops, in order, by which a drop comes that comes by a rule."""
+        """The drops, in order, by which a drop comes; none where it comes by no rule."""
+        if self.reasons[drop] is None:
+            return []
         rule, control = self.reasons[drop]
         line = self.coded.lines[rule]
         drops = []
@@ -109,7 +111,7 @@ class Solver:
             drop = left.pop()
             if self.reasons[drop] is not None:
                 moves.append(self.reasons[drop][0])
-                left.extend(self.used(drop)[::-1])
+            left.extend(self.used(drop)[::-1])
         return moves
 
     def ways_on(self, ways, layer):

@@ -1,6 +1,7 @@
 """For each function its right arguments by their names, and for each of these wrong ones and the error that is due."""
 
-from roadheld import agents, alike, attacks, comings, drops, growing, machines, messages, papers, posts, protocols, rules
+from roadheld import agents, alike, answers, asking, attacks, audits, books, comings, drops, exchange, growing, ledover
+from roadheld import machines, messages, papers, papertexts, posts, protocols, rules
 from roadheld import errors, refusals
 from roadheld.agents import Post
 from roadheld.protocols import Proto
@@ -50,6 +51,22 @@ NO_STEPS += [([FIRST, step], 1) for step in WRONG_STEPS] + [([FIRST, FIRST, step
 NO_STEPS += [([step, FIRST], 0) for step in WRONG_STEPS]
 
 
+BOOK = [(((), w2, ()), 1, []), (((), w1, ()), 0, [0])]
+NO_BOOKS = ["", BOOK[0], {0: BOOK[0]}, BOOK[1:], [(((), w1, ()), -1, [])], [(((), w1, ()), True, [])], [(((), w1, ()), 0)],
+            [(((), w1, ()), 0, [0])], [(((), w1, ()), 0, None)], [(((), w1), 0, [])], [((w1, w1, ()), 0, [])],
+            [(((), w1, ()), None, [])] + [(((), w1, ()), 0, [False])], [(((), w1, ()), "0", [])], [((), w1, ()), 0, []]]
+NO_BOOKS += [[(([layer], w1, ()), 0, [])] for layer in WRONG_LAYERS] + [[(((), layer, ()), 0, [])] for layer in WRONG_LAYERS]
+NO_DROPS = [((), w1), ((), w1, (), ()), (w1, w1, ()), ((), w1, w1), (None, w1, ()), "abc", {0: 1}]
+NO_DROPS += [((), layer, ()) for layer in WRONG_LAYERS] + [((), w1, [layer]) for layer in WRONG_LAYERS]
+FIRST = [([("label", "ann"), ("cipher", "bob")], 0)]
+BARE = answers.answer_for(T, [G], FIRST)
+TEXT = audits.audit_text(T, [G], FIRST, BARE)
+ATTACK = (0, [("take", ("label", "ann")), ("put", ("label", "eve")), ("answer", "greet", "bob", "eve", 1), ("take", ("cipher", "eve"))])
+NO_ATTACKS = [(0, []), (1, ATTACK[1]), (0, ATTACK[1][1:]), (0, ATTACK[1] + [None]), (0,), (0, ATTACK[1], 0), (False, ATTACK[1]), ATTACK[1]]
+NO_QUESTIONS = [(T, [G]), (T, [G], HELD, 0), (G, [G], HELD), (T, G, HELD), (T, [G, G], HELD), (T, [G], None), (T, [G], [([("label", "zoe")], 0)])]
+PAPER = (2, [0], [(0, ("cipher", "bob"), 1), (0, ("label", "eve"), 0), (0, w1, 0)], [1])
+
+
 def kept(wrong):
     """Wrong arguments of which the error keeps the very object."""
     return [(thing, thing) for thing in list(wrong) + things()]
@@ -79,6 +96,12 @@ MOST = (errors.BadMost, "most", kept(NO_NUMBERS))
 LONG = (refusals.BadLong, "long", kept(NO_NUMBERS))
 PROTOCOL = (errors.BadProtocol, "protocol", kept([[G], "greet", Proto, T]))
 OTHER_PROTOCOL = (errors.BadOther, "other", kept([[G], "greet", Proto, T]))
+ANSWER = (refusals.BadAnswer, "answer", kept(["bare", BARE[:4], BARE + (0,), ("safe",) + BARE[1:], ("safe", M), ("bare", 0, 5) + BARE[3:]]))
+ATTACKS = (refusals.BadAttack, "attack", kept(NO_ATTACKS))
+ASKED = (refusals.BadAsked, "asked", kept(NO_MACHINES))
+KEPT = (refusals.BadKept, "kept", kept(["ann", ["ann", "ann"], ["zoe"], {"ann": 1}] + [["bob", name] for name in NO_AGENTS]))
+ADVERSARY = (refusals.BadAdversary, "adversary", kept(["ann", "bob", "zoe", ["eve"]] + NO_AGENTS))
+NO_TEXT = [(b"states 1", 0), ("states 0", 0), (["states 1", "firsts", "ends"], 0)]
 POST_LAYER = (errors.BadLayer, "layer", kept(WRONG_LAYERS + [("cipher", "zoe"), ("seal", "zoe"), ("label", "zoe")]))
 ANY = None
 
@@ -150,6 +173,33 @@ CALLS = [
     (comings.judged_never, [("rules", r, RULES), ("messages", L, MESSAGES), ("layers", [w2], LAYERS),
                             ("machine", M, MACHINE)]),
     (comings.never, [("rules", r, RULES), ("messages", L, MESSAGES), ("layers", [w2], LAYERS)]),
+    (books.is_book, [("rules", r, RULES), ("thing", BOOK, ANY)]),
+    (books.counts, [("book", BOOK, (errors.BadBook, "book", kept(NO_BOOKS)))]),
+    (books.book_of, [("rules", r, RULES), ("drop", ((), w2, ()), (errors.BadDrop, "drop", kept(NO_DROPS)))]),
+    (books.book_down, [("rules", r, RULES), ("layers", [w2, w2], LAYERS)]),
+    (papertexts.paper_text, [("machine", M, MACHINE)]),
+    (papertexts.read_paper, [("text", papertexts.paper_text(M), (refusals.BadPaperText, "line", first_of(NO_TEXT)))]),
+    (answers.answer_for, [("post", T, POST), ("protocols", [G], PROTOCOLS), ("messages", FIRST, POST_MESSAGES)]),
+    (answers.answer_for, [("post", T, POST), ("protocols", [H], PROTOCOLS), ("messages", FIRST, POST_MESSAGES)]),
+    (answers.is_answer, [("post", T, POST), ("protocols", [G], PROTOCOLS), ("messages", FIRST, POST_MESSAGES), ("thing", BARE, ANY)]),
+    (answers.is_more, [("post", T, POST), ("protocols", [G, H], PROTOCOLS), ("messages", HELD, POST_MESSAGES),
+                       ("other", (T, [G], HELD[:1]), (errors.BadOther, "other", kept(NO_QUESTIONS)))]),
+    (audits.audit_text, [("post", T, POST), ("protocols", [G], PROTOCOLS), ("messages", FIRST, POST_MESSAGES), ("thing", BARE, ANSWER)]),
+    (audits.audited, [("text", TEXT, (refusals.BadAudit, "line", first_of([(TEXT.encode(), 0), (TEXT.split("\n"), 0)])))]),
+    (asking.ever, [("rules", r, RULES), ("messages", L, MESSAGES), ("asked", M, ASKED)]),
+    (asking.ever, [("rules", r, RULES), ("messages", L, MESSAGES), ("asked", (1, [0], [(0, w2, 0)], [0]), ASKED)]),
+    (asking.judged_apart, [("rules", r, RULES), ("messages", L, MESSAGES), ("asked", (2, [0], [(0, w3, 1)], [1]), ASKED),
+                           ("machine", M, MACHINE), ("pairs", [(0, 0)], ANY)]),
+    (asking.formed, [("agents", ["bob", "ann"], (errors.BadAgents, "agents", kept([["ann", "ann"], "ann"] + [[name] for name in NO_AGENTS]))),
+                     ("form", ["any", w1, "more"], (refusals.BadForm, "form", kept(["any", ["none"], w1] + [["any", layer] for layer in WRONG_LAYERS])))]),
+    (exchange.exchanged, [("post", T, POST), ("kept", ["bob"], KEPT), ("adversary", "eve", ADVERSARY), ("messages", HELD, POST_MESSAGES)]),
+    (exchange.fewer, [("post", T, POST), ("kept", ["bob"], KEPT), ("adversary", "eve", ADVERSARY)]),
+    (exchange.agents_in, [("messages", HELD, MESSAGES)]),
+    (ledover.attack_over, [("post", T, POST), ("protocols", [G], PROTOCOLS), ("messages", FIRST, POST_MESSAGES), ("kept", ["bob"], KEPT),
+                           ("adversary", "eve", ADVERSARY), ("attack", ATTACK, ATTACKS)]),
+    (ledover.paper_over, [("post", T, POST), ("kept", ["bob"], KEPT), ("adversary", "eve", ADVERSARY),
+                          ("paper", PAPER, (refusals.BadPaper, "paper", kept(NO_MACHINES + [
+                              (1, [0], [(0, ("seal", "ann"), 0)], []), (1, [0], [(0, ("label", "zoe"), 0)], [])])))]),
     (alike.least_machine, [("machine", M, MACHINE)]),
     (alike.only_of, [("machine", M, MACHINE), ("other", (1, [0], [(0, w2, 0)], [0]), OTHER_MACHINE)]),
     (alike.parting_layers, [("machine", M, MACHINE), ("other", (1, [0], [(0, w2, 0)], [0]), OTHER_MACHINE)]),

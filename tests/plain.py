@@ -90,3 +90,67 @@ def is_kept(machine, rule):
 
 def chances(many):
     return [random.Random(seed) for seed in range(many)]
+
+
+def is_way_through(book, used, layers, behind):
+    """Whether the drops of used rows go through layers from nothing held back to behind."""
+    control = ()
+    if len(used) != len(layers):
+        return False
+    for index, layer in zip(used, layers):
+        c, a, q = book[index][0]
+        if tuple(c) != control or tuple(a) != tuple(layer):
+            return False
+        control = tuple(q)
+    return control == tuple(behind)
+
+
+def is_book(rules, book):
+    """Whether rows of the right form are a book, as [8.3] says."""
+    known = beginnings(rules)
+    for at, ((c, a, q), rule, used) in enumerate(book):
+        c, q = tuple(c), tuple(q)
+        if not all(0 <= index < at for index in used):
+            return False
+        if rule is None:
+            if used or q != c + (a,) or q not in known:
+                return False
+        elif not 0 <= rule < len(rules):
+            return False
+        elif rules[rule][0]:
+            if tuple(rules[rule][0]) != c + (a,) or not is_way_through(book, used, rules[rule][1], q):
+                return False
+        elif c or not is_way_through(book, used, list(rules[rule][1]) + [a], q):
+            return False
+    return True
+
+
+def counts(book):
+    told = []
+    for _, rule, used in book:
+        told.append(0 if rule is None else 1 + sum(told[index] for index in used))
+    return told
+
+
+def bent(thing, others):
+    """Everything that comes of nested lists and tuples if one place is otherwise, away, or twice."""
+    if isinstance(thing, (list, tuple)):
+        kind = thing.__class__
+        for at, part in enumerate(thing):
+            yield kind(list(thing[:at]) + list(thing[at + 1:]))
+            yield kind(list(thing[:at]) + [part] + list(thing[at:]))
+            for other in bent(part, others):
+                yield kind(list(thing[:at]) + [other] + list(thing[at + 1:]))
+        for other in others:
+            yield kind(list(thing) + [other])
+        if len(thing) > 1:
+            yield kind(list(thing[1:]) + list(thing[:1]))
+    else:
+        for other in others:
+            if not (other.__class__ is thing.__class__ and other == thing):
+                yield other
+
+
+def comings(rules, rows, longest, most_moves=8):
+    """All layers that come of rows by few moves, with the fewest."""
+    return nearest(rules, rows, most_moves, longest)

@@ -3,7 +3,7 @@
 import itertools
 
 from roadheld.agents import Post
-from roadheld.protocols import read_protocol
+from roadheld.protocols import Proto, read_protocol
 from roadheld.rules import rules_of
 
 T = Post(["bob", "ann", "eve"], [("seal", "eve"), ("cipher", "eve")])
@@ -93,3 +93,29 @@ def words_up_to(letters, longest):
     for length in range(longest + 1):
         for row in itertools.product(sorted(letters), repeat=length):
             yield list(row)
+
+
+def random_protocol(chance, name, most=3):
+    """A protocol of some steps by chance."""
+    steps = [(0, [], [chance.choice([("cipher", 1), ("label", 0), ("word", 1)]) for _ in range(chance.randint(1, 3))])]
+    for at in range(1, chance.randint(2, most)):
+        part = at % 2
+        takes = [("cipher", part), ("cipher", part), ("label", 0), ("label", 1), ("seal", 0), ("seal", 1), ("word", 1)]
+        puts = [("cipher", 0), ("cipher", 1), ("label", 0), ("label", 1), ("seal", part), ("word", 1)]
+        steps.append((part, [chance.choice(takes) for _ in range(chance.randint(0, 3))],
+                      [chance.choice(puts) for _ in range(chance.randint(0, 3))]))
+    return Proto(name, steps)
+
+
+def random_question(chance):
+    """A post, protocols and messages by chance, about as often bare as safe."""
+    agents = AGENTS[:chance.randint(2, 4)]
+    mine = chance.choice(agents)
+    keys = [("cipher", mine), ("seal", mine)]
+    keys += [key for key in [("cipher", agents[0]), ("seal", agents[1])] if key not in keys and chance.random() < 0.2]
+    post = Post(agents, keys)
+    protocols = [random_protocol(chance, name) for name in ("one", "two")[:chance.randint(0, 2)]]
+    letters = [("cipher", agent) for agent in agents] * 2 + [("label", agents[0]), ("seal", agents[1]), ("word", 1)]
+    messages = [([chance.choice(letters) for _ in range(chance.randint(1, 3))], chance.randint(-1, 1))
+                for _ in range(chance.randint(0, 3))]
+    return (post, protocols, messages)

@@ -117,8 +117,8 @@ class TestWrong(unittest.TestCase):
             with self.assertRaises(ProtocolError) as caught:
                 function(*passed)
             self.assertIs(caught.exception.__class__, kind)
-            if kind.__init__.__code__.co_varnames[1] == "index":
-                self.assertEqual(caught.exception.index, due)
+            if attribute in ("index", "line"):
+                self.assertEqual(getattr(caught.exception, attribute), due)
             else:
                 self.assertIs(getattr(caught.exception, attribute), due)
 

@@ -10,14 +10,14 @@ import unittest
 
 PACKAGE = pathlib.Path(__file__).resolve().parent.parent / "roadheld"
 STATEMENTS = (ast.FunctionDef, ast.ClassDef, ast.Return, ast.Assign, ast.AugAssign, ast.For, ast.While, ast.If,
-              ast.Raise, ast.Expr, ast.Pass, ast.Break, ast.Continue, ast.ImportFrom, ast.Delete)
+              ast.Raise, ast.Expr, ast.Pass, ast.Break, ast.Continue, ast.ImportFrom, ast.Delete, ast.Try)
 BARRED = (ast.Lambda, ast.GeneratorExp, ast.Set, ast.SetComp, ast.Yield, ast.YieldFrom, ast.Await, ast.NamedExpr,
           ast.Starred, ast.JoinedStr, ast.Div, ast.MatMult, ast.Mod, ast.Pow)
 LIBRARY = {"heapq": {"heappush", "heappop"}}
 BUILTINS = {"len", "range", "enumerate", "zip", "min", "max", "sum", "abs", "sorted", "reversed", "int", "str", "bool",
             "list", "tuple", "dict", "isinstance", "any", "all", "divmod", "ValueError"}
-METHODS = set("append clear copy count endswith extend find get index insert items join keys pop remove replace "
-              "setdefault split startswith strip update values bit_length".split())
+METHODS = set("append clear copy count endswith extend find get index insert isalpha isascii isdigit islower items join keys "
+              "pop remove replace setdefault split startswith strip update values bit_length".split())
 OF_VALUES = {name for kind in (str, int, list, dict, set, bytes) for name in dir(kind) if not name.startswith("_")}
 NOWHERE = {"register", "mro", "elements", "open", "input", "law", "version_info", "with_traceback", "add_note"}
 NO_VARIABLES = set("attrgetter breakpoint builtins compile copyright credits delattr dir eval exec exit gc getattr "
@@ -200,6 +200,9 @@ class TestCode(unittest.TestCase):
                             self.assertIsInstance(side, ast.Constant, where)
                 if isinstance(node, (ast.FunctionDef, ast.ClassDef)):
                     self.assertFalse(node.decorator_list, where)
+                if isinstance(node, ast.Try):
+                    self.assertEqual([ast.unparse(handler.type) for handler in node.handlers], ["ProtocolError"], where)
+                    self.assertFalse(node.orelse or node.finalbody or node.handlers[0].name, where)
                 if isinstance(node, ast.Raise):
                     self.assertTrue(isinstance(node.exc, ast.Call) and node.exc.func.id.startswith("Bad"), where)
 

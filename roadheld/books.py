@@ -1,0 +1,47 @@
+"""Books: rows by which anybody sees that drops are there, and by how many deeds."""
+
+from roadheld.bookrows import as_book, as_drop, counts_of, right_book, written
+from roadheld.errors import BadBook, BadDrop
+from roadheld.handed import checked_layers, checked_rules
+from roadheld.solving import Solver
+
+
+def is_book(rules, thing):
+    """Whether any object is a book of rules."""
+    return right_book(checked_rules(rules), thing) is not None
+
+
+def counts(book):
+    """How many deeds each row of a book counts."""
+    plain = as_book(book)
+    if plain is None:
+        raise BadBook(book)
+    return counts_of(plain)
+
+
+def checked_drop(drop):
+    """A triple of a list of layers, a layer, a list of layers, as a plain copy."""
+    plain = as_drop(drop)
+    if plain is None:
+        raise BadDrop(drop)
+    return plain
+
+
+def book_of(rules, drop):
+    """A book whose last row is for a drop, each row counting as few deeds as can be; None if there is no such drop."""
+    plain = checked_rules(rules)
+    asked = checked_drop(drop)
+    solver = Solver(plain)
+    numbers = solver.coded.drop_in_numbers(asked)
+    if numbers is None or numbers not in solver.numbers:
+        return None
+    return written(solver, [numbers])[0]
+
+
+def book_down(rules, layers):
+    """A book, and the indexes of its rows by which layers come down by the fewest deeds; None if they never do."""
+    plain = checked_rules(rules)
+    row = checked_layers(layers)
+    solver = Solver(plain)
+    found = solver.down(row)
+    return None if found is None else written(solver, found[1])

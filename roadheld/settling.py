@@ -1,0 +1,55 @@
+"""Answers of plain rules and messages: which one is due, and whether something is one."""
+
+from roadheld.attacks import nearest
+from roadheld.bookrows import as_indexes, counts_of, go_through, right_book, written
+from roadheld.forms import is_below, is_number, is_row
+from roadheld.growth import grow, machine_of_rows
+from roadheld.papers import judged_plain
+from roadheld.solving import Solver
+from roadheld.walks import as_machine
+
+
+def settled(rules, messages):
+    """The answer to whether one of messages ever comes bare by rules."""
+    rows = [layers for layers, _ in messages]
+    solver = Solver(rules)
+    best = nearest(solver, rows)
+    if best is None:
+        return ("safe", grow(rules, machine_of_rows(rows)))
+    number, index, drops = best
+    book, used = written(solver, drops)
+    return ("bare", index, number, book, used)
+
+
+def as_bare(rules, messages, thing):
+    """An answer of the word bare as a plain copy; None for a list of five that is none."""
+    _, index, number, rest, last = thing
+    if not is_below(index, len(messages)) or not is_number(number):
+        return None
+    book = right_book(rules, rest)
+    used = None if book is None else as_indexes(last, len(book))
+    if used is None or not go_through(book, used, messages[index][0], ()):
+        return None
+    counted = counts_of(book)
+    if number != sum([counted[at] for at in used]):
+        return None
+    return ("bare", index, number, book, used)
+
+
+def as_safe(rules, messages, thing):
+    """An answer of the word safe as a plain copy; None for a list of two that is none."""
+    machine = as_machine(thing[1])
+    if machine is None or judged_plain(rules, messages, machine) is not None:
+        return None
+    return ("safe", machine)
+
+
+def as_answer(rules, messages, thing):
+    """An answer to whether one of messages ever comes bare by rules, as a plain copy; None for any other object."""
+    if not is_row(thing) or len(thing) == 0 or not isinstance(thing[0], str):
+        return None
+    if thing[0] == "bare" and len(thing) == 5:
+        return as_bare(rules, messages, thing)
+    if thing[0] == "safe" and len(thing) == 2:
+        return as_safe(rules, messages, thing)
+    return None
