@@ -5,16 +5,7 @@ from roadheld.forms import is_below, is_number, is_pair, is_row
 from roadheld.handed import checked_most, checked_question
 from roadheld.rules import rules_of
 from roadheld.solving import Solver
-
-
-def nearest(solver, rows):
-    """Of the first one of rows of layers that comes down by the fewest deeds: their number, the index, the drops."""
-    best = None
-    for index, row in enumerate(rows):
-        found = solver.down(row)
-        if found is not None and (best is None or found[0] < best[0]):
-            best = (found[0], index, found[1])
-    return best
+from roadheld.tracing import Traced
 
 
 def asked_rows(post, protocols, messages):
@@ -25,8 +16,7 @@ def asked_rows(post, protocols, messages):
 def fewest(post, protocols, messages):
     """The least number of moves by which one of messages comes bare, and its index; None if none does."""
     rows = asked_rows(post, protocols, messages)
-    best = nearest(Solver(rules_of(post, protocols)), rows)
-    return None if best is None else best[:2]
+    return Solver(rules_of(post, protocols), None, rows).nearest(rows)
 
 
 def attack_of(post, protocols, messages, most):
@@ -34,14 +24,14 @@ def attack_of(post, protocols, messages, most):
     rows = asked_rows(post, protocols, messages)
     checked_most(most)
     rules = rules_of(post, protocols)
-    solver = Solver(rules)
-    best = nearest(solver, rows)
+    traced = Traced(rules, None, rows)
+    best = traced.solver.nearest(rows)
     if best is None:
         return None
-    number, index, drops = best
+    number, index = best
     if number > most:
         return ("long", number)
-    return (index, [rules[rule][2] for rule in solver.moves_of(drops)])
+    return (index, [rules[rule][2] for rule in traced.moves_of(traced.drops_down(rows[index]))])
 
 
 def judged_attack(post, protocols, messages, thing):

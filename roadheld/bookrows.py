@@ -16,6 +16,14 @@ def as_drop(thing):
     return (tuple(control), layer, tuple(behind))
 
 
+def as_drops(thing):
+    """A list of drops, of any layers, as plain copies; None for anything else."""
+    if not is_row(thing):
+        return None
+    drops = [as_drop(drop) for drop in thing]
+    return None if None in drops else drops
+
+
 def as_indexes(thing, many):
     """A list of numbers below many, as a new list; None for anything else."""
     if not is_row(thing) or not all([is_below(index, many) for index in thing]):
@@ -87,21 +95,20 @@ def counts_of(book):
     return told
 
 
-def written(solver, drops):
-    """A book of some drops, in numbers, and of all by which they come; and the indexes of the rows of these drops."""
+def written(traced, drops):
+    """A book of some drops of what was solved, and of all by which they come; and the indexes of their rows."""
     found = {}
     left = list(drops)
     while left:
         drop = left.pop()
         if drop not in found:
-            found[drop] = solver.used(drop)
-            left.extend(found[drop])
+            found[drop] = traced.reason(drop)
+            left.extend(found[drop][1])
     # A drop has a greater number than those by which it comes, so they stand ahead of it.
-    order = sorted([(solver.numbers[drop], drop) for drop in found])
+    order = sorted([(traced.numbers[drop], drop) for drop in found])
     places = {drop: at for at, (_, drop) in enumerate(order)}
     book = []
     for _, drop in order:
-        reason = solver.reasons[drop]
-        rule = None if reason is None else reason[0]
-        book.append((solver.coded.told_drop(drop), rule, [places[other] for other in found[drop]]))
+        rule, used = found[drop]
+        book.append((traced.told_drop(drop), rule, [places[other] for other in used]))
     return (book, [places[drop] for drop in drops])

@@ -3,7 +3,7 @@
 from roadheld.bookrows import as_book, as_drop, counts_of, right_book, written
 from roadheld.errors import BadBook, BadDrop
 from roadheld.handed import checked_layers, checked_rules
-from roadheld.solving import Solver
+from roadheld.tracing import Traced
 
 
 def is_book(rules, thing):
@@ -31,17 +31,14 @@ def book_of(rules, drop):
     """A book whose last row is for a drop, each row counting as few deeds as can be; None if there is no such drop."""
     plain = checked_rules(rules)
     asked = checked_drop(drop)
-    solver = Solver(plain)
-    numbers = solver.coded.drop_in_numbers(asked)
-    if numbers is None or numbers not in solver.numbers:
-        return None
-    return written(solver, [numbers])[0]
+    traced = Traced(plain, None, None)
+    key = traced.drop_of(asked)
+    return written(traced, [key])[0] if key in traced.numbers else None
 
 
 def book_down(rules, layers):
     """A book, and the indexes of its rows by which layers come down by the fewest deeds; None if they never do."""
     plain = checked_rules(rules)
     row = checked_layers(layers)
-    solver = Solver(plain)
-    found = solver.down(row)
-    return None if found is None else written(solver, found[1])
+    traced = Traced(plain, None, [row])
+    return None if traced.solver.number_down(row) is None else written(traced, traced.drops_down(row))

@@ -1,12 +1,12 @@
 """Whether layers ever come of messages: the fewest moves, or a machine by which they never do."""
 
-from roadheld.attacks import nearest
 from roadheld.forms import begins_with, is_below, is_pair, is_row
 from roadheld.growth import grow, machine_of_rows
 from roadheld.handed import checked_layers, checked_messages, checked_most, checked_rules
 from roadheld.machines import checked_machine, machine_takes
 from roadheld.papers import judged_rows
 from roadheld.solving import Solver
+from roadheld.tracing import Traced
 from roadheld.walks import goings_of, led
 
 # What lies beneath all layers; it is no layer, so no rule but the one of asked_rule takes it.
@@ -18,20 +18,19 @@ def asked_rule(layers):
     return (layers + [BOTTOM], [], None)
 
 
-def nearest_to(rules, messages, layers):
-    """The solver of plain rules and the rule that asks, and the nearest of messages, as nearest tells it.
-
-    The layers come of a message by some moves just if it comes bare by these and one more, the rule that asks.
-    """
-    solver = Solver(rules + [asked_rule(layers)])
-    return (solver, nearest(solver, [row + [BOTTOM] for row, _ in messages]))
+def rows_to(messages):
+    """The layers of messages, each with what lies beneath all layers."""
+    return [row + [BOTTOM] for row, _ in messages]
 
 
 def fewest_moves(rules, messages, layers):
-    """The least number of moves by which layers come of the layers of one of messages, None if they never come."""
+    """The least number of moves by which layers come of the layers of one of messages, None if they never come.
+
+    They come of a message just if it comes bare by the same moves and one more, the rule that asks.
+    """
     plain = checked_rules(rules)
-    held = checked_messages(messages, None)
-    _, best = nearest_to(plain, held, checked_layers(layers))
+    rows = rows_to(checked_messages(messages, None))
+    best = Solver(plain + [asked_rule(checked_layers(layers))], None, rows).nearest(rows)
     return None if best is None else best[0] - 1
 
 
@@ -53,14 +52,15 @@ def is_attack_to(rules, messages, layers, thing):
 def attack_to(rules, messages, layers, most):
     """An attack to layers of the least number of moves, None if there is none of at most so many."""
     plain = checked_rules(rules)
-    held = checked_messages(messages, None)
+    rows = rows_to(checked_messages(messages, None))
     asked = checked_layers(layers)
     checked_most(most)
-    solver, best = nearest_to(plain, held, asked)
+    traced = Traced(plain + [asked_rule(asked)], None, rows)
+    best = traced.solver.nearest(rows)
     if best is None or best[0] - 1 > most:
         return None
     # The rule that asks is done last, and once: what lies beneath all layers goes off by it alone.
-    return (best[1], solver.moves_of(best[2])[:-1])
+    return (best[1], traced.moves_of(traced.drops_down(rows[best[1]]))[:-1])
 
 
 def judged_never(rules, messages, layers, machine):

@@ -2,17 +2,16 @@
 
 from roadheld.handed import checked_layers, checked_rules
 from roadheld.solving import Solver
+from roadheld.tracing import Traced
 
 
 def all_drops(rules):
     """The pairs of all drops that there are and their numbers, ascending."""
-    solver = Solver(checked_rules(rules))
-    return [(solver.coded.told_drop(drop), number) for drop, number in solver.all_numbers()]
+    return Traced(checked_rules(rules), None, None).all_drops()
 
 
 def down(rules, layers):
     """The fewest deeds by which layers come down, None if they never do."""
     plain = checked_rules(rules)
     row = checked_layers(layers)
-    found = Solver(plain).down(row)
-    return None if found is None else found[0]
+    return Solver(plain, None, [row]).number_down(row)

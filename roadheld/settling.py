@@ -1,23 +1,22 @@
 """Answers of plain rules and messages: which one is due, and whether something is one."""
 
-from roadheld.attacks import nearest
 from roadheld.bookrows import as_indexes, counts_of, go_through, right_book, written
 from roadheld.forms import is_below, is_number, is_row
 from roadheld.growth import grow, machine_of_rows
 from roadheld.papers import judged_plain
-from roadheld.solving import Solver
+from roadheld.tracing import Traced
 from roadheld.walks import as_machine
 
 
 def settled(rules, messages):
     """The answer to whether one of messages ever comes bare by rules."""
     rows = [layers for layers, _ in messages]
-    solver = Solver(rules)
-    best = nearest(solver, rows)
+    traced = Traced(rules, None, rows)
+    best = traced.solver.nearest(rows)
     if best is None:
         return ("safe", grow(rules, machine_of_rows(rows)))
-    number, index, drops = best
-    book, used = written(solver, drops)
+    number, index = best
+    book, used = written(traced, traced.drops_down(rows[index]))
     return ("bare", index, number, book, used)
 
 
@@ -53,3 +52,12 @@ def as_answer(rules, messages, thing):
     if thing[0] == "safe" and len(thing) == 2:
         return as_safe(rules, messages, thing)
     return None
+
+
+def copied_answer(answer):
+    """A plain answer with lists of its own."""
+    if answer[0] == "safe":
+        many, firsts, rows, ends = answer[1]
+        return ("safe", (many, list(firsts), list(rows), list(ends)))
+    _, index, number, book, used = answer
+    return ("bare", index, number, [(drop, rule, list(indexes)) for drop, rule, indexes in book], list(used))

@@ -1,142 +1,220 @@
-"""The least numbers of all drops of some rules, found from the least ones up, each with how it comes."""
+"""The least numbers of the drops of some rules, found from the least ones up.
+
+Controls and layers have numbers, as they come. What is found stands under keys, which are integers: a drop (c, a, q)
+under c, a and q, one behind another; a line that is come through, from nothing held back to q, under the line and q,
+below 0; further below 0 what is said at FREE and GOAL. A line is a beginning of what some rule puts, or of some row
+that is asked about; a line of one layer has that layer's number. The slot of a drop is what is ahead of q in its key.
+"""
 
 from heapq import heappop, heappush
 
-from roadheld.coded import Coded
-
-# The number of the empty control, which comes first of all.
-EMPTY = 0
+# By how many bits the parts of a key are apart, and the bits of the last part.
+SHIFT = 20
+LAST = 0xFFFFF
+# The heads of what takes no layers: a rule, by which q is held back out of nothing; a row, which is all off where
+# nothing is held back. What comes of them to q has the key that is so much less.
+FREE = -1
+GOAL = -0x40000000
 
 
 class Solver:
-    """All drops (c, a, q) of rules, in numbers, with the fewest deeds of each.
+    """All drops of plain rules, with the least number of each.
 
-    Beside the drops stand the paths (line, q): from nothing held back one comes through what is put, the layers
-    of the line, to q held back. Whatever is settled next has the least number of all that are left, since
-    nothing comes of others with a lesser number than theirs.
+    Each rule counts as weights tell, or 1 where weights is None. Where rows are handed in, all is left as soon as
+    the nearest one of them is known to come down: what has a greater number than it is not looked for then.
+
+    Whatever is settled next has the least number of all that are left, since nothing comes of others with a
+    lesser number than theirs.
     """
 
-    def __init__(self, rules):
-        self.coded = Coded(rules)
+    def __init__(self, rules, weights, rows):
+        self.rules = rules
+        self.weights = weights
+        self.control_numbers = {(): 0}
+        self.layer_numbers = {}
+        self.heads = []
+        # What goes on from lines: by the next layer to longer lines; to heads, by a last layer or at once.
+        self.longer = {}
+        self.ends = {}
+        self.putters = {}
+        self.lines = 1 << SHIFT
+        # What waits for drops of a slot: heads, and longer lines, each with the number so far.
+        self.heads_at = {}
+        self.lines_at = {}
         self.numbers = {}
-        self.reasons = {}
-        self.offered = {}
         self.queue = []
-        self.many = 0
-        self.drops_from = {}
+        self.buckets = {}
         self.drops_of = {}
-        self.waiting = {}
-        # For a control: the least number with which it is held back by a rule that takes nothing, and this rule.
+        self.drops_from = {}
         self.freely = {}
+        self.goal = None
+        self.plant_all(rows)
         self.settle()
 
-    def offer(self, number, item, reason):
-        """Notes that a drop or a path comes with a number, if it is not known to come with less."""
-        if item in self.numbers or item in self.offered and self.offered[item] <= number:
+    def plant_all(self, rows):
+        """Notes what comes of the rules and rows at first."""
+        layers = self.layer_numbers
+        for at, (takes, puts, _) in enumerate(self.rules):
+            if len(takes) == 1:
+                head = layers.setdefault(takes[0], len(layers)) << SHIFT
+            elif takes:
+                head = self.head_of(takes)
+            else:
+                head = FREE
+            self.heads.append(head)
+            self.plant(head, puts, 1 if self.weights is None else self.weights[at])
+        if rows is not None:
+            for row in rows:
+                self.plant(GOAL, row, 0)
+
+    def head_of(self, takes):
+        """The head of a rule that takes layers; its controls are noted."""
+        controls = self.control_numbers
+        layers = self.layer_numbers
+        ahead = 0
+        for length in range(1, len(takes)):
+            control = tuple(takes[:length])
+            layer = layers.setdefault(takes[length - 1], len(layers))
+            if control not in controls:
+                controls[control] = len(controls)
+                self.offer((ahead << SHIFT | layer) << SHIFT | controls[control], 0)
+            ahead = controls[control]
+        return (ahead << SHIFT | layers.setdefault(takes[-1], len(layers))) << SHIFT
+
+    def plant(self, head, puts, weight):
+        """Has a head wait for what is put to go off."""
+        layers = self.layer_numbers
+        if not puts:
+            self.offer(head, weight)
+        elif len(puts) == 1:
+            layer = layers.setdefault(puts[0], len(layers))
+            self.heads_at.setdefault(layer, []).append((head, weight))
+        elif len(puts) == 2:
+            first = layers.setdefault(puts[0], len(layers))
+            layer = layers.setdefault(puts[1], len(layers))
+            self.ends.setdefault(first, []).append((layer, head, weight))
+        else:
+            line = layers.setdefault(puts[0], len(layers))
+            for layer in puts[1:]:
+                line = self.longer_line(line, layers.setdefault(layer, len(layers)))
+            self.putters.setdefault(line, []).append((head, weight))
+
+    def longer_line(self, line, layer):
+        """The line longer by a layer, a new one if there is none yet."""
+        longer = self.longer.setdefault(line, {})
+        if layer not in longer:
+            self.lines += 1
+            longer[layer] = self.lines
+        return longer[layer]
+
+    def offer(self, key, number):
+        """Notes that something comes with a number, if it is not known to come with less."""
+        numbers = self.numbers
+        if key in numbers and numbers[key] <= number:
             return
-        self.offered[item] = number
-        self.many += 1
-        heappush(self.queue, (number, self.many, item, reason))
+        numbers[key] = number
+        if number in self.buckets:
+            self.buckets[number].append(key)
+        else:
+            self.buckets[number] = [key]
+            heappush(self.queue, number)
 
     def settle(self):
-        """Settles all drops and paths."""
-        self.offer(0, (0, EMPTY), None)
-        numbers = self.coded.control_numbers
-        for control in self.coded.controls[1:]:
-            head = self.coded.head_of(control)
-            self.offer(0, (head[0], head[1], numbers[control]), None)
+        """Settles all that comes, or all up to the nearest of rows."""
+        numbers = self.numbers
         while self.queue:
-            number, _, item, reason = heappop(self.queue)
-            if item in self.numbers:
-                continue
-            self.numbers[item] = number
-            self.reasons[item] = reason
-            if len(item) == 2:
-                self.path_settled(item, number)
-            else:
-                self.drop_settled(item, number)
+            number = heappop(self.queue)
+            if self.goal is not None and number > self.goal:
+                return
+            keys = self.buckets.pop(number)
+            for key in keys:
+                if numbers[key] < number:
+                    continue
+                if key >= 0:
+                    self.settle_drop(key >> SHIFT, key & LAST, number)
+                elif key < GOAL - LAST:
+                    self.settle_line(-key >> SHIFT, -key & LAST, number)
+                elif key > GOAL:
+                    self.settle_freely(FREE - key, number)
+                elif key == GOAL:
+                    self.goal = number
 
-    def path_settled(self, path, number):
-        """Offers what comes of a path, with the drops that are settled."""
-        line, control = path
-        for rule in self.coded.putters[line]:
-            head = self.coded.heads[rule]
-            if head is not None:
-                self.offer(number + 1, (head[0], head[1], control), (rule, control))
-            elif control not in self.freely:
-                self.freely[control] = (number + 1, rule)
-                for layer, behind, more in self.drops_from.get(control, []):
-                    self.offer(number + 1 + more, (EMPTY, layer, behind), (rule, control))
-        for layer, longer in self.coded.longer[line].items():
-            self.waiting.setdefault((control, layer), []).append((longer, number))
-            for behind, more in self.drops_of.get((control, layer), []):
-                self.offer(number + more, (longer, behind), control)
+    def settle_drop(self, slot, behind, number):
+        """Offers what comes of a drop."""
+        self.drops_of.setdefault(slot, []).append((behind, number))
+        if slot in self.heads_at:
+            self.done(self.heads_at[slot], behind, number)
+        if slot in self.lines_at:
+            for line, more in self.lines_at[slot]:
+                self.offer(-(line << SHIFT | behind), number + more)
+        if slot > LAST:
+            control = slot >> SHIFT
+            drop = (slot & LAST) << SHIFT | behind
+            self.drops_from.setdefault(control, []).append((drop, number))
+            if control in self.freely:
+                self.offer(drop, number + self.freely[control])
+        elif slot in self.ends or slot in self.longer:
+            self.settle_line(slot, behind, number)
 
-    def drop_settled(self, drop, number):
-        """Offers what comes of a drop, with the paths that are settled."""
-        control, layer, behind = drop
-        self.drops_from.setdefault(control, []).append((layer, behind, number))
-        self.drops_of.setdefault((control, layer), []).append((behind, number))
-        for longer, ahead in self.waiting.get((control, layer), []):
-            self.offer(ahead + number, (longer, behind), control)
-        if control in self.freely:
-            ahead, rule = self.freely[control]
-            self.offer(ahead + number, (EMPTY, layer, behind), (rule, control))
+    def done(self, heads, control, number):
+        """Offers what comes of heads of which all layers are off, so that a control is held back."""
+        numbers = self.numbers
+        buckets = self.buckets
+        for head, more in heads:
+            key = head | control if head >= 0 else head - control
+            more += number
+            if key not in numbers or more < numbers[key]:
+                numbers[key] = more
+                if more in buckets:
+                    buckets[more].append(key)
+                else:
+                    buckets[more] = [key]
+                    heappush(self.queue, more)
 
-    def all_numbers(self):
-        """The pairs of all drops, in numbers, and their least numbers, ascending."""
-        return sorted([(item, number) for item, number in self.numbers.items() if len(item) == 3])
+    def settle_line(self, line, control, number):
+        """Offers what comes of a line that is come through to a control."""
+        if line in self.putters:
+            self.done(self.putters[line], control, number)
+        slots = control << SHIFT
+        for layer, head, weight in self.ends.get(line, ()):
+            slot = slots | layer
+            self.heads_at.setdefault(slot, []).append((head, number + weight))
+            for behind, more in self.drops_of.get(slot, ()):
+                self.offer(head | behind if head >= 0 else head - behind, number + weight + more)
+        if line in self.longer:
+            for layer, longer in self.longer[line].items():
+                slot = slots | layer
+                self.lines_at.setdefault(slot, []).append((longer, number))
+                for behind, more in self.drops_of.get(slot, ()):
+                    self.offer(-(longer << SHIFT | behind), number + more)
 
-    def used(self, drop):
-        """The drops, in order, by which a drop comes; none where it comes by no rule."""
-        if self.reasons[drop] is None:
-            return []
-        rule, control = self.reasons[drop]
-        line = self.coded.lines[rule]
-        drops = []
-        if self.coded.heads[rule] is None:
-            drops.append((control, drop[1], drop[2]))
-        while line != 0:
-            ahead = self.reasons[(line, control)]
-            drops.append((ahead, self.coded.lasts[line], control))
-            line = self.coded.shorter[line]
-            control = ahead
-        return drops[::-1]
+    def settle_freely(self, control, number):
+        """Offers what comes of a rule that takes nothing and has a control held back."""
+        if control:
+            self.freely[control] = number
+            for drop, more in self.drops_from.get(control, ()):
+                self.offer(drop, number + more)
 
-    def moves_of(self, drops):
-        """The rules that are done, one behind another, by some drops."""
-        moves = []
-        left = drops[::-1]
-        while left:
-            drop = left.pop()
-            if self.reasons[drop] is not None:
-                moves.append(self.reasons[drop][0])
-            left.extend(self.used(drop)[::-1])
-        return moves
+    def number_down(self, layers):
+        """The least number with which layers come down, None if they do not."""
+        ways = {0: 0}
+        for layer in layers:
+            number = self.layer_numbers.get(layer)
+            if number is None:
+                return None
+            further = {}
+            for control, ahead in ways.items():
+                for behind, more in self.drops_of.get(control << SHIFT | number, ()):
+                    if behind not in further or ahead + more < further[behind]:
+                        further[behind] = ahead + more
+            ways = further
+        return ways.get(0)
 
-    def ways_on(self, ways, layer):
-        """The least numbers with which controls are held back behind one more layer, each with its drop."""
-        further = {}
-        for control in ways:
-            for behind, more in self.drops_of.get((control, layer), []):
-                number = ways[control][0] + more
-                if behind not in further or number < further[behind][0]:
-                    further[behind] = (number, (control, layer, behind))
-        return further
-
-    def down(self, layers):
-        """The least number with which layers come down, and the drops through them; None if they never do."""
-        row = self.coded.numbered(layers)
-        if row is None:
-            return None
-        stages = [{EMPTY: (0, None)}]
-        for layer in row:
-            stages.append(self.ways_on(stages[-1], layer))
-        if EMPTY not in stages[-1]:
-            return None
-        drops = []
-        control = EMPTY
-        for stage in stages[:0:-1]:
-            drops.append(stage[control][1])
-            control = drops[-1][0]
-        return (stages[-1][EMPTY][0], drops[::-1])
+    def nearest(self, rows):
+        """The least number with which one of rows comes down, and its index; None if none does."""
+        best = None
+        for index, row in enumerate(rows):
+            number = self.number_down(row)
+            if number is not None and (best is None or number < best[0]):
+                best = (number, index)
+        return best

@@ -1,8 +1,8 @@
 """For each function its right arguments by their names, and for each of these wrong ones and the error that is due."""
 
-from roadheld import agents, alike, answers, asking, attacks, audits, books, comings, drops, exchange, growing, ledover
-from roadheld import machines, messages, papers, papertexts, posts, protocols, rules
-from roadheld import errors, refusals
+from roadheld import agents, alike, answers, asking, attacks, audits, books, charts, closedlists, comings, costs, desks, drops
+from roadheld import exchange, growing, keylots, ledover, machines, meetings, messages, papers, papertexts, posts, protocols
+from roadheld import errors, refusals, rules, wordsapart
 from roadheld.agents import Post
 from roadheld.protocols import Proto
 from tests.samples import G, H, L, M, P, T, WEAK_RULES, Alike, Odd, r, strong, things, w1, w2, w3, weak
@@ -67,6 +67,19 @@ NO_QUESTIONS = [(T, [G]), (T, [G], HELD, 0), (G, [G], HELD), (T, G, HELD), (T, [
 PAPER = (2, [0], [(0, ("cipher", "bob"), 1), (0, ("label", "eve"), 0), (0, w1, 0)], [1])
 
 
+KEYS = [("seal", "bob"), ("cipher", "bob"), ("cipher", "ann")]
+NO_ASKED_KEYS = [("cipher", "ann"), [("cipher", "ann")] * 2, [("cipher", "eve")], [("cipher", "zoe")], [("label", "ann")], [w1],
+                 [("cipher", "ann"), None], {("cipher", "ann"): 1}, "ab"]
+NO_PLAIN_KEYS = ["abc", ["a", "a"], ["a", ("b",)], [("a",), "b"], [1], [("a", 1)], [["a"], ("a",)], {"a": 1}, [("a", ("b",))], ["a", True]]
+CHART = charts.chart(T, [G], FIRST, KEYS)
+DESK = desks.Desk(T, [G], FIRST)
+DESK.edit(("hire", "cid"))
+
+
+def ask_two(row):
+    return len(row) > 1
+
+
 def kept(wrong):
     """Wrong arguments of which the error keeps the very object."""
     return [(thing, thing) for thing in list(wrong) + things()]
@@ -101,6 +114,17 @@ ATTACKS = (refusals.BadAttack, "attack", kept(NO_ATTACKS))
 ASKED = (refusals.BadAsked, "asked", kept(NO_MACHINES))
 KEPT = (refusals.BadKept, "kept", kept(["ann", ["ann", "ann"], ["zoe"], {"ann": 1}] + [["bob", name] for name in NO_AGENTS]))
 ADVERSARY = (refusals.BadAdversary, "adversary", kept(["ann", "bob", "zoe", ["eve"]] + NO_AGENTS))
+ASKED_KEYS = (errors.BadKeys, "keyring", kept(NO_ASKED_KEYS))
+# Lists of one text, or of one empty list, are keys.
+PLAIN_KEYS = (errors.BadKeys, "keyring", [(thing, told) for thing, told in kept(NO_PLAIN_KEYS) if not (
+    isinstance(thing, list) and len(thing) == 1 and (isinstance(thing[0], str) or isinstance(thing[0], (list, tuple)) and not thing[0]))])
+# A list of one empty list is one of a lot.
+LOTS = (refusals.BadLots, "lots", [(thing, told) for thing, told in kept(
+    ["ab", [("b",)], [["b", "b"]], [[("b",), ("b",)]], [[("z",)]], [[("b",), None]], {0: 1}, [["b"]]]) if not (
+        isinstance(thing, list) and len(thing) == 1 and isinstance(thing[0], (list, tuple)) and not thing[0])])
+COUNTED = (refusals.BadCounted, "counted", kept([[2], [-1], [0, 0], [True], [0, None], 0, "0", {0: 1}, [0.0], [10 ** 3000]]))
+UNPARTED = (refusals.BadAttack, "attack", kept([(0,), (0, [], 0), (-1, []), (0, None), (0, [("put", ("word", 10))]), (0, [("own", 1)]),
+                                                (0, [("answer", "G", "ann", "bob", 1)])]))
 NO_TEXT = [(b"states 1", 0), ("states 0", 0), (["states 1", "firsts", "ends"], 0)]
 POST_LAYER = (errors.BadLayer, "layer", kept(WRONG_LAYERS + [("cipher", "zoe"), ("seal", "zoe"), ("label", "zoe")]))
 ANY = None
@@ -200,6 +224,35 @@ CALLS = [
     (ledover.paper_over, [("post", T, POST), ("kept", ["bob"], KEPT), ("adversary", "eve", ADVERSARY),
                           ("paper", PAPER, (refusals.BadPaper, "paper", kept(NO_MACHINES + [
                               (1, [0], [(0, ("seal", "ann"), 0)], []), (1, [0], [(0, ("label", "zoe"), 0)], [])])))]),
+    (closedlists.lacking, [("rules", r, RULES), ("drops", [((), w3, ())], (errors.BadDrops, "drops", kept(
+        [((), w1, ()), "abc", {0: 1}] + [[((), w1, ()), drop] for drop in NO_DROPS])))]),
+    (closedlists.is_closed, [("rules", r, RULES), ("thing", [((), w2, ())], ANY)]),
+    (closedlists.shown, [("rules", r, RULES), ("drop", ((), w2, ()), (errors.BadDrop, "drop", kept(NO_DROPS)))]),
+    (closedlists.shown, [("rules", r, RULES), ("drop", ((), w1, ()), (errors.BadDrop, "drop", kept(NO_DROPS)))]),
+    (keylots.with_keys, [("post", T, POST), ("lot", KEYS[:2], (refusals.BadLot, "lot", kept(NO_ASKED_KEYS)))]),
+    (keylots.least_breaking, [("post", T, POST), ("protocols", [G], PROTOCOLS), ("messages", FIRST, POST_MESSAGES), ("keys", KEYS, ASKED_KEYS)]),
+    (keylots.least_breaking, [("post", T, POST), ("protocols", [], PROTOCOLS), ("messages", FIRST, POST_MESSAGES), ("keys", KEYS, ASKED_KEYS)]),
+    (keylots.greatest_standing, [("post", T, POST), ("protocols", [], PROTOCOLS), ("messages", FIRST, POST_MESSAGES), ("keys", KEYS, ASKED_KEYS)]),
+    (keylots.cheapest, [("post", T, POST), ("protocols", [], PROTOCOLS), ("messages", FIRST, POST_MESSAGES), ("keys", KEYS, ASKED_KEYS),
+                        ("prices", [3, 2, 1], (refusals.BadPrices, "prices", kept(["321", [1, 2], [1, 2, 3, 4], [1, 2, True], [1, 2, -3], {1: 2}])))]),
+    (keylots.turns, [("post", T, POST), ("protocols", [], PROTOCOLS), ("messages", FIRST, POST_MESSAGES), ("keys", KEYS, ASKED_KEYS)]),
+    (keylots.used_keys, [("post", T, POST), ("protocols", [G], PROTOCOLS), ("messages", FIRST, POST_MESSAGES), ("attack", ATTACK, ATTACKS)]),
+    (charts.chart, [("post", T, POST), ("protocols", [], PROTOCOLS), ("messages", FIRST, POST_MESSAGES), ("keys", KEYS, ASKED_KEYS)]),
+    (charts.judged_chart, [("post", T, POST), ("protocols", [G], PROTOCOLS), ("messages", FIRST, POST_MESSAGES), ("keys", KEYS, ASKED_KEYS),
+                           ("thing", CHART, ANY)]),
+    (charts.judged_chart, [("post", T, POST), ("protocols", [G], PROTOCOLS), ("messages", FIRST, POST_MESSAGES), ("keys", KEYS, ASKED_KEYS),
+                           ("thing", ([], []), ANY)]),
+    (meetings.meeting, [("keys", [("b",), ("a", "c")], PLAIN_KEYS), ("lots", [[("a", "c"), ("b",)]], LOTS)]),
+    (meetings.charted, [("ask", ask_two, ANY), ("keys", [("b",), ("a", "c"), ("d", "e")], PLAIN_KEYS)]),
+    (costs.cost, [("rules", r, RULES), ("counted", [1], COUNTED), ("layers", [w2, w2], LAYERS)]),
+    (costs.costs, [("rules", r, RULES), ("counted", [1], COUNTED), ("book", BOOK[:1], (errors.BadBook, "book", kept(
+        NO_BOOKS + [BOOK, [(((), w2, ()), 2, [])], [(((), w3, ()), 1, [])]])))]),
+    (costs.cheap_book, [("rules", r, RULES), ("counted", [1], COUNTED), ("layers", [w2, w2], LAYERS)]),
+    (wordsapart.parted, [("protocols", [G, weak], PROTOCOLS)]),
+    (wordsapart.attack_unparted, [("protocols", [G, weak], PROTOCOLS), ("attack", ATTACK, UNPARTED)]),
+    (wordsapart.paper_parted, [("protocols", [G, weak], PROTOCOLS), ("paper", M, (refusals.BadPaper, "paper", kept(NO_MACHINES)))]),
+    (desks.Desk, [("post", T, POST), ("protocols", [G], PROTOCOLS), ("messages", FIRST, POST_MESSAGES)]),
+    (desks.read_desk, [("text", DESK.text(), (refusals.BadDesk, "line", first_of([(TEXT.encode(), 0), (["agents"], 0)])))]),
     (alike.least_machine, [("machine", M, MACHINE)]),
     (alike.only_of, [("machine", M, MACHINE), ("other", (1, [0], [(0, w2, 0)], [0]), OTHER_MACHINE)]),
     (alike.parting_layers, [("machine", M, MACHINE), ("other", (1, [0], [(0, w2, 0)], [0]), OTHER_MACHINE)]),

@@ -4,6 +4,7 @@ import copy
 import unittest
 
 from roadheld.agents import Post
+from roadheld.desks import Desk
 from roadheld.errors import ProtocolError
 from roadheld.protocols import Proto, read_protocol
 from tests.calls import CALLS
@@ -38,7 +39,7 @@ class TestRight(unittest.TestCase):
     def test_told_belongs_to_the_caller(self):
         for function, parameters in CALLS:
             told = function(*right(parameters))
-            if isinstance(told, (Post, Proto)):
+            if isinstance(told, (Desk, Post, Proto)):
                 continue
             kept = copy.deepcopy(told)
             emptied(told)
@@ -68,7 +69,7 @@ class TestRight(unittest.TestCase):
         for function, parameters in CALLS:
             passed = [listed(good) for good in right(parameters)]
             told = function(*passed)
-            if isinstance(told, (Post, Proto)):
+            if isinstance(told, (Desk, Post, Proto)):
                 continue
             kept = copy.deepcopy(told)
             for thing in passed:

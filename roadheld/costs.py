@@ -1,0 +1,68 @@
+"""Costs: how many deeds by counted rules layers need to come down, and how many deeds in all with so few."""
+
+from roadheld.bookrows import as_indexes, right_book, written
+from roadheld.errors import BadBook
+from roadheld.forms import are_unlike
+from roadheld.handed import checked_layers, checked_rules
+from roadheld.refusals import BadCounted
+from roadheld.tracing import Traced
+
+# By how many bits costs stand above deeds in numbers at first.
+SCALE = 64
+
+
+def checked_counted(counted, many):
+    """A list of unlike indexes of many rules, as keys of a dict."""
+    indexes = as_indexes(counted, many)
+    if indexes is None or not are_unlike(indexes):
+        raise BadCounted(counted)
+    return {index: True for index in indexes}
+
+
+def weighed(rules, marked, layers):
+    """What is solved with numbers in which costs stand above deeds, and by how many bits.
+
+    As long as the deeds of all that is settled are so few that those of a whole row of drops have room, numbers
+    compare as pairs do. If they are not, it is done again with more room.
+    """
+    scale = SCALE
+    while True:
+        weights = [1 << scale | 1 if rule in marked else 1 for rule in range(len(rules))]
+        traced = Traced(rules, weights, [layers])
+        deeds = (1 << scale) - 1
+        most = deeds // (len(layers) + 3)
+        if all([number & deeds < most for number in traced.numbers.values()]):
+            return (traced, scale)
+        scale *= 2
+
+
+def cost(rules, counted, layers):
+    """The least cost with which layers come down, and the fewest deeds with this cost; None if they never do."""
+    plain = checked_rules(rules)
+    marked = checked_counted(counted, len(plain))
+    row = checked_layers(layers)
+    traced, scale = weighed(plain, marked, row)
+    number = traced.solver.number_down(row)
+    return None if number is None else (number >> scale, number & (1 << scale) - 1)
+
+
+def costs(rules, counted, book):
+    """The cost of each row of a book of the rules."""
+    plain = checked_rules(rules)
+    marked = checked_counted(counted, len(plain))
+    rows = right_book(plain, book)
+    if rows is None:
+        raise BadBook(book)
+    told = []
+    for _, rule, used in rows:
+        told.append((1 if rule in marked else 0) + sum([told[index] for index in used]))
+    return told
+
+
+def cheap_book(rules, counted, layers):
+    """A book, and the indexes of its rows by which layers come down with the least cost; None if they never do."""
+    plain = checked_rules(rules)
+    marked = checked_counted(counted, len(plain))
+    row = checked_layers(layers)
+    traced, _ = weighed(plain, marked, row)
+    return None if traced.solver.number_down(row) is None else written(traced, traced.drops_down(row))

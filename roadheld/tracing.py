@@ -1,0 +1,156 @@
+"""What was solved, told: the drops, how they come, and how layers come down by them."""
+
+from roadheld.solving import FREE, LAST, SHIFT, Solver
+
+
+def places_of(things):
+    """For each of things, by its number, its place among all, ascending."""
+    order = {thing: at for at, thing in enumerate(sorted(things))}
+    return [order[thing] for thing in things]
+
+
+class Traced:
+    """All drops of plain rules, solved as Solver tells, and how they come.
+
+    How a drop comes is read off the numbers when it is asked for: from its end to its begin, at each layer some
+    control from which the numbers come together to what they are.
+    """
+
+    def __init__(self, rules, weights, rows):
+        solver = Solver(rules, weights, rows)
+        self.rules = rules
+        self.weights = weights
+        self.solver = solver
+        self.numbers = solver.numbers
+        self.control_numbers = solver.control_numbers
+        self.layer_numbers = solver.layer_numbers
+        self.controls = list(solver.control_numbers)
+        self.layers = list(solver.layer_numbers)
+        self.rules_at = {}
+        for rule, head in enumerate(solver.heads):
+            self.rules_at.setdefault(head, []).append(rule)
+        self.reasons = {}
+
+    def told_drop(self, drop):
+        """A drop as it is told."""
+        return (self.controls[drop >> SHIFT + SHIFT], self.layers[drop >> SHIFT & LAST], self.controls[drop & LAST])
+
+    def drop_of(self, told):
+        """The key of a drop that is told; None if its controls or its layer are none of the rules."""
+        control, layer, behind = told
+        controls = self.control_numbers
+        if control not in controls or behind not in controls or layer not in self.layer_numbers:
+            return None
+        return (controls[control] << SHIFT | self.layer_numbers[layer]) << SHIFT | controls[behind]
+
+    def all_drops(self):
+        """The pairs of all drops, as they are told, and their numbers, ascending."""
+        controls = places_of(self.controls)
+        layers = places_of(self.layers)
+        found = []
+        for drop, number in self.numbers.items():
+            if drop >= 0:
+                place = (controls[drop >> SHIFT + SHIFT] << SHIFT | layers[drop >> SHIFT & LAST]) << SHIFT
+                found.append((place | controls[drop & LAST], drop, number))
+        return [(self.told_drop(drop), number) for _, drop, number in sorted(found)]
+
+    def lines_of(self, row):
+        """The lines of a row of numbers that a rule puts: that of its first layer, and so on, without the whole row."""
+        lines = row[:1]
+        for layer in row[1:-1]:
+            lines.append(self.solver.longer[lines[-1]][layer])
+        return lines
+
+    def number_through(self, line, control):
+        """The number with which a line is come through to a control, None if it is not."""
+        return self.numbers.get(line << SHIFT | control if line <= LAST else -(line << SHIFT | control))
+
+    def step_back(self, line, layer, control, total):
+        """The drop of a layer to a control, behind a line, with which the numbers come to total; None if none does."""
+        for ahead in range(len(self.controls)):
+            drop = (ahead << SHIFT | layer) << SHIFT | control
+            if drop in self.numbers:
+                number = self.number_through(line, ahead)
+                if number is not None and number + self.numbers[drop] == total:
+                    return drop
+        return None
+
+    def drops_through(self, layers, control, total):
+        """Drops, of this number together, through what a rule puts to a control; None if there are none."""
+        if not layers:
+            return [] if control == 0 and total == 0 else None
+        row = [self.layer_numbers[layer] for layer in layers]
+        lines = self.lines_of(row)
+        drops = []
+        for at in range(len(row) - 1, 0, -1):
+            drop = self.step_back(lines[at - 1], row[at], control, total)
+            if drop is None:
+                return None
+            drops.append(drop)
+            control = drop >> SHIFT + SHIFT
+            total -= self.numbers[drop]
+        first = row[0] << SHIFT | control
+        return [first] + drops[::-1] if first in self.numbers and self.numbers[first] == total else None
+
+    def done_by(self, head, control, number):
+        """A rule with a head, and the drops through what it puts to a control, of this number together; or None."""
+        for rule in self.rules_at.get(head, []):
+            weight = 1 if self.weights is None else self.weights[rule]
+            drops = self.drops_through(self.rules[rule][1], control, number - weight)
+            if drops is not None:
+                return (rule, drops)
+        return None
+
+    def find_reason(self, drop):
+        """The rule by which a drop comes, None where it is read, and the drops that it uses."""
+        number = self.numbers[drop]
+        if number == 0:
+            return (None, [])
+        behind = drop & LAST
+        found = self.done_by(drop - behind, behind, number)
+        if found is not None:
+            return found
+        # Only a drop with nothing held back comes by a rule that takes nothing: its slot is its layer.
+        control = 1
+        while True:
+            last = control << SHIFT + SHIFT | drop
+            if last in self.numbers and self.numbers.get(FREE - control) == number - self.numbers[last]:
+                rule, drops = self.done_by(FREE, control, number - self.numbers[last])
+                return (rule, drops + [last])
+            control += 1
+
+    def reason(self, drop):
+        """The rule by which a drop comes, None where it is read, and the drops that it uses, looked for once."""
+        if drop not in self.reasons:
+            self.reasons[drop] = self.find_reason(drop)
+        return self.reasons[drop]
+
+    def moves_of(self, drops):
+        """The rules that are done, one behind another, by some drops."""
+        moves = []
+        left = drops[::-1]
+        while left:
+            rule, used = self.reason(left.pop())
+            if rule is not None:
+                moves.append(rule)
+            left.extend(used[::-1])
+        return moves
+
+    def drops_down(self, layers):
+        """The drops of the least number together by which layers come down; they do."""
+        stages = [{0: (0, None)}]
+        for layer in layers:
+            number = self.layer_numbers[layer]
+            further = {}
+            for control, (ahead, _) in stages[-1].items():
+                slot = control << SHIFT | number
+                for behind, more in self.solver.drops_of.get(slot, ()):
+                    if behind not in further or ahead + more < further[behind][0]:
+                        further[behind] = (ahead + more, slot << SHIFT | behind)
+            stages.append(further)
+        drops = []
+        control = 0
+        for stage in stages[:0:-1]:
+            drops.append(stage[control][1])
+            control = drops[-1] >> SHIFT + SHIFT
+        return drops[::-1]
