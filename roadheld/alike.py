@@ -1,6 +1,6 @@
 """Whether machines take the same, whether rules hold the same, and by what they are parted."""
 
-from roadheld.forms import as_messages, as_rules, is_number, wrong_rule
+from roadheld.forms import as_messages, is_number, rules_in
 from roadheld.growth import grow, machine_of_rows
 from roadheld.handed import checked_messages, checked_rules
 from roadheld.leasts import least
@@ -53,12 +53,12 @@ def rules_parted(rules, messages, others, besides):
     """The shortest, then first ascending, layers that come by just one of two lots of rules; None if there are none."""
     plain = checked_rules(rules)
     held = checked_messages(messages, None)
-    wrong = wrong_rule(others)
+    other_rules, wrong = rules_in(others)
     if wrong is not None:
         raise BadOthers(wrong)
     its = as_messages(besides, None)
     if its is None:
         raise BadBesides(besides)
     mine = grow(plain, machine_of_rows([layers for layers, _ in held]))
-    other = grow(as_rules(others), machine_of_rows([layers for layers, _ in its]))
+    other = grow(other_rules, machine_of_rows([layers for layers, _ in its]))
     return parting(least(mine), least(other), False)

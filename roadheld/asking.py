@@ -55,7 +55,7 @@ def judged_pairs(machine, asked, thing):
         if pair not in listed:
             return ("first", pair)
     for pair in plain:
-        for layer, others in pairs.goings(pair):
+        for layer, others in pairs.ways_from(pair):
             for other in others:
                 if other not in listed:
                     return ("row", pair, layer, other)

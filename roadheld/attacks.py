@@ -3,7 +3,7 @@
 from roadheld.deeds import all_steps, move_done
 from roadheld.forms import is_below, is_number, is_pair, is_row
 from roadheld.handed import checked_most, checked_question
-from roadheld.rules import rules_of
+from roadheld.rules import rules_needed
 from roadheld.solving import Solver
 from roadheld.tracing import Traced
 
@@ -16,14 +16,14 @@ def asked_rows(post, protocols, messages):
 def fewest(post, protocols, messages):
     """The least number of moves by which one of messages comes bare, and its index; None if none does."""
     rows = asked_rows(post, protocols, messages)
-    return Solver(rules_of(post, protocols), None, rows).nearest(rows)
+    return Solver(rules_needed(post, protocols, rows), None, rows).nearest(rows)
 
 
 def attack_of(post, protocols, messages, most):
     """An attack of the fewest moves, or how many there are if they are more than most; None if there is none."""
     rows = asked_rows(post, protocols, messages)
     checked_most(most)
-    rules = rules_of(post, protocols)
+    rules = rules_needed(post, protocols, rows)
     traced = Traced(rules, None, rows)
     best = traced.solver.nearest(rows)
     if best is None:

@@ -41,4 +41,4 @@ def book_down(rules, layers):
     plain = checked_rules(rules)
     row = checked_layers(layers)
     traced = Traced(plain, None, [row])
-    return None if traced.solver.number_down(row) is None else written(traced, traced.drops_down(row))
+    return None if traced.solver.least_number() is None else written(traced, traced.drops_down(row))

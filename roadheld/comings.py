@@ -30,8 +30,8 @@ def fewest_moves(rules, messages, layers):
     """
     plain = checked_rules(rules)
     rows = rows_to(checked_messages(messages, None))
-    best = Solver(plain + [asked_rule(checked_layers(layers))], None, rows).nearest(rows)
-    return None if best is None else best[0] - 1
+    number = Solver(plain + [asked_rule(checked_layers(layers))], None, rows).least_number()
+    return None if number is None else number - 1
 
 
 def is_attack_to(rules, messages, layers, thing):

@@ -42,7 +42,7 @@ def cost(rules, counted, layers):
     marked = checked_counted(counted, len(plain))
     row = checked_layers(layers)
     traced, scale = weighed(plain, marked, row)
-    number = traced.solver.number_down(row)
+    number = traced.solver.least_number()
     return None if number is None else (number >> scale, number & (1 << scale) - 1)
 
 
@@ -65,4 +65,4 @@ def cheap_book(rules, counted, layers):
     marked = checked_counted(counted, len(plain))
     row = checked_layers(layers)
     traced, _ = weighed(plain, marked, row)
-    return None if traced.solver.number_down(row) is None else written(traced, traced.drops_down(row))
+    return None if traced.solver.least_number() is None else written(traced, traced.drops_down(row))

@@ -9,7 +9,7 @@ MOVES = ("put", "take", "answer")
 
 def all_steps(protocols):
     """The steps of protocols by their names."""
-    return {protocol.name(): protocol.steps() for protocol in protocols}
+    return {protocol.name(): protocol.plain_steps() for protocol in protocols}
 
 
 def is_deed(thing):

@@ -14,4 +14,4 @@ def down(rules, layers):
     """The fewest deeds by which layers come down, None if they never do."""
     plain = checked_rules(rules)
     row = checked_layers(layers)
-    return Solver(plain, None, [row]).number_down(row)
+    return Solver(plain, None, [row]).least_number()

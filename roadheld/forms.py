@@ -3,10 +3,13 @@
 Nothing is compared before its class is known, so that no object, whatever it is, can bring about an error.
 """
 
-RESERVED = ("cipher", "seal", "label", "word", "nothing", "takes", "puts", "protocol")
+RESERVED = {"cipher": True, "seal": True, "label": True, "word": True, "nothing": True, "takes": True, "puts": True,
+            "protocol": True}
 LONGEST_AGENT = 8
 OWNED = ("cipher", "seal", "label")
 KEYS = ("cipher", "seal")
+# How many words there are.
+WORDS = 10
 
 
 def is_row(thing):
@@ -36,11 +39,9 @@ def is_below(thing, many):
 
 def is_agent(thing):
     """Whether a thing is an agent's text."""
-    if not isinstance(thing, str) or not 1 <= len(thing) <= LONGEST_AGENT:
+    if not isinstance(thing, str) or not thing.islower() or not thing.isalpha() or not thing.isascii():
         return False
-    if not all(["a" <= sign <= "z" for sign in thing]):
-        return False
-    return thing not in RESERVED
+    return len(thing) <= LONGEST_AGENT and thing not in RESERVED
 
 
 def as_agents(thing):
@@ -57,22 +58,47 @@ def are_unlike(things):
 
 def as_layer(thing, agents):
     """A layer as a tuple; of one of agents, or, where agents is None, of any agent."""
-    if not is_pair(thing) or not isinstance(thing[0], str):
+    layers = as_layers((thing,), agents)
+    return None if layers is None else layers[0]
+
+
+def noted(text, known):
+    """Whether a text is an agent; it is noted as a known one if it is."""
+    if not is_agent(text):
+        return False
+    known[text] = True
+    return True
+
+
+def as_known_layers(thing, known, more):
+    """A list of layers of known agents, each as a tuple; where more is True of others, too, which are noted.
+
+    All rules, layers and messages that are handed in come through here, layer by layer, so this is written to be
+    done fast: an agent is looked at sign by sign once.
+    """
+    if not isinstance(thing, (list, tuple)):
         return None
-    kind, whose = thing
-    if kind == "word":
-        return (kind, whose) if is_below(whose, 10) else None
-    if kind not in OWNED or not is_agent(whose):
-        return None
-    return (kind, whose) if agents is None or whose in agents else None
+    layers = []
+    for layer in thing:
+        if not isinstance(layer, tuple) and not isinstance(layer, list) or len(layer) != 2:
+            return None
+        kind, whose = layer
+        if not isinstance(kind, str):
+            return None
+        if kind == "word":
+            if not isinstance(whose, int) or whose is True or whose is False or not 0 <= whose < WORDS:
+                return None
+        elif not isinstance(whose, str) or kind not in OWNED:
+            return None
+        elif whose not in known and not (more and noted(whose, known)):
+            return None
+        layers.append((kind, whose))
+    return layers
 
 
 def as_layers(thing, agents):
-    """A list of layers, each as a tuple."""
-    if not is_row(thing):
-        return None
-    layers = [as_layer(layer, agents) for layer in thing]
-    return None if None in layers else layers
+    """A list of layers, each as a tuple; of agents, or, where agents is None, of any agents."""
+    return as_known_layers(thing, {}, True) if agents is None else as_known_layers(thing, agents, False)
 
 
 def as_keys(thing, agents):
@@ -83,20 +109,34 @@ def as_keys(thing, agents):
     return keys if are_unlike(keys) else None
 
 
+def as_known_message(thing, known, more):
+    """A message, its layers as as_known_layers tells, as a tuple."""
+    if not isinstance(thing, (list, tuple)) or len(thing) != 2:
+        return None
+    layers, core = thing
+    if not isinstance(core, int) or isinstance(core, bool):
+        return None
+    plain = as_known_layers(layers, known, more)
+    return None if plain is None else (plain, core)
+
+
 def as_message(thing, agents):
     """A message, its layers as a list, as a tuple."""
-    if not is_pair(thing) or not is_integer(thing[1]):
-        return None
-    layers = as_layers(thing[0], agents)
-    return None if layers is None else (layers, thing[1])
+    return as_known_message(thing, {}, True) if agents is None else as_known_message(thing, agents, False)
 
 
 def as_messages(thing, agents):
     """A list of messages."""
     if not is_row(thing):
         return None
-    messages = [as_message(message, agents) for message in thing]
-    return None if None in messages else messages
+    known = {} if agents is None else agents
+    messages = []
+    for message in thing:
+        plain = as_known_message(message, known, agents is None)
+        if plain is None:
+            return None
+        messages.append(plain)
+    return messages
 
 
 def is_part(thing):
@@ -104,22 +144,21 @@ def is_part(thing):
     return is_below(thing, 2)
 
 
-def as_part_layer(thing):
-    """A layer of parts, as a tuple."""
-    if not is_pair(thing) or not isinstance(thing[0], str):
-        return None
-    kind, whose = thing
-    if kind == "word":
-        return (kind, whose) if is_below(whose, 10) else None
-    return (kind, whose) if kind in OWNED and is_part(whose) else None
-
-
 def as_part_layers(thing):
     """A list of layers of parts, each as a tuple."""
-    if not is_row(thing):
+    if not isinstance(thing, (list, tuple)):
         return None
-    layers = [as_part_layer(layer) for layer in thing]
-    return None if None in layers else layers
+    layers = []
+    for layer in thing:
+        if not isinstance(layer, (list, tuple)) or len(layer) != 2:
+            return None
+        kind, whose = layer
+        if not isinstance(kind, str) or not isinstance(whose, int) or isinstance(whose, bool):
+            return None
+        if not 0 <= whose < (WORDS if kind == "word" else 2) or kind != "word" and kind not in OWNED:
+            return None
+        layers.append((kind, whose))
+    return layers
 
 
 def as_step(thing):
@@ -136,28 +175,25 @@ def as_step(thing):
     return (part, takes, puts)
 
 
-def as_rule(thing):
-    """A rule as a tuple, its layers as lists, its third part the very object."""
-    if not is_row(thing) or len(thing) != 3:
-        return None
-    takes = as_layers(thing[0], None)
-    puts = as_layers(thing[1], None)
-    return None if takes is None or puts is None else (takes, puts, thing[2])
+def rules_in(thing):
+    """A list of rules, their layers as lists, their third parts the very objects, and None.
 
-
-def wrong_rule(thing):
-    """The index of the first thing of a list that is no rule, 0 for no list; None where all are rules."""
+    None, and the index of the first thing that is no rule, 0 for no list, of anything else.
+    """
     if not is_row(thing):
-        return 0
-    for index, rule in enumerate(thing):
-        if as_rule(rule) is None:
-            return index
-    return None
-
-
-def as_rules(thing):
-    """A list, in which wrong_rule finds nothing wrong, as a list of rules."""
-    return [as_rule(rule) for rule in thing]
+        return (None, 0)
+    rules = []
+    known = {}
+    for rule in thing:
+        if not isinstance(rule, (list, tuple)) or len(rule) != 3:
+            return (None, len(rules))
+        takes, puts, third = rule
+        takes = as_known_layers(takes, known, True)
+        puts = as_known_layers(puts, known, True)
+        if takes is None or puts is None:
+            return (None, len(rules))
+        rules.append((takes, puts, third))
+    return (rules, None)
 
 
 def begins_with(layers, takes):

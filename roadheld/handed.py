@@ -2,7 +2,7 @@
 
 from roadheld.agents import Post
 from roadheld.errors import BadLayers, BadMessages, BadMost, BadPost, BadProtocols, BadRules
-from roadheld.forms import are_unlike, as_layers, as_messages, as_rules, is_number, is_row, wrong_rule
+from roadheld.forms import are_unlike, as_layers, as_messages, is_number, is_row, rules_in
 from roadheld.protocols import Proto
 
 
@@ -63,10 +63,10 @@ def checked_layers(layers):
 
 def checked_rules(rules):
     """Rules over any agents' layers."""
-    wrong = wrong_rule(rules)
+    plain, wrong = rules_in(rules)
     if wrong is not None:
         raise BadRules(wrong)
-    return as_rules(rules)
+    return plain
 
 
 def checked_most(most):

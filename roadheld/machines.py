@@ -1,8 +1,8 @@
 """Machines: what they take, and how they are put together."""
 
 from roadheld.errors import BadLayers, BadMachine, BadOther, BadStates
-from roadheld.forms import are_unlike, as_layers, is_below, is_row
-from roadheld.walks import as_machine, goings_of, led, prune
+from roadheld.forms import as_known_layers
+from roadheld.walks import as_machine, led, led_once, prune
 
 
 def is_machine(thing):
@@ -27,15 +27,28 @@ def checked_pair(machine, other):
     return (plain, its)
 
 
+def as_unlike_states(thing, many):
+    """A list of unlike states below many, as keys of a dict; None for anything else."""
+    if not isinstance(thing, (list, tuple)):
+        return None
+    found = {}
+    for state in thing:
+        if not isinstance(state, int) or isinstance(state, bool) or not 0 <= state < many or state in found:
+            return None
+        found[state] = True
+    return found
+
+
 def states_behind(machine, states, layers):
     """The states to which rows lead from some states along layers, ascending."""
     many, _, rows, _ = checked_machine(machine)
-    if not is_row(states) or not all([is_below(state, many) for state in states]) or not are_unlike(states):
+    begin = as_unlike_states(states, many)
+    if begin is None:
         raise BadStates(states)
-    plain = as_layers(layers, None)
+    plain = as_known_layers(layers, {}, True)
     if plain is None:
         raise BadLayers(layers)
-    return led(goings_of(rows), states, plain)
+    return sorted(led_once(rows, begin, plain))
 
 
 def machine_takes(machine, goings, layers):
@@ -46,11 +59,12 @@ def machine_takes(machine, goings, layers):
 
 def is_taken(machine, layers):
     """Whether a machine takes layers."""
-    plain = checked_machine(machine)
-    row = as_layers(layers, None)
+    _, firsts, rows, ends = checked_machine(machine)
+    row = as_known_layers(layers, {}, True)
     if row is None:
         raise BadLayers(layers)
-    return machine_takes(plain, goings_of(plain[2]), row)
+    reached = led_once(rows, {state: True for state in firsts}, row)
+    return any([state in reached for state in ends])
 
 
 def rows_by_state(rows):

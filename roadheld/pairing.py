@@ -17,7 +17,7 @@ class Pairs:
         """Whether both states of a pair are ends."""
         return pair[0] in self.ends and pair[1] in self.its_ends
 
-    def goings(self, pair):
+    def ways_from(self, pair):
         """The layers, ascending, of which rows go from both states, each with the pairs to which, ascending."""
         mine = self.mine.get(pair[0], {})
         its = self.its.get(pair[1], {})
@@ -33,7 +33,7 @@ class Pairs:
         while levels[-1] and not any([self.is_end(pair) for pair in levels[-1]]):
             level = []
             for pair in levels[-1]:
-                for _, others in self.goings(pair):
+                for _, others in self.ways_from(pair):
                     for other in others:
                         if other not in found:
                             found[other] = True
@@ -48,7 +48,7 @@ class Pairs:
             further = kept[-1]
             kept.append({})
             for pair in level:
-                if any([other in further for _, others in self.goings(pair) for other in others]):
+                if any([other in further for _, others in self.ways_from(pair) for other in others]):
                     kept[-1][pair] = True
         return kept[::-1]
 
@@ -60,7 +60,7 @@ class Pairs:
         for further in kept[1:]:
             ways = {}
             for pair in states:
-                for layer, others in self.goings(pair):
+                for layer, others in self.ways_from(pair):
                     for other in others:
                         if other in further:
                             ways.setdefault(layer, {})[other] = True

@@ -38,18 +38,17 @@ class Proto:
         """The steps, each a part, what it takes and what it puts."""
         return [(part, list(takes), list(puts)) for part, takes, puts in self._steps]
 
+    def plain_steps(self):
+        """The steps, tuples all through, to be read alone."""
+        return self._steps
+
     def __eq__(self, other):
         return isinstance(other, Proto) and self._name == other._name and self._steps == other._steps
 
 
 def deal(layers, zero, one):
     """Plain layers of parts as layers of agents."""
-    row = []
-    for kind, whose in layers:
-        if kind != "word":
-            whose = one if whose == 1 else zero
-        row.append((kind, whose))
-    return row
+    return [(kind, whose if kind == "word" else one if whose else zero) for kind, whose in layers]
 
 
 def dealt(layers, zero, one):
@@ -86,7 +85,7 @@ def step_text(step):
 
 def protocol_text(protocol):
     """The text of a protocol."""
-    steps = [step_text(step) + " ; " for step in checked_protocol(protocol).steps()]
+    steps = [step_text(step) + " ; " for step in checked_protocol(protocol).plain_steps()]
     return "protocol " + protocol.name() + " { " + "".join(steps) + "}"
 
 
@@ -125,7 +124,7 @@ def all_layers(steps):
 
 def words_of(protocol):
     """The numbers of the words of a protocol, ascending."""
-    numbers = {whose: True for kind, whose in all_layers(protocol.steps()) if kind == "word"}
+    numbers = {whose: True for kind, whose in all_layers(protocol.plain_steps()) if kind == "word"}
     return sorted(numbers)
 
 
@@ -150,7 +149,7 @@ def with_words(protocol, words):
     checked_protocol(protocol)
     if not are_words(protocol, words):
         raise BadWords(words)
-    steps = [(part, called(takes, words), called(puts, words)) for part, takes, puts in protocol.steps()]
+    steps = [(part, called(takes, words), called(puts, words)) for part, takes, puts in protocol.plain_steps()]
     return Proto(protocol.name(), steps)
 
 
@@ -160,10 +159,10 @@ def words_apart(protocol, other):
     if not isinstance(other, Proto):
         raise BadOther(other)
     words = {}
-    for mine, its in zip(all_layers(protocol.steps()), all_layers(other.steps())):
+    for mine, its in zip(all_layers(protocol.plain_steps()), all_layers(other.plain_steps())):
         if mine[0] == "word":
             words[mine[1]] = its[1]
     # The words were matched layer by layer, whatever these are: what they make shows whether they are right.
-    if not are_words(protocol, words) or with_words(protocol, words).steps() != other.steps():
+    if not are_words(protocol, words) or with_words(protocol, words).plain_steps() != other.plain_steps():
         return None
     return words

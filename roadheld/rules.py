@@ -18,7 +18,7 @@ def first_messages(post, protocols, agent, partner, core):
         raise BadCore(core)
     messages = []
     for protocol in protocols:
-        _, puts = dealt_step(protocol.steps()[0], agent, partner)
+        _, puts = dealt_step(protocol.plain_steps()[0], agent, partner)
         messages.append((puts, core))
     return messages
 
@@ -29,39 +29,76 @@ def layers_of(agents):
     return owned + [("word", number) for number in range(10)]
 
 
-def rules_of_adversary(post):
-    """The rules of what the adversary may put, and of what it may take."""
-    keys = post.keyring()
-    layers = layers_of(post.agents())
-    puts = [([], [layer], ("put", layer)) for layer in layers if layer[0] != "seal" or layer in keys]
-    takes = [([layer], [], ("take", layer)) for layer in layers if layer[0] != "cipher" or layer in keys]
-    return puts + takes
+def rules_of_adversary(layers, keys):
+    """The rules of what the adversary, having some keys, may put and take of some layers."""
+    rules = [([], [layer], ("put", layer)) for layer in layers if layer[0] != "seal" or layer in keys]
+    rules.extend([([layer], [], ("take", layer)) for layer in layers if layer[0] != "cipher" or layer in keys])
+    return rules
 
 
-def rules_of_protocol(agents, protocol):
-    """The rules of the answers of a protocol."""
-    name = protocol.name()
-    steps = protocol.steps()
+def is_by_adversary(takes, puts, keys):
+    """Whether the adversary, having some keys, may do by one put or take what takes and puts the same."""
+    if len(takes) + len(puts) != 1:
+        return False
+    layer = puts[0] if puts else takes[0]
+    return layer[0] != ("seal" if puts else "cipher") or layer in keys
+
+
+def rules_of_step(pairs, name, number, step):
+    """The rules of a step that agents of some pairs do, each with its partner."""
+    part, takes, puts = step
     rules = []
-    for agent in agents:
-        for partner in agents:
-            if agent == partner:
-                continue
-            for number in range(1, len(steps)):
-                takes, puts = dealt_step(steps[number], agent, partner)
-                rules.append((takes, puts, ("answer", name, agent, partner, number)))
+    for agent, partner in pairs:
+        who = (agent, partner) if part == 0 else (partner, agent)
+        off = [(kind, whose if kind == "word" else who[whose]) for kind, whose in takes]
+        on = [(kind, whose if kind == "word" else who[whose]) for kind, whose in puts]
+        rules.append((off, on, ("answer", name, agent, partner, number)))
+    return rules
+
+
+def rules_of_answers(agents, protocols):
+    """The rules of the answers of protocols, some of which may take and put the same."""
+    pairs = [(agent, partner) for agent in agents for partner in agents if agent != partner]
+    rules = []
+    for protocol in protocols:
+        steps = protocol.plain_steps()
+        lots = [rules_of_step(pairs, protocol.name(), at, steps[at]) for at in range(1, len(steps))]
+        # Pair by pair, and of each pair step by step.
+        for at in range(len(pairs)):
+            rules.extend([lot[at] for lot in lots])
     return rules
 
 
 def rules_of(post, protocols):
     """The rules of all moves; of those that take and put the same the first one."""
-    rules = rules_of_adversary(checked_post(post))
-    for protocol in checked_protocols(protocols):
-        rules.extend(rules_of_protocol(post.agents(), protocol))
-    firsts = {}
-    for takes, puts, move in rules:
-        firsts.setdefault((tuple(takes), tuple(puts)), (takes, puts, move))
-    return list(firsts.values())
+    agents = checked_post(post).agents()
+    keys = post.keyring()
+    rules = rules_of_adversary(layers_of(agents), keys)
+    seen = {}
+    for rule in rules_of_answers(agents, checked_protocols(protocols)):
+        done = (tuple(rule[0]), tuple(rule[1]))
+        if done not in seen and not is_by_adversary(rule[0], rule[1], keys):
+            seen[done] = True
+            rules.append(rule)
+    return rules
+
+
+def rules_needed(post, protocols, rows):
+    """Rules by which rows of layers come down as soon as by all rules, where they come down at all.
+
+    A layer that is in none of the rows, and that no answer takes or puts, is of no use: the adversary has put it on,
+    and has to take it off. So its rules are left out; some of the others may take and put the same.
+    """
+    agents = post.agents()
+    needed = {layer: True for row in rows for layer in row}
+    for protocol in protocols:
+        for _, takes, puts in protocol.plain_steps()[1:]:
+            for layer in takes + puts:
+                if layer[0] == "word":
+                    needed[layer] = True
+                else:
+                    needed.update({(layer[0], agent): True for agent in agents})
+    return rules_of_adversary(list(needed), post.keyring()) + rules_of_answers(agents, protocols)
 
 
 def after(rules, layers, rule):

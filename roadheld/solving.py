@@ -47,22 +47,34 @@ class Solver:
         self.drops_of = {}
         self.drops_from = {}
         self.freely = {}
-        self.goal = None
         self.plant_all(rows)
-        self.settle()
+        self.settle(1)
 
     def plant_all(self, rows):
         """Notes what comes of the rules and rows at first."""
         layers = self.layer_numbers
-        for at, (takes, puts, _) in enumerate(self.rules):
+        heads_at = self.heads_at
+        heads = self.heads
+        weights = self.weights
+        weight = 1
+        for takes, puts, _ in self.rules:
+            if weights is not None:
+                weight = weights[len(heads)]
             if len(takes) == 1:
                 head = layers.setdefault(takes[0], len(layers)) << SHIFT
             elif takes:
                 head = self.head_of(takes)
             else:
                 head = FREE
-            self.heads.append(head)
-            self.plant(head, puts, 1 if self.weights is None else self.weights[at])
+            heads.append(head)
+            if len(puts) == 1:
+                layer = layers.setdefault(puts[0], len(layers))
+                if layer in heads_at:
+                    heads_at[layer].append((head, weight))
+                else:
+                    heads_at[layer] = [(head, weight)]
+            else:
+                self.plant(head, puts, weight)
         if rows is not None:
             for row in rows:
                 self.plant(GOAL, row, 0)
@@ -119,13 +131,14 @@ class Solver:
             self.buckets[number] = [key]
             heappush(self.queue, number)
 
-    def settle(self):
-        """Settles all that comes, or all up to the nearest of rows."""
+    def settle(self, alone):
+        """Settles all that comes, or all up to the nearest of rows: where alone is 1, without what has its number."""
         numbers = self.numbers
         while self.queue:
-            number = heappop(self.queue)
-            if self.goal is not None and number > self.goal:
+            number = self.queue[0]
+            if GOAL in numbers and numbers[GOAL] < number + alone:
                 return
+            heappop(self.queue)
             keys = self.buckets.pop(number)
             for key in keys:
                 if numbers[key] < number:
@@ -136,12 +149,14 @@ class Solver:
                     self.settle_line(-key >> SHIFT, -key & LAST, number)
                 elif key > GOAL:
                     self.settle_freely(FREE - key, number)
-                elif key == GOAL:
-                    self.goal = number
 
     def settle_drop(self, slot, behind, number):
         """Offers what comes of a drop."""
-        self.drops_of.setdefault(slot, []).append((behind, number))
+        drops_of = self.drops_of
+        if slot in drops_of:
+            drops_of[slot].append((behind, number))
+        else:
+            drops_of[slot] = [(behind, number)]
         if slot in self.heads_at:
             self.done(self.heads_at[slot], behind, number)
         if slot in self.lines_at:
@@ -210,11 +225,18 @@ class Solver:
             ways = further
         return ways.get(0)
 
+    def least_number(self):
+        """The least number with which one of the rows that were handed in comes down, None if none does."""
+        return self.numbers.get(GOAL)
+
     def nearest(self, rows):
-        """The least number with which one of rows comes down, and its index; None if none does."""
-        best = None
+        """This number, and the first index of a row of these rows that comes down with it; None if none does."""
+        number = self.least_number()
+        if number is None or len(rows) == 1:
+            return None if number is None else (number, 0)
+        # A row may come down with a drop of that very number.
+        self.settle(0)
         for index, row in enumerate(rows):
-            number = self.number_down(row)
-            if number is not None and (best is None or number < best[0]):
-                best = (number, index)
-        return best
+            if self.number_down(row) == number:
+                return (number, index)
+        return None

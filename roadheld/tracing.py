@@ -3,12 +3,6 @@
 from roadheld.solving import FREE, LAST, SHIFT, Solver
 
 
-def places_of(things):
-    """For each of things, by its number, its place among all, ascending."""
-    order = {thing: at for at, thing in enumerate(sorted(things))}
-    return [order[thing] for thing in things]
-
-
 class Traced:
     """All drops of plain rules, solved as Solver tells, and how they come.
 
@@ -27,8 +21,6 @@ class Traced:
         self.controls = list(solver.control_numbers)
         self.layers = list(solver.layer_numbers)
         self.rules_at = {}
-        for rule, head in enumerate(solver.heads):
-            self.rules_at.setdefault(head, []).append(rule)
         self.reasons = {}
 
     def told_drop(self, drop):
@@ -45,14 +37,7 @@ class Traced:
 
     def all_drops(self):
         """The pairs of all drops, as they are told, and their numbers, ascending."""
-        controls = places_of(self.controls)
-        layers = places_of(self.layers)
-        found = []
-        for drop, number in self.numbers.items():
-            if drop >= 0:
-                place = (controls[drop >> SHIFT + SHIFT] << SHIFT | layers[drop >> SHIFT & LAST]) << SHIFT
-                found.append((place | controls[drop & LAST], drop, number))
-        return [(self.told_drop(drop), number) for _, drop, number in sorted(found)]
+        return sorted([(self.told_drop(drop), number) for drop, number in self.numbers.items() if drop >= 0])
 
     def lines_of(self, row):
         """The lines of a row of numbers that a rule puts: that of its first layer, and so on, without the whole row."""
@@ -79,6 +64,9 @@ class Traced:
         """Drops, of this number together, through what a rule puts to a control; None if there are none."""
         if not layers:
             return [] if control == 0 and total == 0 else None
+        if len(layers) == 1:
+            first = self.layer_numbers[layers[0]] << SHIFT | control
+            return [first] if self.numbers.get(first) == total else None
         row = [self.layer_numbers[layer] for layer in layers]
         lines = self.lines_of(row)
         drops = []
@@ -90,10 +78,13 @@ class Traced:
             control = drop >> SHIFT + SHIFT
             total -= self.numbers[drop]
         first = row[0] << SHIFT | control
-        return [first] + drops[::-1] if first in self.numbers and self.numbers[first] == total else None
+        return [first] + drops[::-1] if self.numbers.get(first) == total else None
 
     def done_by(self, head, control, number):
         """A rule with a head, and the drops through what it puts to a control, of this number together; or None."""
+        if not self.rules_at:
+            for rule, its in enumerate(self.solver.heads):
+                self.rules_at.setdefault(its, []).append(rule)
         for rule in self.rules_at.get(head, []):
             weight = 1 if self.weights is None else self.weights[rule]
             drops = self.drops_through(self.rules[rule][1], control, number - weight)

@@ -1,6 +1,9 @@
 """Machines by their form, and where their rows lead."""
 
-from roadheld.forms import as_layer, is_below, is_number, is_row
+from roadheld.forms import OWNED, WORDS, is_row, noted
+
+# For how few layers it is less to go through all rows at each layer than to sort them by their layers first.
+FEW = 5
 
 
 def are_ascending(things):
@@ -10,54 +13,108 @@ def are_ascending(things):
 
 def as_states(thing, many):
     """An ascending list of states below many, as a list; None for anything else."""
-    if not is_row(thing) or not all([is_below(state, many) for state in thing]):
+    if not isinstance(thing, (list, tuple)):
         return None
-    return list(thing) if are_ascending(thing) else None
+    last = -1
+    for state in thing:
+        if not isinstance(state, int) or isinstance(state, bool) or not last < state < many:
+            return None
+        last = state
+    return list(thing)
+
+
+def as_rows(thing, many):
+    """Ascending rows of a machine of many states, each as a tuple; None for anything else.
+
+    Layers are looked at here as as_known_layers does it, since this is done for each row of each machine.
+    """
+    if not isinstance(thing, (list, tuple)):
+        return None
+    rows = []
+    known = {}
+    last = ()
+    for row in thing:
+        if not isinstance(row, tuple) and not isinstance(row, list) or len(row) != 3:
+            return None
+        state, layer, other = row
+        if not isinstance(layer, tuple) and not isinstance(layer, list) or len(layer) != 2:
+            return None
+        kind, whose = layer
+        if not isinstance(kind, str) or not isinstance(state, int) or not isinstance(other, int):
+            return None
+        if kind == "word":
+            if not isinstance(whose, int) or whose is True or whose is False or not 0 <= whose < WORDS:
+                return None
+        elif not isinstance(whose, str) or kind not in OWNED or whose not in known and not noted(whose, known):
+            return None
+        if not many > state >= 0 <= other < many or state is True or state is False or other is True or other is False:
+            return None
+        row = (state, (kind, whose), other)
+        if row <= last:
+            return None
+        last = row
+        rows.append(row)
+    return rows
 
 
 def as_row(thing, many):
     """A row of a machine as a tuple; None for anything else."""
-    if not is_row(thing) or len(thing) != 3:
-        return None
-    layer = as_layer(thing[1], None)
-    if layer is None or not is_below(thing[0], many) or not is_below(thing[2], many):
-        return None
-    return (thing[0], layer, thing[2])
+    rows = as_rows((thing,), many)
+    return None if rows is None else rows[0]
 
 
 def as_machine(thing):
     """A machine as a tuple, its lists as lists; None for anything else."""
-    if not is_row(thing) or len(thing) != 4 or not is_number(thing[0]) or thing[0] == 0:
+    if not is_row(thing) or len(thing) != 4:
         return None
-    many = thing[0]
-    firsts = as_states(thing[1], many)
-    ends = as_states(thing[3], many)
-    if firsts is None or ends is None or not is_row(thing[2]):
+    many, firsts, rows, ends = thing
+    if not isinstance(many, int) or isinstance(many, bool) or many < 1:
         return None
-    rows = [as_row(row, many) for row in thing[2]]
-    if None in rows or not are_ascending(rows):
+    firsts = as_states(firsts, many)
+    ends = as_states(ends, many)
+    if firsts is None or ends is None:
         return None
-    return (many, firsts, rows, ends)
+    rows = as_rows(rows, many)
+    return None if rows is None else (many, firsts, rows, ends)
 
 
 def goings_of(rows):
-    """For each state and layer of some rows the states to which they go."""
+    """For each layer of some rows, for each state from which they go, the states to which."""
     goings = {}
     for state, layer, other in rows:
-        goings.setdefault((state, layer), []).append(other)
+        if layer not in goings:
+            goings[layer] = {state: [other]}
+        elif state in goings[layer]:
+            goings[layer][state].append(other)
+        else:
+            goings[layer][state] = [other]
     return goings
 
 
 def led(goings, states, layers):
     """The ascending list of the states to which rows lead from some states along layers."""
-    reached = list(states)
+    reached = states
     for layer in layers:
+        if layer not in goings:
+            return []
+        going = goings[layer]
         further = {}
         for state in reached:
-            for other in goings.get((state, layer), []):
-                further[other] = True
-        reached = list(further)
+            if state in going:
+                for other in going[state]:
+                    further[other] = True
+        reached = further
     return sorted(reached)
+
+
+def led_once(rows, states, layers):
+    """The states to which rows lead from some states along one list of layers alone; both as keys of dicts."""
+    if len(layers) > FEW:
+        return {state: True for state in led(goings_of(rows), states, layers)}
+    reached = states
+    for layer in layers:
+        reached = {other: True for state, its, other in rows if state in reached and its == layer}
+    return reached
 
 
 def spread(states, nexts):

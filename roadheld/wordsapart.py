@@ -1,13 +1,11 @@
 """Protocols with no words in common, and what is led to them and back."""
 
+from roadheld.forms import WORDS
 from roadheld.handed import checked_protocols
 from roadheld.moves import as_attack
 from roadheld.protocols import with_words, words_of
 from roadheld.refusals import BadAttack, BadPaper, Crowded
 from roadheld.walks import as_machine
-
-# How many words there are.
-WORDS = 10
 
 
 def old_words(protocols):

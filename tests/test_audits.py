@@ -21,15 +21,22 @@ TEXT = audit_text(T, [G], FIRST, BARE)
 
 class TestWritten(unittest.TestCase):
     def test_bare(self):
-        lines = TEXT.split("\n")
-        self.assertEqual(lines[:4], ["agents ann, bob, eve", "keys cipher eve, seal eve",
-                                     "protocol greet { 0 takes nothing puts label 0 , cipher 1 ; "
-                                     "1 takes label 0 , cipher 1 puts cipher 0 ; }", "message label ann, cipher bob : 0"])
-        self.assertEqual(lines[4], "bare 0 4 " + " ".join(str(index) for index in BARE[4]))
-        self.assertEqual((len(lines), lines[-1]), (6 + len(BARE[3]), ""))
-        self.assertIn("row nothing / label eve / label eve reads", lines)
-        self.assertIn("row nothing / cipher eve / nothing does 17", lines)
-        self.assertTrue(any(line.startswith("row label ann / cipher bob / nothing does 36 ") for line in lines))
+        places = {rule[2]: at for at, rule in enumerate(rules_of(T, [G]))}
+        label, other, cipher, last = ("label", "ann"), ("label", "eve"), ("cipher", "bob"), ("cipher", "eve")
+        book = [(((), other, (other,)), None, []), (((), last, ()), places[("take", last)], []),
+                (((other,), cipher, ()), places[("answer", "greet", "bob", "eve", 1)], [1]),
+                (((), cipher, ()), places[("put", other)], [0, 2]), (((), label, ()), places[("take", label)], [])]
+        lines = audit_text(T, [G], FIRST, ("bare", 0, 4, book, [4, 3])).split("\n")
+        self.assertEqual(lines, ["agents ann, bob, eve", "keys cipher eve, seal eve",
+                                 "protocol greet { 0 takes nothing puts label 0 , cipher 1 ; "
+                                 "1 takes label 0 , cipher 1 puts cipher 0 ; }", "message label ann, cipher bob : 0",
+                                 "bare 0 4 4 3", "row nothing / label eve / label eve reads", "row nothing / cipher eve / nothing does 17",
+                                 "row label eve / cipher bob / nothing does " + str(places[("answer", "greet", "bob", "eve", 1)]) + " 1",
+                                 "row nothing / cipher bob / nothing does " + str(places[("put", other)]) + " 0 2",
+                                 "row nothing / label ann / nothing does " + str(places[("take", label)]), ""])
+        self.assertEqual(TEXT.split("\n")[:4], lines[:4])
+        self.assertEqual(TEXT.split("\n")[4], "bare 0 4 " + " ".join(str(index) for index in BARE[4]))
+        self.assertEqual((len(TEXT.split("\n")), TEXT[-1]), (6 + len(BARE[3]), "\n"))
 
     def test_plain(self):
         post = Post(["eve"], [("seal", "eve"), ("cipher", "eve")])
