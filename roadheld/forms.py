@@ -76,7 +76,7 @@ def as_known_layers(thing, known, more):
     All rules, layers and messages that are handed in come through here, layer by layer, so this is written to be
     done fast: an agent is looked at sign by sign once.
     """
-    if not isinstance(thing, (list, tuple)):
+    if not isinstance(thing, list) and not isinstance(thing, tuple):
         return None
     layers = []
     for layer in thing:
@@ -111,7 +111,7 @@ def as_keys(thing, agents):
 
 def as_known_message(thing, known, more):
     """A message, its layers as as_known_layers tells, as a tuple."""
-    if not isinstance(thing, (list, tuple)) or len(thing) != 2:
+    if not isinstance(thing, tuple) and not isinstance(thing, list) or len(thing) != 2:
         return None
     layers, core = thing
     if not isinstance(core, int) or isinstance(core, bool):
@@ -185,7 +185,7 @@ def rules_in(thing):
     rules = []
     known = {}
     for rule in thing:
-        if not isinstance(rule, (list, tuple)) or len(rule) != 3:
+        if not isinstance(rule, tuple) and not isinstance(rule, list) or len(rule) != 3:
             return (None, len(rules))
         takes, puts, third = rule
         takes = as_known_layers(takes, known, True)

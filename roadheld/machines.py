@@ -29,11 +29,11 @@ def checked_pair(machine, other):
 
 def as_unlike_states(thing, many):
     """A list of unlike states below many, as keys of a dict; None for anything else."""
-    if not isinstance(thing, (list, tuple)):
+    if not isinstance(thing, list) and not isinstance(thing, tuple):
         return None
     found = {}
     for state in thing:
-        if not isinstance(state, int) or isinstance(state, bool) or not 0 <= state < many or state in found:
+        if not isinstance(state, int) or state is True or state is False or not 0 <= state < many or state in found:
             return None
         found[state] = True
     return found

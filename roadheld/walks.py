@@ -13,11 +13,11 @@ def are_ascending(things):
 
 def as_states(thing, many):
     """An ascending list of states below many, as a list; None for anything else."""
-    if not isinstance(thing, (list, tuple)):
+    if not isinstance(thing, list) and not isinstance(thing, tuple):
         return None
     last = -1
     for state in thing:
-        if not isinstance(state, int) or isinstance(state, bool) or not last < state < many:
+        if not isinstance(state, int) or state is True or state is False or not last < state < many:
             return None
         last = state
     return list(thing)
@@ -28,7 +28,7 @@ def as_rows(thing, many):
 
     Layers are looked at here as as_known_layers does it, since this is done for each row of each machine.
     """
-    if not isinstance(thing, (list, tuple)):
+    if not isinstance(thing, list) and not isinstance(thing, tuple):
         return None
     rows = []
     known = {}
