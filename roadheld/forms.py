@@ -37,11 +37,16 @@ def is_below(thing, many):
     return is_number(thing) and thing < many
 
 
+def is_agents_text(text):
+    """Whether a text is an agent's."""
+    if len(text) > LONGEST_AGENT or not text.islower() or not text.isalpha() or not text.isascii():
+        return False
+    return text not in RESERVED
+
+
 def is_agent(thing):
     """Whether a thing is an agent's text."""
-    if not isinstance(thing, str) or not thing.islower() or not thing.isalpha() or not thing.isascii():
-        return False
-    return len(thing) <= LONGEST_AGENT and thing not in RESERVED
+    return isinstance(thing, str) and is_agents_text(thing)
 
 
 def as_agents(thing):
@@ -60,14 +65,6 @@ def as_layer(thing, agents):
     """A layer as a tuple; of one of agents, or, where agents is None, of any agent."""
     layers = as_layers((thing,), agents)
     return None if layers is None else layers[0]
-
-
-def noted(text, known):
-    """Whether a text is an agent; it is noted as a known one if it is."""
-    if not is_agent(text):
-        return False
-    known[text] = True
-    return True
 
 
 def as_known_layers(thing, known, more):
@@ -90,8 +87,10 @@ def as_known_layers(thing, known, more):
                 return None
         elif not isinstance(whose, str) or kind not in OWNED:
             return None
-        elif whose not in known and not (more and noted(whose, known)):
-            return None
+        elif whose not in known:
+            if not more or not is_agents_text(whose):
+                return None
+            known[whose] = True
         layers.append((kind, whose))
     return layers
 

@@ -91,13 +91,15 @@ def rules_needed(post, protocols, rows):
     """
     agents = post.agents()
     needed = {layer: True for row in rows for layer in row}
+    kinds = {}
     for protocol in protocols:
         for _, takes, puts in protocol.plain_steps()[1:]:
             for layer in takes + puts:
                 if layer[0] == "word":
                     needed[layer] = True
                 else:
-                    needed.update({(layer[0], agent): True for agent in agents})
+                    kinds[layer[0]] = True
+    needed.update({(kind, agent): True for kind in kinds for agent in agents})
     return rules_of_adversary(list(needed), post.keyring()) + rules_of_answers(agents, protocols)
 
 

@@ -1,6 +1,6 @@
 """Machines by their form, and where their rows lead."""
 
-from roadheld.forms import OWNED, WORDS, is_row, noted
+from roadheld.forms import OWNED, WORDS, is_agents_text, is_row
 
 # For how few layers it is less to go through all rows at each layer than to sort them by their layers first.
 FEW = 5
@@ -45,8 +45,12 @@ def as_rows(thing, many):
         if kind == "word":
             if not isinstance(whose, int) or whose is True or whose is False or not 0 <= whose < WORDS:
                 return None
-        elif not isinstance(whose, str) or kind not in OWNED or whose not in known and not noted(whose, known):
+        elif not isinstance(whose, str) or kind not in OWNED:
             return None
+        elif whose not in known:
+            if not is_agents_text(whose):
+                return None
+            known[whose] = True
         if not many > state >= 0 <= other < many or state is True or state is False or other is True or other is False:
             return None
         row = (state, (kind, whose), other)
