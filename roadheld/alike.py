@@ -1,8 +1,9 @@
 """Whether machines take the same, whether rules hold the same, and by what they are parted."""
 
-from roadheld.forms import as_messages, is_number, rules_in
-from roadheld.growth import grow, machine_of_rows
-from roadheld.handed import checked_messages, checked_rules
+from roadheld.coding import Coded
+from roadheld.forms import as_messages, is_number
+from roadheld.growth import grow_rows
+from roadheld.handed import checked_messages, coded_of
 from roadheld.leasts import least
 from roadheld.machines import checked_machine, checked_pair
 from roadheld.partings import parting
@@ -51,14 +52,13 @@ def taken_counts(machine, long):
 
 def rules_parted(rules, messages, others, besides):
     """The shortest, then first ascending, layers that come by just one of two lots of rules; None if there are none."""
-    plain = checked_rules(rules)
+    coded = coded_of(rules)
     held = checked_messages(messages, None)
-    other_rules, wrong = rules_in(others)
+    other_coded = Coded()
+    wrong = other_coded.note_all(others)
     if wrong is not None:
         raise BadOthers(wrong)
     its = as_messages(besides, None)
     if its is None:
         raise BadBesides(besides)
-    mine = grow(plain, machine_of_rows([layers for layers, _ in held]))
-    other = grow(other_rules, machine_of_rows([layers for layers, _ in its]))
-    return parting(least(mine), least(other), False)
+    return parting(least(grow_rows(coded, held)), least(grow_rows(other_coded, its)), False)

@@ -2,6 +2,7 @@
 
 from roadheld.errors import BadOther
 from roadheld.handed import as_question, checked_question
+from roadheld.lookups import ruled_by
 from roadheld.rules import rules_of
 from roadheld.settling import as_answer, settled
 
@@ -15,7 +16,7 @@ def answer_for(post, protocols, messages):
 def is_answer(post, protocols, messages, thing):
     """Whether any object is a right answer."""
     held = checked_question(post, protocols, messages)
-    return as_answer(rules_of(post, protocols), held, thing) is not None
+    return as_answer(ruled_by(post, protocols), held, thing) is not None
 
 
 def all_done(post, protocols):

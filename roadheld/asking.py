@@ -2,8 +2,8 @@
 
 from roadheld.errors import BadAgents
 from roadheld.forms import as_agents, as_layer, is_below, is_pair, is_row
-from roadheld.growth import grow, machine_of_rows
-from roadheld.handed import checked_messages, checked_rules
+from roadheld.growth import grow_rows
+from roadheld.handed import checked_messages, checked_rules, coded_of
 from roadheld.machines import checked_machine
 from roadheld.pairing import Pairs
 from roadheld.papers import judged_rows
@@ -22,10 +22,10 @@ def checked_asked(asked):
 
 def ever(rules, messages, asked):
     """The shortest, then first ascending, layers that are asked about and come; or why there are none."""
-    plain = checked_rules(rules)
+    coded = coded_of(rules)
     held = checked_messages(messages, None)
     its = checked_asked(asked)
-    machine = grow(plain, machine_of_rows([layers for layers, _ in held]))
+    machine = grow_rows(coded, held)
     pairs = Pairs(machine, its)
     levels = pairs.levels()
     if levels[-1]:

@@ -1,5 +1,6 @@
 """Attacks: moves by which a message comes bare, as few as can be."""
 
+from roadheld.coding import coded_rules
 from roadheld.deeds import all_steps, move_done
 from roadheld.forms import is_below, is_number, is_pair, is_row
 from roadheld.handed import checked_most, checked_question
@@ -16,7 +17,9 @@ def asked_rows(post, protocols, messages):
 def fewest(post, protocols, messages):
     """The least number of moves by which one of messages comes bare, and its index; None if none does."""
     rows = asked_rows(post, protocols, messages)
-    return Solver(rules_needed(post, protocols, rows), None, rows).nearest(rows)
+    coded = coded_rules(rules_needed(post, protocols, rows))
+    coded_rows = [coded.code_row(row) for row in rows]
+    return Solver(coded, None, coded_rows).nearest(coded_rows)
 
 
 def attack_of(post, protocols, messages, most):
@@ -24,14 +27,16 @@ def attack_of(post, protocols, messages, most):
     rows = asked_rows(post, protocols, messages)
     checked_most(most)
     rules = rules_needed(post, protocols, rows)
-    traced = Traced(rules, None, rows)
-    best = traced.solver.nearest(rows)
+    coded = coded_rules(rules)
+    coded_rows = [coded.code_row(row) for row in rows]
+    traced = Traced(coded, None, coded_rows)
+    best = traced.solver.nearest(coded_rows)
     if best is None:
         return None
     number, index = best
     if number > most:
         return ("long", number)
-    return (index, [rules[rule][2] for rule in traced.moves_of(traced.drops_down(rows[index]))])
+    return (index, [rules[rule][2] for rule in traced.moves_of(traced.drops_down(coded_rows[index]))])
 
 
 def judged_attack(post, protocols, messages, thing):

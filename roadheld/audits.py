@@ -4,12 +4,12 @@ from roadheld.errors import ProtocolError
 from roadheld.forms import as_layers
 from roadheld.handed import checked_question
 from roadheld.lines import numbered_line, numbers_behind
+from roadheld.lookups import ruled_by
 from roadheld.messages import layer_text, row_text
 from roadheld.papertexts import lines_of_machine, machine_of_lines
 from roadheld.questiontexts import ended_lines, question_lines, question_of_lines
 from roadheld.reading import Reader
 from roadheld.refusals import BadAnswer, BadAudit
-from roadheld.rules import rules_of
 from roadheld.settling import as_answer
 
 
@@ -32,7 +32,7 @@ def answer_lines(answer):
 def audit_text(post, protocols, messages, thing):
     """The audit of a right answer."""
     held = checked_question(post, protocols, messages)
-    answer = as_answer(rules_of(post, protocols), held, thing)
+    answer = as_answer(ruled_by(post, protocols), held, thing)
     if answer is None:
         raise BadAnswer(thing)
     lines = question_lines(post, protocols, held) + answer_lines(answer)
@@ -101,7 +101,7 @@ def audited(text):
         raise BadAudit(at + wrong)
     if rest:
         raise BadAudit(len(lines))
-    answer = as_answer(rules_of(post, protocols), messages, thing)
+    answer = as_answer(ruled_by(post, protocols), messages, thing)
     if answer is None:
         raise BadAudit("answer")
     return (post, protocols, messages, answer)

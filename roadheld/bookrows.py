@@ -1,27 +1,44 @@
 """Books by their form, whether their rows are right, and books written of what was solved."""
 
-from roadheld.forms import as_layer, as_layers, is_below, is_number, is_row
-from roadheld.rules import controls_of
+from roadheld.forms import as_known_layers, is_below, is_row
+from roadheld.lookups import Listed
+
+
+def as_known_drop(thing, known):
+    """A triple of a list of layers, a layer, a list of layers, its lists as tuples; None for anything else.
+
+    The agents that are known need not be looked at; others are noted.
+    """
+    if not isinstance(thing, tuple) and not isinstance(thing, list) or len(thing) != 3:
+        return None
+    control, layer, behind = thing
+    if not isinstance(control, tuple) or control:
+        control = as_known_layers(control, known, True)
+    layers = as_known_layers((layer,), known, True)
+    if not isinstance(behind, tuple) or behind:
+        behind = as_known_layers(behind, known, True)
+    if control is None or layers is None or behind is None:
+        return None
+    return (tuple(control), layers[0], tuple(behind))
 
 
 def as_drop(thing):
     """A triple of a list of layers, a layer, a list of layers, its lists as tuples; None for anything else."""
-    if not is_row(thing) or len(thing) != 3:
-        return None
-    control = as_layers(thing[0], None)
-    layer = as_layer(thing[1], None)
-    behind = as_layers(thing[2], None)
-    if control is None or layer is None or behind is None:
-        return None
-    return (tuple(control), layer, tuple(behind))
+    return as_known_drop(thing, {})
 
 
 def as_drops(thing):
     """A list of drops, of any layers, as plain copies; None for anything else."""
     if not is_row(thing):
         return None
-    drops = [as_drop(drop) for drop in thing]
-    return None if None in drops else drops
+    known = {}
+    drops = []
+    for part in thing:
+        drop = as_known_drop(part, known)
+        if drop is None:
+            return None
+        drops.append(drop)
+    return drops
 
 
 def as_indexes(thing, many):
@@ -31,25 +48,29 @@ def as_indexes(thing, many):
     return list(thing)
 
 
-def as_book_row(thing, many):
-    """A row of a book, many standing ahead of it, as a tuple; None for anything else."""
-    if not is_row(thing) or len(thing) != 3:
-        return None
-    drop = as_drop(thing[0])
-    used = as_indexes(thing[2], many)
-    if drop is None or used is None:
-        return None
-    if thing[1] is not None and not is_number(thing[1]):
-        return None
-    return (drop, thing[1], used)
-
-
 def as_book(thing):
-    """A list of rows by their form, each with indexes of rows ahead of it; None for anything else."""
+    """A list of rows by their form, each with indexes of rows ahead of it; None for anything else.
+
+    Books are judged again and again, so this is written to be done fast.
+    """
     if not is_row(thing):
         return None
-    book = [as_book_row(row, at) for at, row in enumerate(thing)]
-    return None if None in book else book
+    book = []
+    known = {}
+    for row in thing:
+        if not isinstance(row, tuple) and not isinstance(row, list) or len(row) != 3:
+            return None
+        drop, rule, used = row
+        drop = as_known_drop(drop, known)
+        if drop is None or not isinstance(used, list) and not isinstance(used, tuple):
+            return None
+        if rule is not None and (not isinstance(rule, int) or rule is True or rule is False or rule < 0):
+            return None
+        for index in used:
+            if not isinstance(index, int) or index is True or index is False or not 0 <= index < len(book):
+                return None
+        book.append((drop, rule, list(used)))
+    return book
 
 
 def go_through(book, used, layers, behind):
@@ -57,34 +78,40 @@ def go_through(book, used, layers, behind):
     if len(used) != len(layers):
         return False
     control = ()
-    for at, layer in enumerate(layers):
-        drop = book[used[at]][0]
-        if drop[0] != control or drop[1] != layer:
+    for index, layer in zip(used, layers):
+        ahead, its, further = book[index][0]
+        if its != layer or ahead != control:
             return False
-        control = drop[2]
+        control = further
     return control == behind
 
 
-def is_right_row(rules, known, book, row):
-    """Whether a plain row of a book is one of plain rules, whose controls are known."""
+def is_right_row(looked, book, row):
+    """Whether a plain row of a book is one of rules that are looked up."""
     (control, layer, behind), rule, used = row
     if rule is None:
-        return not used and behind == control + (layer,) and behind in known
-    if rule >= len(rules):
+        return not used and behind == control + (layer,) and looked.is_control(behind)
+    found = looked.rule_at(rule)
+    if found is None:
         return False
-    takes, puts, _ = rules[rule]
+    takes, puts = found
     if takes:
-        return tuple(takes) == control + (layer,) and go_through(book, used, puts, behind)
-    return control == () and go_through(book, used, puts + [layer], behind)
+        return takes == control + (layer,) and go_through(book, used, puts, behind)
+    return control == () and go_through(book, used, puts + (layer,), behind)
+
+
+def are_right_rows(looked, book):
+    """Whether all rows of a plain book are right by rules that are looked up."""
+    for row in book:
+        if not is_right_row(looked, book, row):
+            return False
+    return True
 
 
 def right_book(rules, thing):
     """A book of plain rules as a plain copy; None for any object that is none."""
     book = as_book(thing)
-    if book is None:
-        return None
-    known = {control: True for control in controls_of(rules)}
-    return book if all([is_right_row(rules, known, book, row) for row in book]) else None
+    return book if book is not None and are_right_rows(Listed(rules), book) else None
 
 
 def counts_of(book):

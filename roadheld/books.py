@@ -2,7 +2,7 @@
 
 from roadheld.bookrows import as_book, as_drop, counts_of, right_book, written
 from roadheld.errors import BadBook, BadDrop
-from roadheld.handed import checked_layers, checked_rules
+from roadheld.handed import checked_row, checked_rules, coded_of
 from roadheld.tracing import Traced
 
 
@@ -29,16 +29,16 @@ def checked_drop(drop):
 
 def book_of(rules, drop):
     """A book whose last row is for a drop, each row counting as few deeds as can be; None if there is no such drop."""
-    plain = checked_rules(rules)
+    coded = coded_of(rules)
     asked = checked_drop(drop)
-    traced = Traced(plain, None, None)
+    traced = Traced(coded, None, None)
     key = traced.drop_of(asked)
     return written(traced, [key])[0] if key in traced.numbers else None
 
 
 def book_down(rules, layers):
     """A book, and the indexes of its rows by which layers come down by the fewest deeds; None if they never do."""
-    plain = checked_rules(rules)
-    row = checked_layers(layers)
-    traced = Traced(plain, None, [row])
+    coded = coded_of(rules)
+    row = checked_row(coded, layers)
+    traced = Traced(coded, None, [row])
     return None if traced.solver.least_number() is None else written(traced, traced.drops_down(row))

@@ -3,8 +3,8 @@
 from roadheld.agents import Post
 from roadheld.forms import is_pair, is_row
 from roadheld.handed import checked_question
+from roadheld.lookups import Ruled, unlike_answers
 from roadheld.lots import Lots, checked_keys
-from roadheld.meetings import are_within
 from roadheld.rules import rules_of
 from roadheld.settling import as_answer, settled
 
@@ -39,19 +39,47 @@ def as_ascending_lot(thing, keys):
 
 def as_answered_lots(thing, keys):
     """A list of pairs of a lot and any object; None for anything else."""
-    if not is_row(thing) or not all([is_pair(pair) for pair in thing]):
+    if not is_row(thing):
         return None
-    pairs = [(as_ascending_lot(lot, keys), answer) for lot, answer in thing]
-    return None if any([lot is None for lot, _ in pairs]) else pairs
+    pairs = []
+    for pair in thing:
+        lot = as_ascending_lot(pair[0], keys) if is_pair(pair) else None
+        if lot is None:
+            return None
+        pairs.append((lot, pair[1]))
+    return pairs
 
 
-def first_unanswered(post, protocols, messages, pairs, word):
-    """The index of the first pair whose answer is none of this word that is right; None if all are."""
-    for index, (lot, thing) in enumerate(pairs):
-        answer = as_answer(rules_with(post, protocols, lot), messages, thing)
-        if answer is None or answer[0] != word:
-            return index
-    return None
+class Judging:
+    """A question whose answers with lots of keys are judged."""
+
+    def __init__(self, post, protocols, messages):
+        self.agents = post.agents()
+        self.keyring = post.keyring()
+        self.protocols = protocols
+        self.messages = messages
+        # What the answers of all agents take and put is made once, for all lots.
+        self.dealt = unlike_answers(self.agents, protocols)
+
+    def first_unanswered(self, pairs, word):
+        """The index of the first pair whose answer is none of this word that is right; None if all are."""
+        for index, (lot, thing) in enumerate(pairs):
+            ruled = Ruled(self.agents, sorted(self.keyring + lot), self.protocols, self.dealt)
+            answer = as_answer(ruled, self.messages, thing)
+            if answer is None or answer[0] != word:
+                return index
+        return None
+
+
+def told_of(lot, broken, standing):
+    """Whether what breaks, or what stands, tells of a lot, lots being integers."""
+    for other in broken:
+        if other & lot == other:
+            return True
+    for other in standing:
+        if other & lot == lot:
+            return True
+    return False
 
 
 def first_open(keys, broken, standing):
@@ -59,14 +87,9 @@ def first_open(keys, broken, standing):
     places = {key: 1 << at for at, key in enumerate(keys)}
     broken_lots = [sum([places[key] for key in lot]) for lot, _ in broken]
     standing_lots = [sum([places[key] for key in lot]) for lot, _ in standing]
-    found = []
-    for lot in range(1 << len(keys)):
-        if any([are_within(other, lot) for other in broken_lots]):
-            continue
-        if not any([are_within(lot, other) for other in standing_lots]):
-            row = [key for key in keys if lot & places[key]]
-            found.append((len(row), row))
-    return min(found)[1] if found else None
+    left = [lot for lot in range(1 << len(keys)) if not told_of(lot, broken_lots, standing_lots)]
+    rows = [[key for key in keys if lot & places[key]] for lot in left]
+    return min([(len(row), row) for row in rows])[1] if rows else None
 
 
 def judged_chart(post, protocols, messages, keys, thing):
@@ -79,10 +102,11 @@ def judged_chart(post, protocols, messages, keys, thing):
     standing = as_answered_lots(thing[1], plain)
     if broken is None or standing is None:
         return ("form",)
-    wrong = first_unanswered(post, protocols, held, broken, "bare")
+    judging = Judging(post, list(protocols), held)
+    wrong = judging.first_unanswered(broken, "bare")
     if wrong is not None:
         return ("bare", wrong)
-    wrong = first_unanswered(post, protocols, held, standing, "safe")
+    wrong = judging.first_unanswered(standing, "safe")
     if wrong is not None:
         return ("safe", wrong)
     lot = first_open(plain, broken, standing)

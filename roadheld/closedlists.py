@@ -2,7 +2,7 @@
 
 from roadheld.bookrows import as_drop, as_drops, written
 from roadheld.errors import BadDrop, BadDrops
-from roadheld.handed import checked_rules
+from roadheld.handed import checked_rules, coded_of
 from roadheld.rules import controls_of
 from roadheld.tracing import Traced
 
@@ -67,11 +67,11 @@ def is_closed(rules, thing):
 
 def shown(rules, drop):
     """A book for a drop, or a closed list without it."""
-    plain = checked_rules(rules)
+    coded = coded_of(rules)
     asked = as_drop(drop)
     if asked is None:
         raise BadDrop(drop)
-    traced = Traced(plain, None, None)
+    traced = Traced(coded, None, None)
     key = traced.drop_of(asked)
     if key in traced.numbers:
         return ("book", written(traced, [key])[0])

@@ -1,26 +1,24 @@
 """Whether layers ever come of messages: the fewest moves, or a machine by which they never do."""
 
 from roadheld.forms import begins_with, is_below, is_pair, is_row
-from roadheld.growth import grow, machine_of_rows
-from roadheld.handed import checked_layers, checked_messages, checked_most, checked_rules
+from roadheld.growth import grow_rows
+from roadheld.handed import checked_layers, checked_messages, checked_most, checked_row, checked_rows, checked_rules
+from roadheld.handed import coded_of
 from roadheld.machines import checked_machine, machine_takes
 from roadheld.papers import judged_rows
 from roadheld.solving import Solver
 from roadheld.tracing import Traced
-from roadheld.walks import goings_of, led
-
-# What lies beneath all layers; it is no layer, so no rule but the one of asked_rule takes it.
-BOTTOM = ("bottom", 0)
+from roadheld.walks import goings_of, led_once
 
 
-def asked_rule(layers):
-    """The rule by which just these layers, with nothing beneath them, go off."""
-    return (layers + [BOTTOM], [], None)
+def ask(coded, rows, asked):
+    """Has a rule more take just the layers that are asked about, in numbers; tells rows with what it takes beneath.
 
-
-def rows_to(messages):
-    """The layers of messages, each with what lies beneath all layers."""
-    return [row + [BOTTOM] for row, _ in messages]
+    What lies beneath all layers is none of them, so no other rule takes it.
+    """
+    bottom = coded.one_more()
+    coded.rest.append((-1, asked + [bottom], []))
+    return [row + [bottom] for row in rows]
 
 
 def fewest_moves(rules, messages, layers):
@@ -28,9 +26,9 @@ def fewest_moves(rules, messages, layers):
 
     They come of a message just if it comes bare by the same moves and one more, the rule that asks.
     """
-    plain = checked_rules(rules)
-    rows = rows_to(checked_messages(messages, None))
-    number = Solver(plain + [asked_rule(checked_layers(layers))], None, rows).least_number()
+    coded = coded_of(rules)
+    rows = checked_rows(coded, messages)
+    number = Solver(coded, None, ask(coded, rows, checked_row(coded, layers))).least_number()
     return None if number is None else number - 1
 
 
@@ -51,11 +49,12 @@ def is_attack_to(rules, messages, layers, thing):
 
 def attack_to(rules, messages, layers, most):
     """An attack to layers of the least number of moves, None if there is none of at most so many."""
-    plain = checked_rules(rules)
-    rows = rows_to(checked_messages(messages, None))
-    asked = checked_layers(layers)
+    coded = coded_of(rules)
+    rows = checked_rows(coded, messages)
+    asked = checked_row(coded, layers)
     checked_most(most)
-    traced = Traced(plain + [asked_rule(asked)], None, rows)
+    rows = ask(coded, rows, asked)
+    traced = Traced(coded, None, rows)
     best = traced.solver.nearest(rows)
     if best is None or best[0] - 1 > most:
         return None
@@ -72,14 +71,15 @@ def judged_never(rules, messages, layers, machine):
     wrong = judged_rows(plain, held, mine)
     if wrong is not None:
         return wrong
-    taken = [state for state in led(goings_of(mine[2]), mine[1], asked) if state in mine[3]]
+    reached = led_once(mine[2], {state: True for state in mine[1]}, asked)
+    taken = [state for state in mine[3] if state in reached]
     return ("taken", taken[0]) if taken else None
 
 
 def never(rules, messages, layers):
     """A machine by which layers never come of messages, None if they come."""
-    plain = checked_rules(rules)
+    coded = coded_of(rules)
     held = checked_messages(messages, None)
     asked = checked_layers(layers)
-    machine = grow(plain, machine_of_rows([row for row, _ in held]))
+    machine = grow_rows(coded, held)
     return None if machine_takes(machine, goings_of(machine[2]), asked) else machine

@@ -3,7 +3,7 @@
 from roadheld.bookrows import as_indexes, right_book, written
 from roadheld.errors import BadBook
 from roadheld.forms import are_unlike
-from roadheld.handed import checked_layers, checked_rules
+from roadheld.handed import checked_row, checked_rules, coded_of
 from roadheld.refusals import BadCounted
 from roadheld.tracing import Traced
 
@@ -19,7 +19,7 @@ def checked_counted(counted, many):
     return {index: True for index in indexes}
 
 
-def weighed(rules, marked, layers):
+def weighed(coded, many, marked, row):
     """What is solved with numbers in which costs stand above deeds, and by how many bits.
 
     As long as the deeds of all that is settled are so few that those of a whole row of drops have room, numbers
@@ -27,10 +27,10 @@ def weighed(rules, marked, layers):
     """
     scale = SCALE
     while True:
-        weights = [1 << scale | 1 if rule in marked else 1 for rule in range(len(rules))]
-        traced = Traced(rules, weights, [layers])
+        weights = [1 << scale | 1 if rule in marked else 1 for rule in range(many)]
+        traced = Traced(coded, weights, [row])
         deeds = (1 << scale) - 1
-        most = deeds // (len(layers) + 3)
+        most = deeds // (len(row) + 3)
         if all([number & deeds < most for number in traced.numbers.values()]):
             return (traced, scale)
         scale *= 2
@@ -38,10 +38,10 @@ def weighed(rules, marked, layers):
 
 def cost(rules, counted, layers):
     """The least cost with which layers come down, and the fewest deeds with this cost; None if they never do."""
-    plain = checked_rules(rules)
-    marked = checked_counted(counted, len(plain))
-    row = checked_layers(layers)
-    traced, scale = weighed(plain, marked, row)
+    coded = coded_of(rules)
+    marked = checked_counted(counted, len(rules))
+    row = checked_row(coded, layers)
+    traced, scale = weighed(coded, len(rules), marked, row)
     number = traced.solver.least_number()
     return None if number is None else (number >> scale, number & (1 << scale) - 1)
 
@@ -61,8 +61,8 @@ def costs(rules, counted, book):
 
 def cheap_book(rules, counted, layers):
     """A book, and the indexes of its rows by which layers come down with the least cost; None if they never do."""
-    plain = checked_rules(rules)
-    marked = checked_counted(counted, len(plain))
-    row = checked_layers(layers)
-    traced, _ = weighed(plain, marked, row)
+    coded = coded_of(rules)
+    marked = checked_counted(counted, len(rules))
+    row = checked_row(coded, layers)
+    traced, _ = weighed(coded, len(rules), marked, row)
     return None if traced.solver.least_number() is None else written(traced, traced.drops_down(row))

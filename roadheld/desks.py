@@ -2,6 +2,7 @@
 
 from roadheld.edits import CALLED, copied_edit, edit_text, edited, edited_by_text
 from roadheld.handed import checked_question
+from roadheld.lookups import ruled_by
 from roadheld.questiontexts import ended_lines, question_lines, question_of_lines
 from roadheld.refusals import BadDesk, BadEdit
 from roadheld.rules import rules_of
@@ -94,7 +95,8 @@ class Desk:
             if book is None:
                 return None
             answer = answer[:3] + (book, answer[4])
-        return as_answer(rules, self._questions[-1][2], answer)
+        post, protocols, messages = self._questions[-1]
+        return as_answer(ruled_by(post, protocols), messages, answer)
 
     def _rules(self):
         """The rules that there are now."""

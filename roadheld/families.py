@@ -1,11 +1,14 @@
 """With which lots drops come, where some rules are there with some lots alone.
 
 A family of lots is an integer, its bits the lots. What is made of others comes with the lots that the families of all
-of these have in common; what can be made in several ways comes with those of all ways together. Drops, and what leads
-to them, stand under keys as in solving.
+of these have in common; what can be made in several ways comes with those of all ways together. A drop stands under a
+key as in solving; a line of several layers, and what comes of a rule that takes nothing, under keys below 0.
 """
 
-from roadheld.solving import FREE, LAST, SHIFT
+from roadheld.solving import LAST, SHIFT
+
+# The head of a rule that takes nothing.
+FREE = -1
 
 
 class Families:

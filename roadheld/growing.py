@@ -1,14 +1,14 @@
 """Machines of all that can be held."""
 
 from roadheld.growth import grow, machine_of_rows
-from roadheld.handed import checked_messages, checked_rules
+from roadheld.handed import checked_messages, checked_rules, coded_of
 from roadheld.machines import checked_machine
 
 
 def grown(rules, machine):
     """A machine that keeps each of rules and takes just the layers that come of what machine takes."""
-    plain = checked_rules(rules)
-    return grow(plain, checked_machine(machine))
+    coded = coded_of(rules)
+    return grow(coded, checked_machine(machine))
 
 
 def machine_of(messages):

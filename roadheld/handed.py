@@ -1,8 +1,9 @@
 """What is handed in, looked at once: each function tells a plain copy, or refuses what is wrong."""
 
 from roadheld.agents import Post
+from roadheld.coding import Coded
 from roadheld.errors import BadLayers, BadMessages, BadMost, BadPost, BadProtocols, BadRules
-from roadheld.forms import are_unlike, as_layers, as_messages, is_number, is_row, rules_in
+from roadheld.forms import are_unlike, as_layers, as_messages, is_integer, is_number, is_pair, is_row, rules_in
 from roadheld.protocols import Proto
 
 
@@ -59,6 +60,36 @@ def checked_layers(layers):
     if plain is None:
         raise BadLayers(layers)
     return plain
+
+
+def coded_of(rules):
+    """Rules over any agents' layers, in numbers."""
+    coded = Coded()
+    wrong = coded.note_all(rules)
+    if wrong is not None:
+        raise BadRules(wrong)
+    return coded
+
+
+def checked_row(coded, layers):
+    """Layers of any agents, in the numbers of rules."""
+    row = coded.layers_in(layers)
+    if row is None:
+        raise BadLayers(layers)
+    return row
+
+
+def checked_rows(coded, messages):
+    """The layers of messages of any agents, in the numbers of rules."""
+    rows = []
+    for message in messages if is_row(messages) else [None]:
+        if not is_pair(message) or not is_integer(message[1]):
+            raise BadMessages(messages)
+        row = coded.layers_in(message[0])
+        if row is None:
+            raise BadMessages(messages)
+        rows.append(row)
+    return rows
 
 
 def checked_rules(rules):

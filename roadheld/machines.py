@@ -53,8 +53,8 @@ def states_behind(machine, states, layers):
 
 def machine_takes(machine, goings, layers):
     """Whether a plain machine, with its goings, takes layers."""
-    ends = {state: True for state in machine[3]}
-    return any([state in ends for state in led(goings, machine[1], layers)])
+    reached = led(goings, {state: True for state in machine[1]}, layers)
+    return any([state in reached for state in machine[3]])
 
 
 def is_taken(machine, layers):

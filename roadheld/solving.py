@@ -1,9 +1,11 @@
 """The least numbers of the drops of some rules, found from the least ones up.
 
-Controls and layers have numbers, as they come. What is found stands under keys, which are integers: a drop (c, a, q)
-under c, a and q, one behind another; a line that is come through, from nothing held back to q, under the line and q,
-below 0; further below 0 what is said at FREE and GOAL. A line is a beginning of what some rule puts, or of some row
-that is asked about; a line of one layer has that layer's number. The slot of a drop is what is ahead of q in its key.
+What is found stands under keys, which are integers: a base, and behind it, in the last bits, the number of the control
+to which one comes. The base of a drop (c, a, ..) is c and a, one behind another, its slot, and then no bits; that of a
+line, which is come through from nothing held back, stands above all drops; above these are FREE, for a rule that takes
+nothing, and GOAL, for a row that is asked about. A line is a beginning of what some rule puts, or of such a row; one
+of one layer is the slot of this layer, with nothing held back. The head of a rule is the base of what comes of it when
+all that it puts is off.
 """
 
 from heapq import heappop, heappush
@@ -11,14 +13,14 @@ from heapq import heappop, heappush
 # By how many bits the parts of a key are apart, and the bits of the last part.
 SHIFT = 20
 LAST = 0xFFFFF
-# The heads of what takes no layers: a rule, by which q is held back out of nothing; a row, which is all off where
-# nothing is held back. What comes of them to q has the key that is so much less.
-FREE = -1
-GOAL = -0x40000000
+# Where the keys of lines begin, of FREE and of GOAL.
+LINES = 0x1000000000000000
+FREE = 0x40000000000000000000000
+GOAL = 0x80000000000000000000000
 
 
 class Solver:
-    """All drops of plain rules, with the least number of each.
+    """All drops of rules in numbers, with the least number of each.
 
     Each rule counts as weights tell, or 1 where weights is None. Where rows are handed in, all is left as soon as
     the nearest one of them is known to come down: what has a greater number than it is not looked for then.
@@ -27,97 +29,84 @@ class Solver:
     lesser number than theirs.
     """
 
-    def __init__(self, rules, weights, rows):
-        self.rules = rules
-        self.weights = weights
-        self.control_numbers = {(): 0}
-        self.layer_numbers = {}
-        self.heads = []
-        # What goes on from lines: by the next layer to longer lines; to heads, by a last layer or at once.
+    def __init__(self, coded, weights, rows):
+        # The controls longer by a layer, by the slot of the drop by which they are read.
+        self.reads = {}
+        # The longer lines, by a line and a layer; what goes on from lines: by a layer, to what base, with what number.
         self.longer = {}
-        self.ends = {}
-        self.putters = {}
-        self.lines = 1 << SHIFT
-        # What waits for drops of a slot: heads, and longer lines, each with the number so far.
-        self.heads_at = {}
-        self.lines_at = {}
+        self.further = {}
+        # What waits for drops of a slot: to what base they lead, and the number so far.
+        self.waiting = {}
+        self.freed = coded.freed
+        # Of the layers that a rule takes off the drops need not be looked for: of none that is not read the number
+        # is less than 1. So they are not noted before they are told.
+        self.taken = coded.taken if weights is None else {}
+        self.weights = weights
         self.numbers = {}
         self.queue = []
         self.buckets = {}
         self.drops_of = {}
         self.drops_from = {}
         self.freely = {}
-        self.plant_all(rows)
+        self.plant_all(coded.rest, rows)
+        if weights is not None:
+            for slot, index in coded.taken.items():
+                self.offer(slot << SHIFT, weights[index])
+        self.settle_known()
         self.settle(1)
 
-    def plant_all(self, rows):
-        """Notes what comes of the rules and rows at first."""
-        layers = self.layer_numbers
-        heads_at = self.heads_at
-        heads = self.heads
+    def plant_all(self, rules, rows):
+        """Notes what comes at first of rules that do not only take or put a layer, and has rows wait to come down."""
+        further = self.further
         weights = self.weights
         weight = 1
-        for takes, puts, _ in self.rules:
+        for index, takes, puts in rules:
             if weights is not None:
-                weight = weights[len(heads)]
+                weight = weights[index]
             if len(takes) == 1:
-                head = layers.setdefault(takes[0], len(layers)) << SHIFT
-            elif takes:
-                head = self.head_of(takes)
+                head = takes[0] << SHIFT
             else:
-                head = FREE
-            heads.append(head)
-            if len(puts) == 1:
-                layer = layers.setdefault(puts[0], len(layers))
-                if layer in heads_at:
-                    heads_at[layer].append((head, weight))
-                else:
-                    heads_at[layer] = [(head, weight)]
-            else:
+                head = self.head_of(takes) if takes else FREE
+            if len(puts) != 2:
                 self.plant(head, puts, weight)
+            elif puts[0] in further:
+                further[puts[0]].append((puts[1], head, weight))
+            else:
+                further[puts[0]] = [(puts[1], head, weight)]
         if rows is not None:
             for row in rows:
                 self.plant(GOAL, row, 0)
 
     def head_of(self, takes):
         """The head of a rule that takes layers; its controls are noted."""
-        controls = self.control_numbers
-        layers = self.layer_numbers
+        reads = self.reads
         ahead = 0
-        for length in range(1, len(takes)):
-            control = tuple(takes[:length])
-            layer = layers.setdefault(takes[length - 1], len(layers))
-            if control not in controls:
-                controls[control] = len(controls)
-                self.offer((ahead << SHIFT | layer) << SHIFT | controls[control], 0)
-            ahead = controls[control]
-        return (ahead << SHIFT | layers.setdefault(takes[-1], len(layers))) << SHIFT
+        for layer in takes[:-1]:
+            slot = ahead << SHIFT | layer
+            if slot not in reads:
+                reads[slot] = len(reads) + 1
+            ahead = reads[slot]
+        return (ahead << SHIFT | takes[-1]) << SHIFT
 
     def plant(self, head, puts, weight):
         """Has a head wait for what is put to go off."""
-        layers = self.layer_numbers
         if not puts:
             self.offer(head, weight)
         elif len(puts) == 1:
-            layer = layers.setdefault(puts[0], len(layers))
-            self.heads_at.setdefault(layer, []).append((head, weight))
-        elif len(puts) == 2:
-            first = layers.setdefault(puts[0], len(layers))
-            layer = layers.setdefault(puts[1], len(layers))
-            self.ends.setdefault(first, []).append((layer, head, weight))
+            self.waiting.setdefault(puts[0], []).append((head, weight))
         else:
-            line = layers.setdefault(puts[0], len(layers))
-            for layer in puts[1:]:
-                line = self.longer_line(line, layers.setdefault(layer, len(layers)))
-            self.putters.setdefault(line, []).append((head, weight))
+            line = puts[0]
+            for layer in puts[1:-1]:
+                line = self.longer_line(line, layer)
+            self.further.setdefault(line, []).append((puts[-1], head, weight))
 
     def longer_line(self, line, layer):
         """The line longer by a layer, a new one if there is none yet."""
-        longer = self.longer.setdefault(line, {})
-        if layer not in longer:
-            self.lines += 1
-            longer[layer] = self.lines
-        return longer[layer]
+        longer = self.longer
+        if (line, layer) not in longer:
+            longer[(line, layer)] = LINES + len(longer)
+            self.further.setdefault(line, []).append((layer, longer[(line, layer)] << SHIFT, 0))
+        return longer[(line, layer)]
 
     def offer(self, key, number):
         """Notes that something comes with a number, if it is not known to come with less."""
@@ -131,24 +120,39 @@ class Solver:
             self.buckets[number] = [key]
             heappush(self.queue, number)
 
+    def settle_known(self):
+        """Offers what comes of the drops of which the numbers are known from the begin on: what is taken, or read."""
+        taken = self.taken
+        for slot, pairs in self.waiting.items():
+            if slot in taken:
+                self.offer_all(pairs, 0, 1)
+        for slot in self.further:
+            if slot in taken:
+                self.go_on(slot, 0, 1)
+        for slot, control in self.reads.items():
+            self.numbers[slot << SHIFT | control] = 0
+            self.settle_drop(slot, control, 0)
+
     def settle(self, alone):
         """Settles all that comes, or all up to the nearest of rows: where alone is 1, without what has its number."""
         numbers = self.numbers
-        while self.queue:
-            number = self.queue[0]
+        further = self.further
+        queue = self.queue
+        while queue:
+            number = queue[0]
             if GOAL in numbers and numbers[GOAL] < number + alone:
                 return
-            heappop(self.queue)
-            keys = self.buckets.pop(number)
-            for key in keys:
+            heappop(queue)
+            for key in self.buckets.pop(number):
                 if numbers[key] < number:
                     continue
-                if key >= 0:
+                if key < LINES:
                     self.settle_drop(key >> SHIFT, key & LAST, number)
-                elif key < GOAL - LAST:
-                    self.settle_line(-key >> SHIFT, -key & LAST, number)
-                elif key > GOAL:
-                    self.settle_freely(FREE - key, number)
+                elif key >= FREE:
+                    if key < GOAL:
+                        self.settle_freely(key & LAST, number)
+                elif key >> SHIFT in further:
+                    self.go_on(key >> SHIFT, key & LAST, number)
 
     def settle_drop(self, slot, behind, number):
         """Offers what comes of a drop."""
@@ -157,26 +161,21 @@ class Solver:
             drops_of[slot].append((behind, number))
         else:
             drops_of[slot] = [(behind, number)]
-        if slot in self.heads_at:
-            self.done(self.heads_at[slot], behind, number)
-        if slot in self.lines_at:
-            for line, more in self.lines_at[slot]:
-                self.offer(-(line << SHIFT | behind), number + more)
+        if slot in self.waiting:
+            self.offer_all(self.waiting[slot], behind, number)
+        if slot in self.further:
+            self.go_on(slot, behind, number)
+        if behind and slot in self.freed:
+            self.offer(FREE + behind, number + (1 if self.weights is None else self.weights[self.freed[slot]]))
         if slot > LAST:
-            control = slot >> SHIFT
-            drop = (slot & LAST) << SHIFT | behind
-            self.drops_from.setdefault(control, []).append((drop, number))
-            if control in self.freely:
-                self.offer(drop, number + self.freely[control])
-        elif slot in self.ends or slot in self.longer:
-            self.settle_line(slot, behind, number)
+            self.settle_held(slot, behind, number)
 
-    def done(self, heads, control, number):
-        """Offers what comes of heads of which all layers are off, so that a control is held back."""
+    def offer_all(self, pairs, behind, number):
+        """Offers what comes of pairs of a part of a key and a number, and of one such pair more."""
         numbers = self.numbers
         buckets = self.buckets
-        for head, more in heads:
-            key = head | control if head >= 0 else head - control
+        for base, more in pairs:
+            key = base + behind
             more += number
             if key not in numbers or more < numbers[key]:
                 numbers[key] = more
@@ -186,22 +185,29 @@ class Solver:
                     buckets[more] = [key]
                     heappush(self.queue, more)
 
-    def settle_line(self, line, control, number):
+    def go_on(self, line, control, number):
         """Offers what comes of a line that is come through to a control."""
-        if line in self.putters:
-            self.done(self.putters[line], control, number)
-        slots = control << SHIFT
-        for layer, head, weight in self.ends.get(line, ()):
-            slot = slots | layer
-            self.heads_at.setdefault(slot, []).append((head, number + weight))
-            for behind, more in self.drops_of.get(slot, ()):
-                self.offer(head | behind if head >= 0 else head - behind, number + weight + more)
-        if line in self.longer:
-            for layer, longer in self.longer[line].items():
-                slot = slots | layer
-                self.lines_at.setdefault(slot, []).append((longer, number))
-                for behind, more in self.drops_of.get(slot, ()):
-                    self.offer(-(longer << SHIFT | behind), number + more)
+        waiting = self.waiting
+        drops_of = self.drops_of
+        for layer, base, more in self.further[line]:
+            slot = control << SHIFT | layer
+            more += number
+            if slot in waiting:
+                waiting[slot].append((base, more))
+            else:
+                waiting[slot] = [(base, more)]
+            if slot in drops_of:
+                self.offer_all(drops_of[slot], base, more)
+            if slot in self.taken:
+                self.offer(base, more + 1)
+
+    def settle_held(self, slot, behind, number):
+        """Offers what comes of a drop with a control held back, as a rule that takes nothing may bring about this."""
+        control = slot >> SHIFT
+        drop = (slot & LAST) << SHIFT | behind
+        self.drops_from.setdefault(control, []).append((drop, number))
+        if control in self.freely:
+            self.offer(drop, number + self.freely[control])
 
     def settle_freely(self, control, number):
         """Offers what comes of a rule that takes nothing and has a control held back."""
@@ -210,16 +216,20 @@ class Solver:
             for drop, more in self.drops_from.get(control, ()):
                 self.offer(drop, number + more)
 
+    def complete(self):
+        """Notes the drops of the layers that a rule takes off, too; what was settled is not settled on any more."""
+        for slot in self.taken:
+            self.numbers[slot << SHIFT] = 1
+            self.drops_of.setdefault(slot, []).append((0, 1))
+        self.taken = {}
+
     def number_down(self, layers):
         """The least number with which layers come down, None if they do not."""
         ways = {0: 0}
         for layer in layers:
-            number = self.layer_numbers.get(layer)
-            if number is None:
-                return None
             further = {}
             for control, ahead in ways.items():
-                for behind, more in self.drops_of.get(control << SHIFT | number, ()):
+                for behind, more in self.drops_of.get(control << SHIFT | layer, ()):
                     if behind not in further or ahead + more < further[behind]:
                         further[behind] = ahead + more
             ways = further
@@ -236,6 +246,7 @@ class Solver:
             return None if number is None else (number, 0)
         # A row may come down with a drop of that very number.
         self.settle(0)
+        self.complete()
         for index, row in enumerate(rows):
             if self.number_down(row) == number:
                 return (number, index)

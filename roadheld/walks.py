@@ -96,11 +96,11 @@ def goings_of(rows):
 
 
 def led(goings, states, layers):
-    """The ascending list of the states to which rows lead from some states along layers."""
+    """The states to which rows lead from some states along layers; both as keys of dicts."""
     reached = states
     for layer in layers:
         if layer not in goings:
-            return []
+            return {}
         going = goings[layer]
         further = {}
         for state in reached:
@@ -108,13 +108,13 @@ def led(goings, states, layers):
                 for other in going[state]:
                     further[other] = True
         reached = further
-    return sorted(reached)
+    return reached
 
 
 def led_once(rows, states, layers):
     """The states to which rows lead from some states along one list of layers alone; both as keys of dicts."""
     if len(layers) > FEW:
-        return {state: True for state in led(goings_of(rows), states, layers)}
+        return led(goings_of(rows), states, layers)
     reached = states
     for layer in layers:
         reached = {other: True for state, its, other in rows if state in reached and its == layer}

@@ -6,7 +6,7 @@ import unittest
 
 from roadheld.alike import least_machine
 from roadheld.comings import attack_to
-from roadheld.folding import fold
+from roadheld.folding import folded
 from roadheld.growing import grown, machine_of, turned
 from roadheld.machines import is_machine, is_taken
 from roadheld.papers import judged_paper
@@ -16,6 +16,17 @@ from tests.samples import L, M, Odd, P, deep, r, tight, w1, w2, w3, weak, words_
 
 LETTERS = [w1, w2]
 
+
+def fold(machine):
+    """What comes of a machine when it is folded."""
+    many, firsts, rows, ends = machine
+    layers = sorted({layer for _, layer, _ in rows})
+    goings = [{} for _ in range(many)]
+    for state, layer, other in rows:
+        at = layers.index(layer)
+        goings[state][at] = goings[state].get(at, 0) | 1 << other
+    lots = [sum(1 << state for state in states) for states in (firsts, ends)]
+    return folded([list(going.items()) for going in goings], lots[0], lots[1], layers)
 
 
 class TestGrown(unittest.TestCase):

@@ -4,14 +4,20 @@ import copy
 import time
 import unittest
 
+from roadheld.agents import Post
+from roadheld.alike import least_machine
+from roadheld.answers import answer_for, is_answer
 from roadheld.attacks import attack_of, fewest, judged_attack
-from roadheld.comings import fewest_moves, is_attack_to
+from roadheld.charts import chart, judged_chart
+from roadheld.comings import fewest_moves, is_attack_to, judged_never, never
 from roadheld.drops import all_drops, down
 from roadheld.errors import BadLayers, BadMachine, BadRules
+from roadheld.growing import grown, machine_of
 from roadheld.machines import is_machine, is_taken, states_behind
 from roadheld.protocols import read_protocol
-from roadheld.rules import after, rules_of
-from tests.samples import P, listed
+from roadheld.rules import after, first_messages, rules_of
+from tests.plain import bent
+from tests.samples import G, H, T, P, listed
 
 GREET = read_protocol("protocol greet { 0 takes nothing puts label 0 , cipher 1 ; 1 takes label 0 , cipher 1 puts cipher 0 ; "
                       "0 takes cipher 0 puts word 1 , cipher 1 ; 1 takes word 1 , cipher 1 puts cipher 0 , label 1 ; }")
@@ -53,6 +59,40 @@ OTHERS = [
 ]
 
 
+FIRST = [([("label", "ann"), ("cipher", "bob")], 0)]
+LAST = [([("cipher", "bob"), ("label", "ann")], 0)]
+BARE = answer_for(T, [G], FIRST)
+SAFE = answer_for(T, [H], LAST)
+NEST = read_protocol("protocol nest { 0 takes nothing puts cipher 0 , cipher 1 ; 1 takes seal 1 , cipher 1 puts nothing ; }")
+NESTED = first_messages(T, [NEST], "ann", "bob", 7)
+KEYS = [(kind, agent) for kind in ("cipher", "seal") for agent in ("ann", "bob")]
+CHART = chart(T, [NEST], NESTED, KEYS)
+JUDGED = [
+    (is_answer, (T, [G], FIRST, BARE), True),
+    (is_answer, (T, [G], FIRST, ("bare", 0, 5) + BARE[3:]), False),
+    (is_answer, (T, [G], FIRST, BARE[:4] + ([],)), False),
+    (is_answer, (T, [G], FIRST, ("bare", 5) + BARE[2:]), False),
+    (is_answer, (T, [G], FIRST, None), False),
+    (is_answer, (T, [G], FIRST, SAFE), False),
+    (is_answer, (T, [H], LAST, SAFE), True),
+    (is_answer, (T, [H], LAST, BARE), False),
+    (is_answer, (T, [G], FIRST, listed(BARE)), True),
+    (down, (CHAIN, [("word", 0), ("word", 3)]), 142),
+    (down, (rules_of(T, [G]), LAYERS), 4),
+    (down, (rules_of(T, [H]), LAYERS[::-1]), None),
+    (judged_chart, (T, [NEST], NESTED, KEYS, CHART), None),
+    (judged_chart, (T, [NEST], NESTED, KEYS, (CHART[0][1:], CHART[1])), ("lot", CHART[0][0][0])),
+    (judged_chart, (T, [NEST], NESTED, KEYS, (CHART[0], CHART[1][::-1])), None),
+    (judged_chart, (T, [NEST], NESTED, KEYS, (CHART[1], CHART[0])), ("bare", 0)),
+]
+POST = Post(["ann", "bob", "cy", "f"], [("cipher", "ann"), ("seal", "ann")])
+SWAP = rules_of(POST, [read_protocol(
+    "protocol swap { 0 takes nothing puts cipher 1 ; 1 takes cipher 1 puts cipher 0 , word 2 , word 2 ; 1 takes cipher 1 , "
+    "word 2 , word 2 puts cipher 0 ; 1 takes cipher 1 puts seal 1 , cipher 0 , label 1 , label 1 ; }")])
+SWAPPED = [([("cipher", "bob")], 0), ([("label", "cy"), ("cipher", "f")], 1)]
+ASKED = [("cipher", "cy"), ("seal", "bob"), ("seal", "bob")]
+
+
 class TestOften(unittest.TestCase):
     def test_each_some_thousand_times(self):
         begin = time.time()
@@ -82,6 +122,41 @@ class TestOften(unittest.TestCase):
                 self.assertEqual(attack_of(*QUESTION, 3), ("long", 4))
                 self.assertIsNone(attack_of(P, [], QUESTION[2], 200))
         self.assertLess(time.time() - begin, 10)
+
+    def test_judged(self):
+        begin = time.time()
+        for at in range(600):
+            for function, passed, due in JUDGED:
+                self.assertEqual(function(*passed), due)
+            other, its, told = OTHERS[at % len(OTHERS)]
+            self.assertEqual(other(*its), told)
+        self.assertLess(time.time() - begin, 20)
+
+    def test_bent_answers(self):
+        begin = time.time()
+        wrong = 0
+        for question, right in (((T, [G], FIRST), BARE), ((T, [H], LAST), SAFE)):
+            for thing in bent(right, [0, 1, None, ("word", 1)]):
+                wrong += not is_answer(*question, thing)
+                if wrong % 50 == 0:
+                    self.assertIs(is_answer(*question, right), True)
+        self.assertGreater(wrong, 1000)
+        self.assertLess(time.time() - begin, 10)
+
+    def test_grown(self):
+        begin = time.time()
+        machine = machine_of(SWAPPED)
+        least = least_machine(grown(SWAP, machine))
+        first, second = grown(SWAP, machine), never(SWAP, SWAPPED, ASKED)
+        self.assertIsNone(judged_never(SWAP, SWAPPED, ASKED, second))
+        for at in range(400):
+            self.assertEqual(grown(SWAP, machine), first)
+            self.assertEqual(never(SWAP, SWAPPED, ASKED), second)
+            if at % 40 == 0:
+                self.assertEqual(least_machine(grown(SWAP, machine)), least)
+                self.assertIsNone(never(SWAP, SWAPPED, [("cipher", "f")]))
+                self.assertEqual(least_machine(grown(SWAP[:5], machine_of([]))), (1, [0], [], []))
+        self.assertLess(time.time() - begin, 20)
 
     def test_what_is_passed_is_looked_at_each_time(self):
         rules, machine = listed(CHAIN), listed(MACHINE)

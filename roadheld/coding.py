@@ -1,0 +1,122 @@
+"""Rules in numbers, so that they can be solved soon: words are numbered by themselves, other layers as they come."""
+
+from roadheld.forms import WORDS, is_agents_text, is_row
+
+WORD_LAYERS = (("word", 0), ("word", 1), ("word", 2), ("word", 3), ("word", 4), ("word", 5), ("word", 6), ("word", 7),
+               ("word", 8), ("word", 9))
+
+
+class Coded:
+    """Rules in numbers.
+
+    The first rule that only takes a layer, and the first one that only puts it, stand by themselves, by its number:
+    of these there are most. The others are triples of an index, what is taken and what is put.
+    """
+
+    def __init__(self):
+        self.kinds = {"cipher": {}, "seal": {}, "label": {}}
+        self.layers = list(WORD_LAYERS)
+        self.known = {}
+        self.taken = {}
+        self.freed = {}
+        self.rest = []
+
+    def code(self, layer):
+        """The number of a plain layer, a new one if it has none yet."""
+        kind, whose = layer
+        if kind == "word":
+            return whose
+        owners = self.kinds[kind]
+        if whose not in owners:
+            owners[whose] = len(self.layers)
+            self.layers.append(layer)
+        return owners[whose]
+
+    def code_row(self, layers):
+        """The numbers of plain layers."""
+        return [self.code(layer) for layer in layers]
+
+    def one_more(self):
+        """The number of something that lies among layers, and is none."""
+        self.layers.append(None)
+        return len(self.layers) - 1
+
+    def is_new(self, kind, whose):
+        """Whether two texts are a layer; it has no number yet, and gets one if it is."""
+        if kind not in self.kinds:
+            return False
+        if whose not in self.known:
+            if not is_agents_text(whose):
+                return False
+            self.known[whose] = True
+        self.kinds[kind][whose] = len(self.layers)
+        self.layers.append((kind, whose))
+        return True
+
+    def layers_in(self, thing):
+        """A list of layers of any agents in numbers; None for anything else.
+
+        All layers that are handed in to be solved come through here, so this is written to be done fast.
+        """
+        if not isinstance(thing, list) and not isinstance(thing, tuple):
+            return None
+        row = []
+        kinds = self.kinds
+        for layer in thing:
+            if not isinstance(layer, tuple) and not isinstance(layer, list) or len(layer) != 2:
+                return None
+            kind, whose = layer
+            if not isinstance(kind, str):
+                return None
+            if kind == "word":
+                if not isinstance(whose, int) or whose is True or whose is False or not 0 <= whose < WORDS:
+                    return None
+                row.append(whose)
+            elif not isinstance(whose, str):
+                return None
+            elif kind in kinds and whose in kinds[kind] or self.is_new(kind, whose):
+                row.append(kinds[kind][whose])
+            else:
+                return None
+        return row
+
+    def note(self, index, takes, puts):
+        """Notes what the rule of an index takes and puts, in numbers."""
+        if not takes and len(puts) == 1 and puts[0] not in self.freed:
+            self.freed[puts[0]] = index
+        elif not puts and len(takes) == 1 and takes[0] not in self.taken:
+            self.taken[takes[0]] = index
+        else:
+            self.rest.append((index, takes, puts))
+
+    def note_all(self, thing):
+        """Notes a list of rules; tells the index of the first thing that is none, 0 for no list, or None."""
+        if not is_row(thing):
+            return 0
+        taken = self.taken
+        freed = self.freed
+        for index, rule in enumerate(thing):
+            if not isinstance(rule, tuple) and not isinstance(rule, list) or len(rule) != 3:
+                return index
+            takes, puts, _ = rule
+            takes = () if isinstance(takes, list) and not takes else self.layers_in(takes)
+            puts = () if isinstance(puts, list) and not puts else self.layers_in(puts)
+            if takes is None or puts is None:
+                return index
+            if len(takes) + len(puts) != 1:
+                self.rest.append((index, takes, puts))
+            elif puts and puts[0] not in freed:
+                freed[puts[0]] = index
+            elif takes and takes[0] not in taken:
+                taken[takes[0]] = index
+            else:
+                self.rest.append((index, takes, puts))
+        return None
+
+
+def coded_rules(rules):
+    """Plain rules in numbers."""
+    coded = Coded()
+    for index, (takes, puts, _) in enumerate(rules):
+        coded.note(index, coded.code_row(takes), coded.code_row(puts))
+    return coded
