@@ -1,5 +1,6 @@
 """Lists that meet all of some lots, and least and greatest lists found with few askings."""
 
+from roadheld.askings import chart_lots, meeting_more
 from roadheld.errors import BadKeys
 from roadheld.forms import are_unlike, is_row
 from roadheld.refusals import BadLots
@@ -45,30 +46,6 @@ def as_lot(thing, places):
     return sum([1 << places[key] for key in keys])
 
 
-def are_within(lot, other):
-    """Whether all keys of a lot are keys of another one."""
-    return lot & other == lot
-
-
-def least_of(lots):
-    """Those of lots within which there is no other one; each once."""
-    kept = []
-    for lot in sorted({lot: True for lot in lots}):
-        # What lies within a lot is no greater a number.
-        if not any([are_within(other, lot) for other in kept]):
-            kept.append(lot)
-    return kept
-
-
-def meeting_more(meetings, lot, many):
-    """The least lots that meet one lot more than some least ones do."""
-    told = [other for other in meetings if other & lot]
-    for other in meetings:
-        if not other & lot:
-            told.extend([other | 1 << at for at in range(many) if lot >> at & 1])
-    return least_of(told)
-
-
 def told_lots(lots, keys):
     """Lots as ascending lists of keys, ascending."""
     return sorted([[key for at, key in enumerate(keys) if lot >> at & 1] for lot in lots])
@@ -102,35 +79,9 @@ class Asking:
             self.known[lot] = bool(ask([key for at, key in enumerate(self.all_keys) if lot >> at & 1]))
         return self.known[lot]
 
-    def first_false(self, lots):
-        """The first one of lots of which the function tells False, None if there is none."""
-        for lot in lots:
-            if not self.holds(lot):
-                return lot
-        return None
-
-    def filled(self, lot):
-        """A lot of which the function tells False, filled up as long as it does so."""
-        for at in range(len(self.all_keys)):
-            if not lot >> at & 1 and not self.holds(lot | 1 << at):
-                lot |= 1 << at
-        return lot
-
 
 def charted(ask, keys):
-    """The least lists for which a function tells True, and the greatest ones for which it tells False.
-
-    Each list that meets what the greatest ones found so far leave out, and does not without any one of its keys,
-    is a least one, or can be filled up to one more of the greatest.
-    """
+    """The least lists for which a function tells True, and the greatest ones for which it tells False."""
     plain = checked_plain_keys(keys)
-    asking = Asking(ask, plain)
-    every = (1 << len(plain)) - 1
-    greatest = []
-    meetings = [0]
-    while True:
-        lot = asking.first_false(meetings)
-        if lot is None:
-            return (told_lots(meetings, plain), told_lots(greatest, plain))
-        greatest.append(asking.filled(lot))
-        meetings = meeting_more(meetings, every - greatest[-1], len(plain))
+    least, greatest = chart_lots(Asking(ask, plain), len(plain))
+    return (told_lots(least, plain), told_lots(greatest, plain))

@@ -83,13 +83,8 @@ def rules_of(post, protocols):
     return rules
 
 
-def rules_needed(post, protocols, rows):
-    """Rules by which rows of layers come down as soon as by all rules, where they come down at all.
-
-    A layer that is in none of the rows, and that no answer takes or puts, is of no use: the adversary has put it on,
-    and has to take it off. So its rules are left out; some of the others may take and put the same.
-    """
-    agents = post.agents()
+def layers_needed(agents, protocols, rows):
+    """The layers of some rows, and those that answers of protocols by some agents take or put."""
     needed = {layer: True for row in rows for layer in row}
     kinds = {}
     for protocol in protocols:
@@ -100,7 +95,18 @@ def rules_needed(post, protocols, rows):
                 else:
                     kinds[layer[0]] = True
     needed.update({(kind, agent): True for kind in kinds for agent in agents})
-    return rules_of_adversary(list(needed), post.keyring()) + rules_of_answers(agents, protocols)
+    return list(needed)
+
+
+def rules_needed(post, protocols, rows):
+    """Rules by which rows of layers come down as soon as by all rules, where they come down at all.
+
+    A layer that is in none of the rows, and that no answer takes or puts, is of no use: the adversary has put it on,
+    and has to take it off. So its rules are left out; some of the others may take and put the same.
+    """
+    agents = post.agents()
+    layers = layers_needed(agents, protocols, rows)
+    return rules_of_adversary(layers, post.keyring()) + rules_of_answers(agents, protocols)
 
 
 def after(rules, layers, rule):
