@@ -1,4 +1,7 @@
-"""Lots that meet others, and least and greatest lots found with few askings; a lot is an integer, its bits its parts."""
+"""Lots that meet others, and least and greatest lots found with few askings.
+
+A lot is an integer, its bits its parts.
+"""
 
 
 def are_within(lot, other):

@@ -2,8 +2,12 @@
 
 from roadheld.agents import Post
 from roadheld.attacks import fewest
+from roadheld.coding import coded_rules
+from roadheld.deeds import dealt_step
 from roadheld.exchange import agents_in
 from roadheld.handed import checked_messages, checked_most, checked_post, checked_protocols
+from roadheld.rules import rules_needed
+from roadheld.solving import Solver
 
 # With more lost agents than so many no message comes bare any sooner.
 MANY_ENOUGH = 6
@@ -30,6 +34,21 @@ def post_with(post, agents, many):
     return Post(agents + lost, keys + [(kind, agent) for kind in ("cipher", "seal") for agent in lost])
 
 
+def lower_bound(post, protocols, held, lost):
+    """A number than which no less is told, however many lost agents there are, one of whom stands for all of them.
+
+    That one has to be able to answer itself, as two of them may answer each other.
+    """
+    rows = [layers for layers, _ in held]
+    rules = rules_needed(post, protocols, rows)
+    for protocol in protocols:
+        for step in protocol.plain_steps()[1:]:
+            takes, puts = dealt_step(step, lost, lost)
+            rules.append((takes, puts, None))
+    coded = coded_rules(rules)
+    return Solver(coded, None, [coded.code_row(row) for row in rows]).least_number()
+
+
 def numbers_by(post, protocols, messages, most):
     """The least numbers of moves by which one of messages comes bare, with one lost agent more, two, and so on."""
     checked_post(post)
@@ -37,10 +56,16 @@ def numbers_by(post, protocols, messages, most):
     held = checked_messages(messages, post.agents())
     checked_most(most)
     agents = agents_in(held)
+    bound = None
     told = []
     for many in range(1, min(most, MANY_ENOUGH) + 1):
-        found = fewest(post_with(post, agents, many), protocols, held)
+        with_lost = post_with(post, agents, many)
+        found = fewest(with_lost, protocols, held)
         if found is None:
             return [None for _ in range(most)]
         told.append(found[0])
+        if many == 1:
+            bound = lower_bound(with_lost, protocols, held, new_agents(agents, 1)[0])
+        if told[-1] == bound:
+            break
     return told + [told[-1] for _ in range(most - len(told))]

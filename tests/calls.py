@@ -2,7 +2,7 @@
 
 from roadheld import agents, alike, answers, asking, attacks, audits, books, charts, closedlists, comings, costs, desks, drops
 from roadheld import exchange, growing, keylots, ledover, machines, meetings, messages, papers, papertexts, posts, protocols
-from roadheld import errors, refusals, rules, wordsapart
+from roadheld import errors, houses, howsoon, listening, mends, packing, protocollots, refusals, rules, runs, wordsapart
 from roadheld.agents import Post
 from roadheld.protocols import Proto
 from tests.samples import G, H, L, M, P, T, WEAK_RULES, Alike, Odd, r, strong, things, w1, w2, w3, weak
@@ -128,6 +128,21 @@ UNPARTED = (refusals.BadAttack, "attack", kept([(0,), (0, [], 0), (-1, []), (0, 
 NO_TEXT = [(b"states 1", 0), ("states 0", 0), (["states 1", "firsts", "ends"], 0)]
 POST_LAYER = (errors.BadLayer, "layer", kept(WRONG_LAYERS + [("cipher", "zoe"), ("seal", "zoe"), ("label", "zoe")]))
 ANY = None
+OTHER_RULES = [([w1, w2], [w3], None), ([w3], [], None), ([], [w1], None), ([w1], [], None)]
+RUN = [2, 3, 2, 0, 1, 2, 0, 1]
+# A list of no moves is a run, but no attack.
+MOVES = (errors.BadMoves, "index", [(thing, told) for thing, told in first_of(
+    [([4], 0), ([2, -1], 1), ([2, 3, 4], 2), ([2, True], 1), ([0], 0), ([2, 0, 0], 2), ([2, 0, 1, 2, 0, 10 ** 3000], 5), ({0: 2}, 0)])])
+PACKED_MOVES = (errors.BadMoves, "index", MOVES[2] + [([2, 0, 1], 3), (RUN + [2, 3], 10), ((), 0)])
+ZERO = (errors.BadZero, "zero", kept(NO_AGENTS + ["zoe"]))
+ONE = (errors.BadOne, "one", kept(NO_AGENTS + ["zoe", "ann"]))
+NAMES = (refusals.BadNames, "names", kept(["greet", ["greet", "greet"], ["zoe"], ["greet", "hid"], {"greet": 1}]))
+NEW_LAYERS = (errors.BadLayers, "layers", kept(NO_PART_ROWS + [[("label", 0), ("label", 0)], [w1, ["word", 1]]]))
+STUCK = Proto("stuck", [(0, [], [("cipher", 1)]), (1, [w1], [])])
+GOING = (errors.BadProtocol, "protocol", kept([[G], "greet", Proto, T, STUCK]))
+CORE = (errors.BadCore, "core", [(thing, thing) for thing in [True, False, None, "7", 7.0, [7], Post, {}, object()]])
+MENDS = (refusals.BadMend, "mend", kept([("add", 2, 0, ("label", 0)), ("add", 0, 3, ("label", 0)), ("add", 0, 0, ("seal", 1)),
+                                         ("shift", 0, 1, 1), ("shift", 0, 0, 2), ("add", 0, 0), ("put", 0, 0, w1), ("add", True, 0, w1)]))
 
 CALLS = [
     (agents.Post, [("agents", ["bob", "ann", "eve"], (errors.BadAgents, "agents", kept(
@@ -253,6 +268,35 @@ CALLS = [
     (wordsapart.paper_parted, [("protocols", [G, weak], PROTOCOLS), ("paper", M, (refusals.BadPaper, "paper", kept(NO_MACHINES)))]),
     (desks.Desk, [("post", T, POST), ("protocols", [G], PROTOCOLS), ("messages", FIRST, POST_MESSAGES)]),
     (desks.read_desk, [("text", DESK.text(), (refusals.BadDesk, "line", first_of([(TEXT.encode(), 0), (["agents"], 0)])))]),
+    (runs.is_run, [("rules", OTHER_RULES, RULES), ("layers", [w2, w2], LAYERS), ("thing", RUN, ANY)]),
+    (runs.laid_by, [("rules", OTHER_RULES, RULES), ("layers", [w2, w2], LAYERS), ("moves", RUN[:4], MOVES)]),
+    (runs.offs, [("rules", OTHER_RULES, RULES), ("layers", [w2, w2], LAYERS), ("moves", RUN[:6], MOVES)]),
+    (packing.packed, [("rules", OTHER_RULES, RULES), ("layers", [w2, w2], LAYERS), ("moves", RUN, PACKED_MOVES)]),
+    (howsoon.numbers_by, [("post", T, POST), ("protocols", [G], PROTOCOLS), ("messages", FIRST, POST_MESSAGES), ("most", 3, MOST)]),
+    (mends.goes_on, [("protocol", STUCK, PROTOCOL)]),
+    (mends.mended, [("protocol", G, PROTOCOL), ("mend", ("add", 0, 1, ("seal", 0)), MENDS)]),
+    (mends.mends, [("protocol", G, PROTOCOL), ("layers", [w1, ("label", 1)], NEW_LAYERS)]),
+    (listening.counted_moves, [("post", T, POST), ("protocols", [G], PROTOCOLS), ("agents", ["bob", "ann"], (errors.BadAgents, "agents", kept(
+        ["ann", ["ann", "ann"], ["zoe"], {"ann": 1}] + [["bob", name] for name in NO_AGENTS])))]),
+    (listening.answers_needed, [("post", T, POST), ("protocols", [G], PROTOCOLS), ("messages", FIRST, POST_MESSAGES),
+                                ("agents", ["bob", "ann"], (errors.BadAgents, "agents", kept(["ann", ["ann", "ann"], ["zoe"]])))]),
+    (listening.run_messages, [("protocol", G, GOING), ("agent", "yan", (errors.BadAgent, "agent", kept(NO_AGENTS))),
+                              ("partner", "zoe", (errors.BadPartner, "partner", kept(NO_AGENTS + ["yan"]))), ("core", 7, CORE)]),
+    (listening.overheard, [("post", T, POST), ("protocol", G, GOING), ("agent", "ann", (errors.BadAgent, "agent", kept(NO_AGENTS + ["zoe"]))),
+                           ("partner", "eve", (errors.BadPartner, "partner", kept(NO_AGENTS + ["zoe", "ann"])))]),
+    (protocollots.falls, [("post", T, POST), ("protocols", [G, H], PROTOCOLS), ("zero", "ann", ZERO), ("one", "bob", ONE),
+                          ("names", ["hide", "greet"], NAMES)]),
+    (protocollots.least_falling, [("post", T, POST), ("protocols", [G, H], PROTOCOLS), ("zero", "ann", ZERO), ("one", "bob", ONE)]),
+    (protocollots.greatest_lasting, [("post", T, POST), ("protocols", [G, H], PROTOCOLS), ("zero", "ann", ZERO), ("one", "bob", ONE)]),
+    (protocollots.least_mixed, [("post", T, POST), ("protocols", [H], PROTOCOLS), ("zero", "ann", ZERO), ("one", "bob", ONE),
+                                ("keys", KEYS, ASKED_KEYS)]),
+    (protocollots.first_falling, [("post", T, POST), ("protocols", [H, G], PROTOCOLS), ("zero", "ann", ZERO), ("one", "bob", ONE)]),
+    (protocollots.used_protocols, [("protocols", [H, G, weak], PROTOCOLS), ("attack", ATTACK, (refusals.BadAttack, "attack", kept(
+        [(0, [("answer", "zoe", "ann", "bob", 1)]), (0,), (-1, []), (0, [("own", 1)]), (0, [None])]))),
+                                   ("begun", "weak", (errors.BadName, "name", kept(["zoe", "Ann", ["weak"]])))]),
+    (houses.fewest_houses, [("post", T, POST), ("protocols", [H, strong], PROTOCOLS), ("zero", "ann", ZERO), ("one", "bob", ONE)]),
+    (houses.judged_houses, [("post", T, POST), ("protocols", [H], PROTOCOLS), ("zero", "ann", ZERO), ("one", "bob", ONE),
+                            ("thing", [(["hide"], PAPER)], ANY)]),
     (alike.least_machine, [("machine", M, MACHINE)]),
     (alike.only_of, [("machine", M, MACHINE), ("other", (1, [0], [(0, w2, 0)], [0]), OTHER_MACHINE)]),
     (alike.parting_layers, [("machine", M, MACHINE), ("other", (1, [0], [(0, w2, 0)], [0]), OTHER_MACHINE)]),
