@@ -19,11 +19,15 @@ def checked_together(post, protocols, zero, one):
     return plain
 
 
-def fall_together(post, protocols, zero, one):
-    """Whether a message that begins of protocols make comes bare with these alone."""
-    rows = [layers for layers, _ in first_messages(post, protocols, zero, one, 0)]
+def comes_bare(post, protocols, rows):
+    """Whether a message of some rows of layers ever comes bare."""
     coded = coded_rules(rules_needed(post, protocols, rows))
     return Solver(coded, None, [coded.code_row(row) for row in rows]).least_number() is not None
+
+
+def fall_together(post, protocols, zero, one):
+    """Whether a message that begins of protocols make comes bare with these alone."""
+    return comes_bare(post, protocols, [layers for layers, _ in first_messages(post, protocols, zero, one, 0)])
 
 
 def by_name(protocols):

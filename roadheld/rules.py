@@ -69,18 +69,23 @@ def rules_of_answers(agents, protocols):
     return rules
 
 
-def rules_of(post, protocols):
-    """The rules of all moves; of those that take and put the same the first one."""
-    agents = checked_post(post).agents()
-    keys = post.keyring()
+def unlike_rules(agents, keys, answers):
+    """The rules of what the adversary, having some keys of agents, may do, and of answers; of like ones the first."""
     rules = rules_of_adversary(layers_of(agents), keys)
     seen = {}
-    for rule in rules_of_answers(agents, checked_protocols(protocols)):
+    for rule in answers:
         done = (tuple(rule[0]), tuple(rule[1]))
         if done not in seen and not is_by_adversary(rule[0], rule[1], keys):
             seen[done] = True
             rules.append(rule)
     return rules
+
+
+def rules_of(post, protocols):
+    """The rules of all moves; of those that take and put the same the first one."""
+    agents = checked_post(post).agents()
+    answers = rules_of_answers(agents, checked_protocols(protocols))
+    return unlike_rules(agents, post.keyring(), answers)
 
 
 def layers_needed(agents, protocols, rows):

@@ -143,7 +143,8 @@ class Solver:
             if GOAL in numbers and numbers[GOAL] < number + alone:
                 return
             heappop(queue)
-            for key in self.buckets.pop(number):
+            keys = self.buckets.pop(number)
+            for key in keys:
                 if numbers[key] < number:
                     continue
                 if key < LINES:

@@ -2,7 +2,8 @@
 
 from roadheld import agents, alike, answers, asking, attacks, audits, books, charts, closedlists, comings, costs, desks, drops
 from roadheld import exchange, growing, keylots, ledover, machines, meetings, messages, papers, papertexts, posts, protocols
-from roadheld import errors, houses, howsoon, listening, mends, packing, protocollots, refusals, rules, runs, wordsapart
+from roadheld import errors, houses, howsoon, listening, mends, packing, prices, programs, programtexts, protocollots, refusals, rules
+from roadheld import runs, standing, taken, tightening, ways, wordsapart
 from roadheld.agents import Post
 from roadheld.protocols import Proto
 from tests.samples import G, H, L, M, P, T, WEAK_RULES, Alike, Odd, r, strong, things, w1, w2, w3, weak
@@ -143,6 +144,30 @@ GOING = (errors.BadProtocol, "protocol", kept([[G], "greet", Proto, T, STUCK]))
 CORE = (errors.BadCore, "core", [(thing, thing) for thing in [True, False, None, "7", 7.0, [7], Post, {}, object()]])
 MENDS = (refusals.BadMend, "mend", kept([("add", 2, 0, ("label", 0)), ("add", 0, 3, ("label", 0)), ("add", 0, 0, ("seal", 1)),
                                          ("shift", 0, 1, 1), ("shift", 0, 0, 2), ("add", 0, 0), ("put", 0, 0, w1), ("add", True, 0, w1)]))
+
+PROGRAM = (1, [("open",), ("check", "label", "partner"), ("either", [("word", 3)], [("word", 4), ("check", "word", 5)]), ("cipher", "partner"),
+               ("send",)])
+BEGIN = (0, [("cipher", "partner"), ("send",)])
+NO_PROGRAMS = [(2, []), (True, []), (1,), (1, [], []), (1, ("open",)), (1, [("open", 1)]), (1, [("check", "cipher", "mine")]), (1, [("word", 10)]),
+               (1, [("word", True)]), (1, [("seal", "mine")]), (1, [("label", "ann")]), (1, [("either", [])]), (1, [("either", [], [None])]),
+               (1, "open"), {1: []}, (1, [("check", "word", "mine")]), (1, [("check", "label", 1)]), (1, [("send",), "send"])]
+PROGRAMS = (errors.BadProgram, "program", kept(NO_PROGRAMS))
+# A list of one empty list is no place, a list of numbers may be one of another program.
+PLACE = (errors.BadPlace, "place", kept([(5,), (), [2, 0], (2, 2, 0), (2, 0, 1), (True,), (-1,), "2", (0, 0, 0), 2]))
+STEP = (1, [("cipher", 1)], [("label", 1)])
+WRONG_ONES = [(1, [("cipher", 0)], []), (1, [], [("seal", 0)]), (1, []), (2, [], []), "abc"]
+WAY = packing.packed(OTHER_RULES, [w2, w2], RUN)
+WAYS = (errors.BadWay, "way", kept([WAY[0], (WAY[0], [5]), (WAY[0], [4, 5, 5]), (WAY[0][1:], [4, 3]), (WAY[0], [True, 4]), (WAY[0], WAY[1], 0), ([], [])]))
+ATTACK_MOVES = (errors.BadMoves, "index", MOVES[2] + [([2, 0, 1], 3), (RUN + [2], 9), ((), 0)])
+PRICED = prices.within(r, [0], [w3], 0)[1]
+PRICES = (refusals.BadPrices, "prices", kept(["ab", [((), w1, ())], [(((), w1, ()), -1)], [(((), w1, ()), True)], PRICED + PRICED[:1], {0: 1}]
+                                             + [[(drop, 1)] for drop in NO_DROPS]))
+MANY = (errors.BadMany, "many", kept(NO_NUMBERS))
+NAME = (errors.BadName, "name", kept(["zoe", "Hide", ["hide"]]))
+TAKEN_PART = (errors.BadPart, "part", kept([0, 2, "1", [1]]))
+TAKEN_AGENT = (errors.BadAgent, "agent", kept(NO_AGENTS + ["zoe"]))
+TAKEN_PARTNER = (errors.BadPartner, "partner", kept(NO_AGENTS + ["zoe", "bob"]))
+SIGN = Proto("sign", [(0, [], [("cipher", 1), ("seal", 0)]), (1, [("cipher", 1), ("seal", 0)], [("cipher", 0)])])
 
 CALLS = [
     (agents.Post, [("agents", ["bob", "ann", "eve"], (errors.BadAgents, "agents", kept(
@@ -297,6 +322,64 @@ CALLS = [
     (houses.fewest_houses, [("post", T, POST), ("protocols", [H, strong], PROTOCOLS), ("zero", "ann", ZERO), ("one", "bob", ONE)]),
     (houses.judged_houses, [("post", T, POST), ("protocols", [H], PROTOCOLS), ("zero", "ann", ZERO), ("one", "bob", ONE),
                             ("thing", [(["hide"], PAPER)], ANY)]),
+    (programs.is_program, [("thing", PROGRAM, ANY)]),
+    (programs.steps_of, [("program", PROGRAM, PROGRAMS)]),
+    (programs.sent, [("program", PROGRAM, PROGRAMS), ("layers", [("cipher", 1), ("label", 0), w1], PART_LAYERS)]),
+    (programs.ran, [("program", PROGRAM, PROGRAMS), ("zero", "ann", (errors.BadZero, "zero", kept(NO_AGENTS))),
+                    ("one", "bob", (errors.BadOne, "one", kept(NO_AGENTS + ["ann"]))),
+                    ("message", ([("cipher", "bob"), ("label", "ann"), w1], 7), (errors.BadMessage, "message", kept([([], 0, 0), [[w1]], ([], True)]))) ]),
+    (programs.covers, [("step", STEP, (errors.BadStep, "step", kept(WRONG_ONES))),
+                       ("other", (1, [("cipher", 1), w1], [("label", 1), w1]), (errors.BadOther, "other", kept(WRONG_ONES + [(0, [], [])])))]),
+    (programs.sent_apart, [("program", PROGRAM, PROGRAMS), ("other", (1, [("send",)]), (errors.BadOther, "other", kept(NO_PROGRAMS + [BEGIN])))]),
+    (programs.program_of, [("part", 1, (errors.BadPart, "part", kept([2, "1", [1]]))), ("steps", [STEP, (1, [], [w1])], (
+        errors.BadSteps, "index", first_of([([], 0), ((), 0), (STEP, 0)] + [([STEP, bad], 1) for bad in WRONG_ONES + [(0, [], [])]])))]),
+    (programs.protocol_of, [("name", "some", (errors.BadName, "name", kept(NO_AGENTS))), ("programs", [BEGIN, PROGRAM], (
+        errors.BadPrograms, "index", first_of([([], 0), ([PROGRAM], 0), ([BEGIN, (1, [])], 1)] + [([BEGIN, bad], 1) for bad in NO_PROGRAMS])))]),
+    (programs.reached, [("program", PROGRAM, PROGRAMS), ("place", (2, 1, 0), PLACE)]),
+    (programs.dead, [("program", PROGRAM, PROGRAMS)]),
+    (programtexts.program_text, [("program", PROGRAM, PROGRAMS)]),
+    (programtexts.read_program, [("text", programtexts.program_text(PROGRAM), ANY)]),
+    (ways.is_way, [("rules", OTHER_RULES, RULES), ("layers", [w2, w2], LAYERS), ("thing", WAY, ANY)]),
+    (ways.number_of, [("rules", OTHER_RULES, RULES), ("layers", [w2, w2], LAYERS), ("way", WAY, WAYS)]),
+    (ways.moves_of, [("rules", OTHER_RULES, RULES), ("layers", [w2, w2], LAYERS), ("way", WAY, WAYS),
+                     ("begin", 2, (errors.BadBegin, "begin", kept(NO_NUMBERS))), ("many", 3, MANY)]),
+    (ways.layers_at, [("rules", OTHER_RULES, RULES), ("layers", [w2, w2], LAYERS), ("way", WAY, WAYS),
+                      ("moment", 6, (errors.BadMoment, "moment", kept(NO_NUMBERS + [9, 10 ** 3000])))]),
+    (ways.highest, [("rules", OTHER_RULES, RULES), ("layers", [w2, w2], LAYERS), ("way", WAY, WAYS)]),
+    (ways.way_offs, [("rules", OTHER_RULES, RULES), ("layers", [w2, w2], LAYERS), ("way", WAY, WAYS)]),
+    (tightening.loose_stretch, [("rules", OTHER_RULES, RULES), ("layers", [w2, w2], LAYERS), ("moves", RUN, ATTACK_MOVES)]),
+    (tightening.tightened, [("rules", OTHER_RULES, RULES), ("layers", [w2, w2], LAYERS), ("moves", RUN, ATTACK_MOVES)]),
+    (prices.first_dear, [("rules", r, RULES), ("counted", [0], COUNTED), ("prices", PRICED[:1], PRICES)]),
+    (prices.is_price_list, [("rules", r, RULES), ("counted", [0], COUNTED), ("thing", PRICED, ANY)]),
+    (prices.least_sum, [("prices", PRICED, PRICES), ("layers", [w2, w2], LAYERS)]),
+    (prices.within, [("rules", r, RULES), ("counted", [1], COUNTED), ("layers", [w2, w2], LAYERS), ("most", 1, MOST)]),
+    (prices.within, [("rules", r, RULES), ("counted", [1], COUNTED), ("layers", [w2, w2], LAYERS), ("most", 2, MOST)]),
+    (taken.rules_without, [("post", T, POST), ("protocols", [H], PROTOCOLS), ("name", "hide", NAME), ("agent", "bob", TAKEN_AGENT),
+                           ("partner", "ann", TAKEN_PARTNER)]),
+    (taken.taken_in, [("post", T, POST), ("protocols", [H], PROTOCOLS), ("name", "hide", NAME), ("part", 1, TAKEN_PART),
+                      ("agent", "bob", TAKEN_AGENT), ("partner", "ann", TAKEN_PARTNER)]),
+    (taken.attack_in, [("post", T, POST), ("protocols", [H], PROTOCOLS), ("name", "hide", NAME), ("part", 1, TAKEN_PART),
+                       ("agent", "bob", TAKEN_AGENT), ("partner", "ann", TAKEN_PARTNER), ("most", 3, MOST)]),
+    (taken.is_attack_in, [("post", T, POST), ("protocols", [H], PROTOCOLS), ("name", "hide", NAME), ("part", 1, TAKEN_PART),
+                          ("agent", "bob", TAKEN_AGENT), ("partner", "ann", TAKEN_PARTNER),
+                          ("thing", taken.attack_in(T, [H], "hide", 1, "bob", "ann", 3), ANY)]),
+    (taken.paper_in, [("post", T, POST), ("protocols", [SIGN], PROTOCOLS), ("name", "sign", NAME), ("part", 1, TAKEN_PART),
+                      ("agent", "bob", TAKEN_AGENT), ("partner", "ann", TAKEN_PARTNER)]),
+    (taken.is_paper_in, [("post", T, POST), ("protocols", [SIGN], PROTOCOLS), ("name", "sign", NAME), ("part", 1, TAKEN_PART),
+                         ("agent", "bob", TAKEN_AGENT), ("partner", "ann", TAKEN_PARTNER),
+                         ("thing", taken.paper_in(T, [SIGN], "sign", 1, "bob", "ann"), ANY)]),
+    (standing.stands, [("post", T, POST), ("protocols", [H, G], PROTOCOLS), ("name", "hide", NAME)]),
+    (standing.helping, [("post", T, POST), ("protocols", [H, weak], PROTOCOLS), ("name", "weak", NAME), ("layers", [w1, ("label", 0)], NEW_LAYERS)]),
+    (standing.lots_of, [("protocol", weak, PROTOCOL), ("layers", [w1, ("label", 0)], NEW_LAYERS), ("many", 1, MANY)]),
+    (standing.least_lots, [("post", T, POST), ("protocols", [weak], PROTOCOLS), ("name", "weak", NAME), ("layers", [("label", 0)], NEW_LAYERS),
+                           ("most", 1, MOST)]),
+    (standing.shown_mend, [("post", T, POST), ("protocols", [weak], PROTOCOLS), ("name", "weak", NAME), ("layers", [("label", 0)], NEW_LAYERS),
+                           ("most", 1, MOST)]),
+    (standing.shown_mend, [("post", T, POST), ("protocols", [weak], PROTOCOLS), ("name", "weak", NAME), ("layers", [w1], NEW_LAYERS), ("most", 1, MOST)]),
+    (standing.is_mend, [("post", T, POST), ("protocols", [weak], PROTOCOLS), ("name", "weak", NAME), ("layers", [("label", 0)], NEW_LAYERS),
+                        ("most", 1, MOST), ("thing", standing.shown_mend(T, [weak], "weak", [("label", 0)], 1), ANY)]),
+    (standing.is_fall, [("post", T, POST), ("protocols", [weak], PROTOCOLS), ("name", "weak", NAME), ("layers", [w1], NEW_LAYERS),
+                        ("most", 1, MOST), ("thing", standing.shown_mend(T, [weak], "weak", [w1], 1), ANY)]),
     (alike.least_machine, [("machine", M, MACHINE)]),
     (alike.only_of, [("machine", M, MACHINE), ("other", (1, [0], [(0, w2, 0)], [0]), OTHER_MACHINE)]),
     (alike.parting_layers, [("machine", M, MACHINE), ("other", (1, [0], [(0, w2, 0)], [0]), OTHER_MACHINE)]),
