@@ -10,7 +10,8 @@ class Coded:
     """Rules in numbers.
 
     The first rule that only takes a layer, and the first one that only puts it, stand by themselves, by its number:
-    of these there are most. The others are triples of an index, what is taken and what is put.
+    of these there are most. The others are triples of an index, what is taken and what is put. Besides there may be
+    some that count nothing, and take more than one layer: pairs of what is taken and what is put.
     """
 
     def __init__(self):
@@ -20,21 +21,26 @@ class Coded:
         self.taken = {}
         self.freed = {}
         self.rest = []
+        self.idle = []
 
     def code(self, layer):
-        """The number of a plain layer, a new one if it has none yet."""
-        kind, whose = layer
-        if kind == "word":
-            return whose
-        owners = self.kinds[kind]
-        if whose not in owners:
-            owners[whose] = len(self.layers)
-            self.layers.append(layer)
-        return owners[whose]
+        """The number of a plain layer; it gets one if it has none yet."""
+        return self.code_row((layer,))[0]
 
     def code_row(self, layers):
-        """The numbers of plain layers."""
-        return [self.code(layer) for layer in layers]
+        """The numbers of plain layers; those that have none yet get one."""
+        row = []
+        for layer in layers:
+            kind, whose = layer
+            if kind == "word":
+                row.append(whose)
+                continue
+            owners = self.kinds[kind]
+            if whose not in owners:
+                owners[whose] = len(self.layers)
+                self.layers.append(layer)
+            row.append(owners[whose])
+        return row
 
     def one_more(self):
         """The number of something that lies among layers, and is none."""
@@ -118,5 +124,5 @@ def coded_rules(rules):
     """Plain rules in numbers."""
     coded = Coded()
     for index, (takes, puts, _) in enumerate(rules):
-        coded.note(index, coded.code_row(takes), coded.code_row(puts))
+        coded.note(index, coded.code_row(takes) if takes else (), coded.code_row(puts) if puts else ())
     return coded

@@ -49,10 +49,11 @@ class Growth:
         _, firsts, rows, ends = machine
         begin = {state: True for state in firsts}
         for state, layer, other in rows:
+            number = coded.code(layer)
             others = 1 << self.number_of(other)
-            self.note_row(coded.code(layer), self.number_of(state), others)
+            self.note_row(number, self.number_of(state), others)
             if state in begin:
-                self.note_row(coded.code(layer), TOP, others)
+                self.note_row(number, TOP, others)
         for state in ends:
             self.ends |= 1 << self.number_of(state)
             if state in begin:

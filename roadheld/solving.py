@@ -49,6 +49,8 @@ class Solver:
         self.drops_from = {}
         self.freely = {}
         self.plant_all(coded.rest, rows)
+        for takes, puts in coded.idle:
+            self.plant(self.head_of(takes), puts, 0)
         if weights is not None:
             for slot, index in coded.taken.items():
                 self.offer(slot << SHIFT, weights[index])
@@ -164,12 +166,21 @@ class Solver:
             drops_of[slot] = [(behind, number)]
         if slot in self.waiting:
             self.offer_all(self.waiting[slot], behind, number)
+        if slot > LAST:
+            # A rule that takes nothing may have brought about what was held back.
+            control = slot >> SHIFT
+            drop = (slot & LAST) << SHIFT | behind
+            if control in self.drops_from:
+                self.drops_from[control].append((drop, number))
+            else:
+                self.drops_from[control] = [(drop, number)]
+            if control in self.freely:
+                self.offer(drop, number + self.freely[control])
+            return
         if slot in self.further:
             self.go_on(slot, behind, number)
         if behind and slot in self.freed:
             self.offer(FREE + behind, number + (1 if self.weights is None else self.weights[self.freed[slot]]))
-        if slot > LAST:
-            self.settle_held(slot, behind, number)
 
     def offer_all(self, pairs, behind, number):
         """Offers what comes of pairs of a part of a key and a number, and of one such pair more."""
@@ -201,14 +212,6 @@ class Solver:
                 self.offer_all(drops_of[slot], base, more)
             if slot in self.taken:
                 self.offer(base, more + 1)
-
-    def settle_held(self, slot, behind, number):
-        """Offers what comes of a drop with a control held back, as a rule that takes nothing may bring about this."""
-        control = slot >> SHIFT
-        drop = (slot & LAST) << SHIFT | behind
-        self.drops_from.setdefault(control, []).append((drop, number))
-        if control in self.freely:
-            self.offer(drop, number + self.freely[control])
 
     def settle_freely(self, control, number):
         """Offers what comes of a rule that takes nothing and has a control held back."""

@@ -72,17 +72,15 @@ class Question:
 
         Behind the step whatever lies beneath goes off, by rules that count nothing.
         """
-        rules = self.rules_by(layers_needed(self.agents, self.protocols, [self.takes]))
+        layers = layers_needed(self.agents, self.protocols, [self.takes])
+        rules = self.rules_by(layers)
         coded = coded_rules(rules)
         takes = coded.code_row(self.takes)
         bottom = coded.one_more()
         behind = coded.one_more()
         coded.rest.append((len(rules), takes, [behind]))
-        beneath = [slot for slot in range(len(coded.layers)) if slot not in (bottom, behind)]
-        coded.rest.extend([(len(rules) + 1, [behind, slot], [behind]) for slot in beneath])
-        coded.rest.append((len(rules) + 1, [behind, bottom], []))
-        weights = [1 for _ in range(len(rules) + 1)] + [0]
-        return (Traced(coded, weights, [[bottom]]), rules, [bottom])
+        coded.idle = [([behind, slot], [behind]) for slot in coded.code_row(layers)] + [([behind, bottom], [])]
+        return (Traced(coded, None, [[bottom]]), rules, [bottom])
 
     def is_barred(self, thing):
         """Whether a move that is done is one of those that do not count."""
