@@ -48,9 +48,7 @@ class Coded:
         return len(self.layers) - 1
 
     def is_new(self, kind, whose):
-        """Whether two texts are a layer; it has no number yet, and gets one if it is."""
-        if kind not in self.kinds:
-            return False
+        """Whether a layer of an agent has a text that is an agent's; it has no number yet, and gets one if it has."""
         if whose not in self.known:
             if not is_agents_text(whose):
                 return False
@@ -78,10 +76,11 @@ class Coded:
                 if not isinstance(whose, int) or whose is True or whose is False or not 0 <= whose < WORDS:
                     return None
                 row.append(whose)
-            elif not isinstance(whose, str):
-                return None
-            elif kind in kinds and whose in kinds[kind] or self.is_new(kind, whose):
-                row.append(kinds[kind][whose])
+            elif isinstance(whose, str) and kind in kinds:
+                owners = kinds[kind]
+                if whose not in owners and not self.is_new(kind, whose):
+                    return None
+                row.append(owners[whose])
             else:
                 return None
         return row
@@ -105,15 +104,20 @@ class Coded:
             if not isinstance(rule, tuple) and not isinstance(rule, list) or len(rule) != 3:
                 return index
             takes, puts, _ = rule
-            takes = () if isinstance(takes, list) and not takes else self.layers_in(takes)
+            if isinstance(takes, list) and not takes:
+                puts = self.layers_in(puts)
+                if puts is None:
+                    return index
+                if len(puts) == 1 and puts[0] not in freed:
+                    freed[puts[0]] = index
+                else:
+                    self.rest.append((index, (), puts))
+                continue
+            takes = self.layers_in(takes)
             puts = () if isinstance(puts, list) and not puts else self.layers_in(puts)
             if takes is None or puts is None:
                 return index
-            if len(takes) + len(puts) != 1:
-                self.rest.append((index, takes, puts))
-            elif puts and puts[0] not in freed:
-                freed[puts[0]] = index
-            elif takes and takes[0] not in taken:
+            if not puts and len(takes) == 1 and takes[0] not in taken:
                 taken[takes[0]] = index
             else:
                 self.rest.append((index, takes, puts))

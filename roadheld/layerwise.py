@@ -10,25 +10,29 @@ from roadheld.solving import LAST, SHIFT
 
 def is_layerwise(coded):
     """Whether no rule takes more than one layer."""
-    return all([len(takes) < 2 for _, takes, _ in coded.rest])
+    for _, takes, _ in coded.rest:
+        if len(takes) > 1:
+            return False
+    return True
+
+
+def waiting_for(rules):
+    """For each layer the rules that put it: lists of how many layers are left, the number so far, and what is taken."""
+    waiting = {}
+    for _, takes, puts in rules:
+        if takes and puts:
+            left = [len(puts), 1, takes[0]]
+            for layer in puts:
+                if layer in waiting:
+                    waiting[layer].append(left)
+                else:
+                    waiting[layer] = [left]
+    return waiting
 
 
 def number_layerwise(coded, row):
     """The fewest deeds by which a row of layers comes down, None if it never does."""
-    using = {}
-    left = []
-    sums = []
-    heads = []
-    for _, takes, puts in coded.rest:
-        if takes and puts:
-            for layer in puts:
-                if layer in using:
-                    using[layer].append(len(heads))
-                else:
-                    using[layer] = [len(heads)]
-            left.append(len(puts))
-            sums.append(1)
-            heads.append(takes[0])
+    waiting = waiting_for(coded.rest)
     missing = {layer: True for layer in row}
     numbers = {}
     queue = [1 << SHIFT | layer for layer in sorted(coded.taken)]
@@ -37,12 +41,14 @@ def number_layerwise(coded, row):
         layer = entry & LAST
         if layer in numbers:
             continue
-        numbers[layer] = entry >> SHIFT
+        number = entry >> SHIFT
+        numbers[layer] = number
         if layer in missing:
             del missing[layer]
-        for at in using.get(layer, ()):
-            sums[at] += numbers[layer]
-            left[at] -= 1
-            if left[at] == 0:
-                heappush(queue, sums[at] << SHIFT | heads[at])
+        if layer in waiting:
+            for left in waiting[layer]:
+                left[0] -= 1
+                left[1] += number
+                if left[0] == 0:
+                    heappush(queue, left[1] << SHIFT | left[2])
     return None if missing else sum([numbers[layer] for layer in row])
