@@ -33,10 +33,8 @@ class Growth:
         self.steps = {}
         self.rows = {}
         self.named = {}
-        for layer in coded.taken:
-            self.plant([layer], [])
-        for layer in coded.freed:
-            self.putters[ROOT].append([layer])
+        self.taken = coded.taken
+        self.freed = coded.freed
         for _, takes, puts in coded.rest:
             self.plant(takes, puts)
         self.ends = 0
@@ -88,13 +86,28 @@ class Growth:
             states = self.new[node]
             self.new[node] = 0
             for layer, further in self.longer[node].items():
-                reached = 0
-                for state, others in self.rows.get(layer, {}).items():
-                    if states >> state & 1:
-                        reached |= others
-                self.note_states(further, reached)
+                if layer in self.rows:
+                    self.note_states(further, self.reached(layer, states))
             for puts in self.putters[node]:
                 self.lead(puts, states)
+            if node == ROOT:
+                self.grow_simply(states)
+
+    def grow_simply(self, states):
+        """Notes what follows of new first states by rules that only put, or only take, one layer."""
+        for layer in self.freed:
+            self.note_row(layer, TOP, states)
+        for layer in self.rows:
+            if layer in self.taken:
+                self.note_states(ROOT, self.reached(layer, states))
+
+    def reached(self, layer, states):
+        """The lot of the states to which rows of a layer go from some states."""
+        reached = 0
+        for state, others in self.rows[layer].items():
+            if states >> state & 1:
+                reached |= others
+        return reached
 
     def note_states(self, node, states):
         """Notes that what leads to a node leads to some states."""
@@ -112,6 +125,8 @@ class Growth:
         new = others & ~known
         if new:
             going[state] = known | new
+            if layer in self.taken and self.lots[ROOT] >> state & 1:
+                self.note_states(ROOT, new)
             for node, further in self.steps.get(layer, ()):
                 if self.lots[node] >> state & 1:
                     self.note_states(further, new)
