@@ -228,6 +228,8 @@ class TestAcross(unittest.TestCase):
         for seed in range(150):
             chance = random.Random(seed)
             protocols = [random_worded(chance, name) for name in ("one", "two", "three")[:chance.randint(1, 3)]]
+            if seed % 5 == 0:
+                protocols = chance.sample([MARK, PEEL] + protocols[:1], chance.randint(2, 3))
             if len({(proto.name(), word) for proto in protocols for _, takes, puts in proto.steps()
                     for kind, word in takes + puts if kind == "word"}) > 10:
                 continue
@@ -243,7 +245,7 @@ class TestAcross(unittest.TestCase):
             for lot in least_breaking(P, parted(protocols), its, KEYS):
                 self.assertTrue(any(set(other) <= set(lot) for other in broken))
             fewer_fall += apart != least
-        self.assertGreater(fewer_fall, 0)
+        self.assertGreater(fewer_fall, 5)
 
 
 class TestLimits(unittest.TestCase):
