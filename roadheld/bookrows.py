@@ -1,6 +1,6 @@
 """Books by their form, whether their rows are right, and books written of what was solved."""
 
-from roadheld.forms import as_known_layers, is_below, is_row
+from roadheld.forms import as_known_layer, as_known_layers, is_row
 from roadheld.lookups import Listed
 
 
@@ -11,52 +11,35 @@ def as_known_drop(thing, known):
     """
     if not isinstance(thing, tuple) and not isinstance(thing, list) or len(thing) != 3:
         return None
-    control, layer, behind = thing
+    control, part, behind = thing
+    layer = as_known_layer(part, known, True)
     if not isinstance(control, tuple) or control:
         control = as_known_layers(control, known, True)
-    layers = as_known_layers((layer,), known, True)
     if not isinstance(behind, tuple) or behind:
         behind = as_known_layers(behind, known, True)
-    if control is None or layers is None or behind is None:
+    if control is None or layer is None or behind is None:
         return None
-    return (tuple(control), layers[0], tuple(behind))
-
-
-def as_drop(thing):
-    """A triple of a list of layers, a layer, a list of layers, its lists as tuples; None for anything else."""
-    return as_known_drop(thing, {})
-
-
-def as_drops(thing):
-    """A list of drops, of any layers, as plain copies; None for anything else."""
-    if not is_row(thing):
-        return None
-    known = {}
-    drops = []
-    for part in thing:
-        drop = as_known_drop(part, known)
-        if drop is None:
-            return None
-        drops.append(drop)
-    return drops
+    return (tuple(control), layer, tuple(behind))
 
 
 def as_indexes(thing, many):
     """A list of numbers below many, as a new list; None for anything else."""
-    if not is_row(thing) or not all([is_below(index, many) for index in thing]):
+    if not isinstance(thing, list) and not isinstance(thing, tuple):
         return None
+    for index in thing:
+        if not isinstance(index, int) or index is True or index is False or not 0 <= index < many:
+            return None
     return list(thing)
 
 
-def as_book(thing):
+def as_known_book(thing, known):
     """A list of rows by their form, each with indexes of rows ahead of it; None for anything else.
 
-    Books are judged again and again, so this is written to be done fast.
+    Books are judged again and again, so this is written to be done fast; agents that are known need not be looked at.
     """
     if not is_row(thing):
         return None
     book = []
-    known = {}
     for row in thing:
         if not isinstance(row, tuple) and not isinstance(row, list) or len(row) != 3:
             return None
@@ -71,6 +54,11 @@ def as_book(thing):
                 return None
         book.append((drop, rule, list(used)))
     return book
+
+
+def as_book(thing):
+    """A list of rows by their form, each with indexes of rows ahead of it; None for anything else."""
+    return as_known_book(thing, {})
 
 
 def go_through(book, used, layers, behind):
@@ -108,9 +96,9 @@ def are_right_rows(looked, book):
     return True
 
 
-def right_book(rules, thing):
-    """A book of plain rules as a plain copy; None for any object that is none."""
-    book = as_book(thing)
+def right_book(rules, known, thing):
+    """A book of plain rules, whose agents are known, as a plain copy; None for any object that is none."""
+    book = as_known_book(thing, known)
     return book if book is not None and are_right_rows(Listed(rules), book) else None
 
 

@@ -1,14 +1,15 @@
 """Books: rows by which anybody sees that drops are there, and by how many deeds."""
 
-from roadheld.bookrows import as_book, as_drop, counts_of, right_book, written
+from roadheld.bookrows import as_book, as_known_drop, counts_of, right_book, written
 from roadheld.errors import BadBook, BadDrop
-from roadheld.handed import checked_row, checked_rules, coded_of
+from roadheld.handed import checked_row, coded_of, known_rules
 from roadheld.tracing import Traced
 
 
 def is_book(rules, thing):
     """Whether any object is a book of rules."""
-    return right_book(checked_rules(rules), thing) is not None
+    known = {}
+    return right_book(known_rules(rules, known), known, thing) is not None
 
 
 def counts(book):
@@ -19,18 +20,12 @@ def counts(book):
     return counts_of(plain)
 
 
-def checked_drop(drop):
-    """A triple of a list of layers, a layer, a list of layers, as a plain copy."""
-    plain = as_drop(drop)
-    if plain is None:
-        raise BadDrop(drop)
-    return plain
-
-
 def book_of(rules, drop):
     """A book whose last row is for a drop, each row counting as few deeds as can be; None if there is no such drop."""
     coded = coded_of(rules)
-    asked = checked_drop(drop)
+    asked = as_known_drop(drop, coded.known)
+    if asked is None:
+        raise BadDrop(drop)
     traced = Traced(coded, None, None)
     key = traced.drop_of(asked)
     return written(traced, [key])[0] if key in traced.numbers else None

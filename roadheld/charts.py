@@ -3,7 +3,7 @@
 from roadheld.agents import Post
 from roadheld.forms import is_pair, is_row
 from roadheld.handed import checked_question
-from roadheld.lookups import Ruled, unlike_answers
+from roadheld.lookups import ruled_by
 from roadheld.lots import Lots, checked_keys
 from roadheld.rules import rules_of
 from roadheld.settling import as_answer, settled
@@ -54,18 +54,16 @@ class Judging:
     """A question whose answers with lots of keys are judged."""
 
     def __init__(self, post, protocols, messages):
-        self.agents = post.agents()
         self.keyring = post.keyring()
-        self.protocols = protocols
         self.messages = messages
         # What the answers of all agents take and put is made once, for all lots.
-        self.dealt = unlike_answers(self.agents, protocols)
+        self.ruled = ruled_by(post, protocols)
 
     def first_unanswered(self, pairs, word):
         """The index of the first pair whose answer is none of this word that is right; None if all are."""
         for index, (lot, thing) in enumerate(pairs):
-            ruled = Ruled(self.agents, sorted(self.keyring + lot), self.protocols, self.dealt)
-            answer = as_answer(ruled, self.messages, thing)
+            self.ruled.hold(sorted(self.keyring + lot))
+            answer = as_answer(self.ruled, self.messages, thing)
             if answer is None or answer[0] != word:
                 return index
         return None

@@ -85,6 +85,18 @@ class Coded:
                 return None
         return row
 
+    def copied(self):
+        """The same rules, to which others may be added; layers have the same numbers in both."""
+        coded = Coded()
+        coded.kinds = self.kinds
+        coded.layers = self.layers
+        coded.known = self.known
+        coded.taken = {layer: index for layer, index in self.taken.items()}
+        coded.freed = {layer: index for layer, index in self.freed.items()}
+        coded.rest = list(self.rest)
+        coded.idle = list(self.idle)
+        return coded
+
     def note(self, index, takes, puts):
         """Notes what the rule of an index takes and puts, in numbers."""
         if not takes and len(puts) == 1 and puts[0] not in self.freed:
@@ -104,23 +116,19 @@ class Coded:
             if not isinstance(rule, tuple) and not isinstance(rule, list) or len(rule) != 3:
                 return index
             takes, puts, _ = rule
-            if isinstance(takes, list) and not takes:
-                puts = self.layers_in(puts)
-                if puts is None:
-                    return index
-                if len(puts) == 1 and puts[0] not in freed:
-                    freed[puts[0]] = index
-                else:
-                    self.rest.append((index, (), puts))
-                continue
-            takes = self.layers_in(takes)
-            puts = () if isinstance(puts, list) and not puts else self.layers_in(puts)
+            # Most rules take nothing, or put nothing. Lists and tuples mean the same, empty ones too.
+            takes = () if (isinstance(takes, list) or isinstance(takes, tuple)) and not takes else self.layers_in(takes)
+            puts = () if (isinstance(puts, list) or isinstance(puts, tuple)) and not puts else self.layers_in(puts)
             if takes is None or puts is None:
                 return index
-            if not puts and len(takes) == 1 and takes[0] not in taken:
-                taken[takes[0]] = index
-            else:
-                self.rest.append((index, takes, puts))
+            if takes:
+                if not puts and len(takes) == 1 and takes[0] not in taken:
+                    taken[takes[0]] = index
+                    continue
+            elif len(puts) == 1 and puts[0] not in freed:
+                freed[puts[0]] = index
+                continue
+            self.rest.append((index, takes, puts))
         return None
 
 

@@ -1,9 +1,8 @@
 """Costs: how many deeds by counted rules layers need to come down, and how many deeds in all with so few."""
 
-from roadheld.bookrows import as_indexes, right_book, written
+from roadheld.bookrows import right_book, written
 from roadheld.errors import BadBook
-from roadheld.forms import are_unlike
-from roadheld.handed import checked_row, checked_rules, coded_of
+from roadheld.handed import checked_row, coded_of, known_rules
 from roadheld.refusals import BadCounted
 from roadheld.tracing import Traced
 
@@ -13,10 +12,14 @@ SCALE = 64
 
 def checked_counted(counted, many):
     """A list of unlike indexes of many rules, as keys of a dict."""
-    indexes = as_indexes(counted, many)
-    if indexes is None or not are_unlike(indexes):
+    if not isinstance(counted, list) and not isinstance(counted, tuple):
         raise BadCounted(counted)
-    return {index: True for index in indexes}
+    marked = {}
+    for index in counted:
+        if not isinstance(index, int) or index is True or index is False or not 0 <= index < many or index in marked:
+            raise BadCounted(counted)
+        marked[index] = True
+    return marked
 
 
 def weighed(coded, many, marked, row):
@@ -48,9 +51,10 @@ def cost(rules, counted, layers):
 
 def costs(rules, counted, book):
     """The cost of each row of a book of the rules."""
-    plain = checked_rules(rules)
+    known = {}
+    plain = known_rules(rules, known)
     marked = checked_counted(counted, len(plain))
-    rows = right_book(plain, book)
+    rows = right_book(plain, known, book)
     if rows is None:
         raise BadBook(book)
     told = []

@@ -61,14 +61,32 @@ def are_unlike(things):
     return len({thing: True for thing in things}) == len(things)
 
 
+def as_known_layer(thing, known, more):
+    """A layer of known agents as a tuple; where more is True of others, too, which are noted."""
+    if not isinstance(thing, tuple) and not isinstance(thing, list) or len(thing) != 2:
+        return None
+    kind, whose = thing
+    if not isinstance(kind, str):
+        return None
+    if kind == "word":
+        if not isinstance(whose, int) or whose is True or whose is False or not 0 <= whose < WORDS:
+            return None
+    elif not isinstance(whose, str) or kind not in OWNED:
+        return None
+    elif whose not in known:
+        if not more or not is_agents_text(whose):
+            return None
+        known[whose] = True
+    return (kind, whose)
+
+
 def as_layer(thing, agents):
     """A layer as a tuple; of one of agents, or, where agents is None, of any agent."""
-    layers = as_layers((thing,), agents)
-    return None if layers is None else layers[0]
+    return as_known_layer(thing, {}, True) if agents is None else as_known_layer(thing, agents, False)
 
 
 def as_known_layers(thing, known, more):
-    """A list of layers of known agents, each as a tuple; where more is True of others, too, which are noted.
+    """A list of layers, each as as_known_layer tells it, as a list; None for anything else.
 
     All rules, layers and messages that are handed in come through here, layer by layer, so this is written to be
     done fast: an agent is looked at sign by sign once.
@@ -174,15 +192,14 @@ def as_step(thing):
     return (part, takes, puts)
 
 
-def rules_in(thing):
+def rules_in(thing, known):
     """A list of rules, their layers as lists, their third parts the very objects, and None.
 
-    None, and the index of the first thing that is no rule, 0 for no list, of anything else.
+    None, and the index of the first thing that is no rule, 0 for no list, of anything else. Agents are noted as known.
     """
     if not is_row(thing):
         return (None, 0)
     rules = []
-    known = {}
     for rule in thing:
         if not isinstance(rule, tuple) and not isinstance(rule, list) or len(rule) != 3:
             return (None, len(rules))

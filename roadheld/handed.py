@@ -92,12 +92,17 @@ def checked_rows(coded, messages):
     return rows
 
 
-def checked_rules(rules):
-    """Rules over any agents' layers."""
-    plain, wrong = rules_in(rules)
+def known_rules(rules, known):
+    """Rules over any agents' layers; the agents are noted as known."""
+    plain, wrong = rules_in(rules, known)
     if wrong is not None:
         raise BadRules(wrong)
     return plain
+
+
+def checked_rules(rules):
+    """Rules over any agents' layers."""
+    return known_rules(rules, {})
 
 
 def checked_most(most):

@@ -3,7 +3,7 @@
 from roadheld.askings import are_within, chart_lots
 from roadheld.fallings import Fallings, by_name, checked_together
 from roadheld.forms import is_pair, is_row
-from roadheld.lookups import Ruled
+from roadheld.lookups import ruled_by
 from roadheld.papers import is_ruled_paper
 from roadheld.protocollots import as_names, named
 from roadheld.rules import first_messages
@@ -62,7 +62,7 @@ def is_paper_of(post, protocols, zero, one, thing):
     if machine is None:
         return False
     messages = first_messages(post, protocols, zero, one, 0)
-    return is_ruled_paper(Ruled(post.agents(), post.keyring(), protocols, None), messages, machine)
+    return is_ruled_paper(ruled_by(post, protocols), messages, machine)
 
 
 def judged_houses(post, protocols, zero, one, thing):

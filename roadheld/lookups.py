@@ -1,6 +1,9 @@
 """Rules looked up one by one, as books and papers are judged: those of a list, those of a post and protocols."""
 
-from roadheld.rules import is_by_adversary, rules_of_answers
+from roadheld.coding import WORD_LAYERS
+from roadheld.dealing import plain_dealing
+from roadheld.deeds import all_steps
+from roadheld.rules import is_by_adversary
 
 
 def controls_among(rows):
@@ -34,42 +37,51 @@ class Listed:
         return control in self.known
 
 
-def unlike_answers(agents, protocols):
-    """What the answers of protocols take and put, as tuples; of those that take and put the same the first one."""
-    return list({(tuple(takes), tuple(puts)): True for takes, puts, _ in rules_of_answers(agents, protocols)})
-
-
 class Ruled:
     """The rules of a post's agents, of whom the adversary has some keys, and of protocols, in the order of rules_of.
 
-    What the answers take and put is made when it is asked for, or handed in.
+    Protocols are a table of their steps by their names. What the answers take and put is made when it is asked for.
     """
 
-    def __init__(self, agents, keys, protocols, dealt):
+    def __init__(self, agents, keys, table):
         self.agents = agents
+        self.table = table
+        self.dealing = None
+        self.dealt = None
+        self.hold(keys)
+
+    def hold(self, keys):
+        """Has the adversary have some keys, and no others."""
         self.keyring = keys
-        self.protocols = protocols
-        self.dealt = dealt
         self.answers = None
         self.known = None
-        ciphers = [("cipher", agent) for agent in agents]
-        labels = [("label", agent) for agent in agents]
-        seals = [("seal", agent) for agent in agents]
-        words = [("word", number) for number in range(10)]
+        ciphers = [("cipher", agent) for agent in self.agents]
+        labels = [("label", agent) for agent in self.agents]
+        seals = [("seal", agent) for agent in self.agents]
+        words = list(WORD_LAYERS)
         # What the adversary may put, and what it may take.
         self.puts = ciphers + labels + [key for key in keys if key[0] == "seal"] + words
         self.takes = [key for key in keys if key[0] == "cipher"] + labels + seals + words
 
+    def deal(self, table):
+        """Has other protocols stand there than before."""
+        self.table = table
+        self.dealt = None
+        self.answers = None
+        self.known = None
+
     def every_answer(self):
-        """Rules of the answers, some of which may take and put the same, or what the adversary does, too."""
-        return rules_of_answers(self.agents, self.protocols) if self.dealt is None else self.dealt
+        """What the answers take and put, of those alike the first one; some may be alike to what the adversary does."""
+        if self.dealt is None:
+            if self.dealing is None:
+                self.dealing = plain_dealing(self.agents)
+            self.dealt = self.dealing.answers(self.table)
+        return self.dealt
 
     def all_answers(self):
         """What the answers take and put, without what the adversary does, too."""
         if self.answers is None:
-            if self.dealt is None:
-                self.dealt = unlike_answers(self.agents, self.protocols)
-            self.answers = [(takes, puts) for takes, puts in self.dealt
+            self.answers = [(takes, puts) for takes, puts in self.every_answer()
                             if len(takes) + len(puts) != 1 or not is_by_adversary(takes, puts, self.keyring)]
         return self.answers
 
@@ -93,4 +105,4 @@ class Ruled:
 
 def ruled_by(post, protocols):
     """The rules of a post and protocols."""
-    return Ruled(post.agents(), post.keyring(), protocols, None)
+    return Ruled(post.agents(), post.keyring(), all_steps(protocols))

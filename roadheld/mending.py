@@ -34,40 +34,36 @@ def changed(layers, mend):
 
 def mend_steps(steps, mend):
     """What comes of plain steps by a plain mend of them; None if this is no protocol's."""
-    index = mend[1]
+    word, index, _, last = mend
     part, takes, puts = steps[index]
-    puts = changed(puts, mend)
-    if ("seal", 1 - part) in puts:
+    if word == "add" and last == ("seal", 1 - part):
         return None
-    mended = [(part, takes, puts)]
-    for its_part, its_takes, its_puts in steps[index + 1:index + 2]:
-        its_takes = changed(its_takes, mend)
-        if ("cipher", 1 - its_part) in its_takes:
+    mended = ((part, takes, changed(puts, mend)),)
+    if index + 1 < len(steps):
+        part, takes, puts = steps[index + 1]
+        if word == "add" and last == ("cipher", 1 - part):
             return None
-        mended.append((its_part, its_takes, its_puts))
-    return steps[:index] + tuple(mended) + steps[index + 2:]
+        mended += ((part, changed(takes, mend), puts),)
+    return steps[:index] + mended + steps[index + 2:]
 
 
 def possible_mends(steps, layers):
     """All mends of plain steps, adds of some plain layers and shifts, ascending."""
+    ascending = sorted(layers)
     adds = []
     shifts = []
     for index in range(len(steps)):
         many = room(steps, index)
-        for place in range(many + 1):
-            adds.extend([("add", index, place, layer) for layer in sorted(layers)])
-        for place in range(many):
-            shifts.extend([("shift", index, place, to) for to in range(many) if to != place])
+        adds.extend([("add", index, place, layer) for place in range(many + 1) for layer in ascending])
+        shifts.extend([("shift", index, place, to) for place in range(many) for to in range(many) if to != place])
     return adds + shifts
 
 
 def mended_ways(steps, layers):
     """The mends of plain steps that make unlike protocols, none of them this one, each with the steps it makes."""
-    seen = {steps: True}
-    ways = []
+    ways = {steps: None}
     for mend in possible_mends(steps, layers):
         made = mend_steps(steps, mend)
-        if made is not None and made not in seen:
-            seen[made] = True
-            ways.append((mend, made))
-    return ways
+        if made is not None:
+            ways.setdefault(made, mend)
+    return [(mend, made) for made, mend in ways.items() if mend is not None]

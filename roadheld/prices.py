@@ -1,110 +1,63 @@
 """Prices: what drops cost at least, told by lists that anybody can judge."""
 
-from roadheld.bookrows import as_drop, written
+from roadheld.bookrows import written
 from roadheld.costs import checked_counted, weighed
 from roadheld.errors import BadLayers
-from roadheld.forms import as_layers, is_number, is_pair, is_row
-from roadheld.handed import checked_most, checked_row, checked_rules, coded_of
+from roadheld.forms import as_known_layers
+from roadheld.handed import checked_most, checked_row, coded_of, known_rules
+from roadheld.pricelists import Priced
 from roadheld.refusals import BadPrices
-from roadheld.rules import controls_of
 from roadheld.tracing import Traced
 
 
-def as_prices(thing):
-    """A list of pairs of a drop, unlike ones, and a number, as a dict; None for anything else."""
-    if not is_row(thing):
+def as_prices(thing, known):
+    """A list of pairs of a drop, unlike ones, and a number, as prices; None for anything else."""
+    if not isinstance(thing, list) and not isinstance(thing, tuple):
         return None
-    prices = {}
+    listed = Priced(known)
     for pair in thing:
-        drop = as_drop(pair[0]) if is_pair(pair) else None
-        if drop is None or drop in prices or not is_number(pair[1]):
+        if not isinstance(pair, tuple) and not isinstance(pair, list) or len(pair) != 2:
             return None
-        prices[drop] = pair[1]
-    return prices
+        drop, price = pair
+        if not isinstance(price, int) or price is True or price is False or price < 0:
+            return None
+        if not listed.note(drop, price):
+            return None
+    return listed
 
 
-def checked_prices(prices):
-    """A price list of any layers, as a dict."""
-    plain = as_prices(prices)
-    if plain is None:
+def checked_prices(prices, known):
+    """A price list of any layers."""
+    listed = as_prices(prices, known)
+    if listed is None:
         raise BadPrices(prices)
-    return plain
-
-
-def prices_by_slot(prices):
-    """For each control and layer the pairs of a control to which a drop of a price list goes, and its price."""
-    slots = {}
-    for (control, layer, behind), price in prices.items():
-        slots.setdefault((control, layer), []).append((behind, price))
-    return slots
-
-
-def sums_through(slots, layers):
-    """The least sums of prices of drops through layers, from nothing held back, by the controls at which they end."""
-    ways = {(): 0}
-    for layer in layers:
-        further = {}
-        for control, ahead in ways.items():
-            for behind, price in slots.get((control, layer), []):
-                if behind not in further or ahead + price < further[behind]:
-                    further[behind] = ahead + price
-        ways = further
-    return ways
-
-
-def bounds(rules, marked, prices):
-    """For each drop that has to be by what is in a price list the most that it may cost, marked rules being counted."""
-    slots = prices_by_slot(prices)
-    most = {}
-    for control in controls_of(rules):
-        if control:
-            most[(control[:-1], control[-1], control)] = 0
-    free = {}
-    for index, (takes, puts, _) in enumerate(rules):
-        weight = 1 if index in marked else 0
-        for behind, total in sums_through(slots, puts).items():
-            total += weight
-            if takes:
-                drop = (tuple(takes[:-1]), takes[-1], behind)
-                most[drop] = min(total, most.get(drop, total))
-            else:
-                free[behind] = min(total, free.get(behind, total))
-    for (control, layer, behind), price in prices.items():
-        if control in free:
-            drop = ((), layer, behind)
-            most[drop] = min(free[control] + price, most.get(drop, free[control] + price))
-    return most
-
-
-def least_dear(rules, marked, prices):
-    """The least drop that a price list lacks, or in which it is too dear; None if it holds."""
-    most = bounds(rules, marked, prices)
-    wrong = [drop for drop, price in most.items() if drop not in prices or prices[drop] > price]
-    return min(wrong) if wrong else None
+    return listed
 
 
 def first_dear(rules, counted, prices):
     """The least drop that lacks or is too dear in a price list; None if it holds."""
-    plain = checked_rules(rules)
+    known = {}
+    plain = known_rules(rules, known)
     marked = checked_counted(counted, len(plain))
-    return least_dear(plain, marked, checked_prices(prices))
+    return checked_prices(prices, known).first_wrong(plain, marked)
 
 
 def is_price_list(rules, counted, thing):
     """Whether any object is a price list that holds."""
-    plain = checked_rules(rules)
+    known = {}
+    plain = known_rules(rules, known)
     marked = checked_counted(counted, len(plain))
-    prices = as_prices(thing)
-    return prices is not None and least_dear(plain, marked, prices) is None
+    listed = as_prices(thing, known)
+    return listed is not None and listed.holds(plain, marked)
 
 
 def least_sum(prices, layers):
     """The least sum of prices of drops of a price list through layers; None if there are none."""
-    plain = checked_prices(prices)
-    row = as_layers(layers, None)
+    listed = checked_prices(prices, {})
+    row = as_known_layers(layers, listed.known, True)
     if row is None:
         raise BadLayers(layers)
-    return sums_through(prices_by_slot(plain), row).get(())
+    return listed.least_through(row)
 
 
 def all_prices(coded, weights, most):

@@ -1,19 +1,15 @@
 """Whether protocols stand among others, and mends with which they do: shown by a paper, or by books for all lots."""
 
-from roadheld.bookrows import are_right_rows, as_book, as_indexes, go_through, written
-from roadheld.coding import coded_rules
+from roadheld.bookrows import are_right_rows, as_indexes, as_known_book, go_through, written
 from roadheld.errors import BadMany
 from roadheld.forms import is_number, is_row
 from roadheld.growth import grow_rows
 from roadheld.handed import checked_most
-from roadheld.lookups import ruled_by
 from roadheld.mending import mended_ways
 from roadheld.mends import checked_part_layers
 from roadheld.papers import is_ruled_paper
 from roadheld.protocols import checked_protocol
-from roadheld.rules import rules_of
-from roadheld.tracing import Traced
-from roadheld.trials import Trial, as_lot, counting_lots, next_lots
+from roadheld.trials import Trial, as_lot, counting_lots, is_lot_of, next_lots
 from roadheld.walks import as_machine
 
 
@@ -40,11 +36,11 @@ def lots_of(protocol, layers, many):
 
 
 def least_standing(trial, layers, most):
-    """The lots that count of the fewest mends, up to most, with which a protocol stands, with the steps they make."""
+    """The lots that count of the fewest mends, up to most, with which a protocol stands."""
     seen = {trial.steps: True}
     lots = [([], trial.steps)]
     while True:
-        found = [(lot, made) for lot, made in lots if trial.stands(made)]
+        found = [lot for lot, made in lots if trial.stands(made)]
         if found or most == 0 or not lots:
             return found
         lots = next_lots(lots, seen, layers)
@@ -62,34 +58,55 @@ def checked_trial(post, protocols, name, layers, most):
 def least_lots(post, protocols, name, layers, most):
     """The lots of the fewest mends, up to most, with which a protocol stands."""
     trial, plain = checked_trial(post, protocols, name, layers, most)
-    return [lot for lot, _ in least_standing(trial, plain, most)]
+    return least_standing(trial, plain, most)
 
 
 def paper_with(trial, steps):
-    """A paper of a begin by the first two honest agents, the protocol having some steps; None if there are no two."""
-    if trial.pair is None:
-        return None
-    return grow_rows(coded_rules(rules_of(trial.post, trial.among(steps))), [(trial.begun(steps), 0)])
+    """A paper of a begin by the first two honest agents, the protocol having some steps."""
+    return grow_rows(trial.posted().coded_with(trial.among(steps)), [(trial.begun(steps), 0)])
 
 
-def book_with(trial, steps):
-    """A book by which a begin by the first two honest agents comes bare, and its rows through the begin's layers."""
-    coded = coded_rules(rules_of(trial.post, trial.among(steps)))
-    row = coded.code_row(trial.begun(steps))
-    traced = Traced(coded, None, [row])
+def book_with(trial, steps, solved):
+    """A book by which a begin by the first two honest agents comes bare, and its rows through the begin's layers.
+
+    What was solved of few agents is of use where there are no others.
+    """
+    traced, row = solved if trial.has_few() else trial.traced_for(trial.posted(), steps)
     return written(traced, traced.drops_down(row))
+
+
+def first_standing(trial, layers, most):
+    """The first lot that counts, of at most most mends, with which a protocol stands, with the steps it makes, or None.
+
+    Told are also the lots ahead of it, with the steps they make, and what was solved of each.
+    """
+    seen = {trial.steps: True}
+    lots = [([], trial.steps)]
+    fallen = []
+    while True:
+        for lot, made in lots:
+            solved = trial.traced_for(trial.posted_few(), made)
+            if solved[0].solver.least_number() is None:
+                return ((lot, made), fallen)
+            fallen.append((lot, made, solved))
+        if most == 0 or not lots:
+            return (None, fallen)
+        lots = next_lots(lots, seen, layers)
+        most -= 1
 
 
 def shown_mend(post, protocols, name, layers, most):
     """The first of the least lots with which a protocol stands, and a paper; or books for all lots."""
     trial, plain = checked_trial(post, protocols, name, layers, most)
-    found = least_standing(trial, plain, most)
-    if found:
-        lot, made = found[0]
+    if trial.pair is None:
+        return ("stands", [], None)
+    found, fallen = first_standing(trial, plain, most)
+    if found is not None:
+        lot, made = found
         return ("stands", lot, paper_with(trial, made))
     rows = []
-    for lot, made in counting_lots(trial.steps, plain, most):
-        book, used = book_with(trial, made)
+    for lot, made, solved in fallen:
+        book, used = book_with(trial, made, solved)
         rows.append((lot, book, used))
     return ("falls", rows)
 
@@ -101,7 +118,7 @@ def is_right_paper(trial, steps, thing):
     machine = as_machine(thing)
     if machine is None:
         return False
-    return is_ruled_paper(ruled_by(trial.post, trial.among(steps)), [(trial.begun(steps), 0)], machine)
+    return is_ruled_paper(trial.ruled_with(steps), [(trial.begun(steps), 0)], machine)
 
 
 def made_by(steps, layers, lot):
@@ -126,13 +143,16 @@ def is_mend(post, protocols, name, layers, most, thing):
     return made is not None and is_right_paper(trial, made, thing[2])
 
 
-def is_right_book(trial, steps, thing, last):
-    """Whether any objects are a book, and its rows by which a begin by the first two honest agents comes bare."""
-    book = as_book(thing)
+def is_right_book(trial, steps, known, thing, last):
+    """Whether any objects are a book, and its rows by which a begin by the first two honest agents comes bare.
+
+    Agents that are known need not be looked at.
+    """
+    book = as_known_book(thing, known)
     used = None if book is None else as_indexes(last, len(book))
     if used is None or not go_through(book, used, trial.begun(steps), ()):
         return False
-    return are_right_rows(ruled_by(trial.post, trial.among(steps)), book)
+    return are_right_rows(trial.ruled_with(steps), book)
 
 
 def is_fall(post, protocols, name, layers, most, thing):
@@ -145,9 +165,10 @@ def is_fall(post, protocols, name, layers, most, thing):
     lots = counting_lots(trial.steps, plain, most)
     if len(lots) != len(thing[1]):
         return False
+    known = {agent: True for agent in post.agents()}
     for row, (lot, made) in zip(thing[1], lots):
-        if not is_row(row) or len(row) != 3 or as_lot(trial.steps, row[0]) != lot:
+        if not is_row(row) or len(row) != 3 or not is_lot_of(row[0], lot):
             return False
-        if not is_right_book(trial, made, row[1], row[2]):
+        if not is_right_book(trial, made, known, row[1], row[2]):
             return False
     return True

@@ -39,11 +39,14 @@ class Traced:
 
     def all_drops(self):
         """The pairs of all drops, as they are told, and their numbers, ascending."""
-        return sorted([(self.told_drop(drop), number) for drop, number in self.numbers.items() if drop < LINES])
+        layers = self.coded.layers
+        controls = self.controls
+        return sorted([((controls[drop >> SHIFT + SHIFT], layers[drop >> SHIFT & LAST], controls[drop & LAST]), number)
+                       for drop, number in self.numbers.items() if drop < LINES])
 
     def lines_of(self, row):
         """The lines of a row that a rule puts: that of its first layer, and so on, without the whole row."""
-        lines = row[:1]
+        lines = [row[0]]
         for layer in row[1:-1]:
             lines.append(self.solver.longer[(lines[-1], layer)])
         return lines

@@ -12,7 +12,7 @@ PACKAGE = pathlib.Path(__file__).resolve().parent.parent / "roadheld"
 STATEMENTS = (ast.FunctionDef, ast.ClassDef, ast.Return, ast.Assign, ast.AugAssign, ast.For, ast.While, ast.If,
               ast.Raise, ast.Expr, ast.Pass, ast.Break, ast.Continue, ast.ImportFrom, ast.Delete, ast.Try)
 BARRED = (ast.Lambda, ast.GeneratorExp, ast.Set, ast.SetComp, ast.Yield, ast.YieldFrom, ast.Await, ast.NamedExpr,
-          ast.Starred, ast.JoinedStr, ast.Div, ast.MatMult, ast.Mod, ast.Pow)
+          ast.JoinedStr, ast.Div, ast.MatMult, ast.Mod, ast.Pow)
 LIBRARY = {"heapq": {"heappush", "heappop"}}
 BUILTINS = {"len", "range", "enumerate", "zip", "min", "max", "sum", "abs", "sorted", "reversed", "int", "str", "bool",
             "list", "tuple", "dict", "isinstance", "any", "all", "divmod", "ValueError"}
@@ -208,6 +208,15 @@ class TestCode(unittest.TestCase):
                 if isinstance(node, ast.Raise):
                     self.assertTrue(isinstance(node.exc, ast.Call) and (
                         node.exc.func.id.startswith("Bad") or node.exc.func.id == "Crowded"), where)
+
+    def test_stars_stand_in_zip_alone(self):
+        for path in files():
+            tree = tree_of(path)
+            allowed = {id(part) for node in ast.walk(tree) if isinstance(node, ast.Call) and ast.unparse(node.func) == "zip"
+                       for part in node.args if isinstance(part, ast.Starred) and isinstance(part.value, ast.Name)}
+            for node in ast.walk(tree):
+                if isinstance(node, ast.Starred):
+                    self.assertIn(id(node), allowed, (path.name, node.lineno))
 
     def test_module_level(self):
         for path in files():

@@ -1,0 +1,132 @@
+"""Lists of drops, each with a price, judged by rules: which drops lack, and which are too dear.
+
+By rules, what a drop costs at most is known from the prices of others. A list of drops is closed just if it holds with
+prices of nothing, no rules being counted.
+
+The slot of a drop (c, a, q) is a where c is empty, else c and a behind it, as a tuple.
+"""
+
+from roadheld.bookrows import as_known_drop
+
+
+class Priced:
+    """Prices of drops, by their slots and what they hold back, and which of them are wrong by plain rules."""
+
+    def __init__(self, known):
+        # Agents that need not be looked at again.
+        self.known = known
+        self.table = {}
+        self.wrong = []
+
+    def note(self, thing, price):
+        """Notes the price of a drop of any layers; tells whether it had none yet, None for any other object."""
+        drop = as_known_drop(thing, self.known)
+        if drop is None:
+            return None
+        control, layer, behind = drop
+        slot = control + (layer,) if control else layer
+        prices = self.table.get(slot)
+        if prices is None:
+            self.table[slot] = {behind: price}
+            return True
+        if behind in prices:
+            return False
+        prices[behind] = price
+        return True
+
+    def sums_through(self, row):
+        """For what is held back behind drops through a row of layers the least sum of their prices; None for none."""
+        if not row:
+            return {(): 0}
+        table = self.table
+        sums = table.get(row[0])
+        for layer in row[1:]:
+            if not sums:
+                return None
+            further = {}
+            for control, ahead in sums.items():
+                prices = table.get(control + (layer,) if control else layer)
+                if prices is not None:
+                    for behind, price in prices.items():
+                        price += ahead
+                        if behind not in further or price < further[behind]:
+                            further[behind] = price
+            sums = further
+        return sums
+
+    def judge_reading(self, takes):
+        """Judges the drops by which controls of what a rule takes are read; they cost nothing."""
+        for many in range(1, len(takes)):
+            control = takes[:many]
+            slot = control if many > 1 else takes[0]
+            prices = self.table.get(slot)
+            if prices is None or prices.get(control, 1):
+                self.wrong.append((slot, control))
+
+    def note_free(self, free, puts, weight):
+        """Notes what is held back behind what a rule that takes nothing puts, with the least sum by which."""
+        sums = self.sums_through(puts)
+        # A drop that goes on from nothing held back is no dearer than itself.
+        for behind in sums if sums else ():
+            price = sums[behind] + weight
+            if behind and (behind not in free or price < free[behind]):
+                free[behind] = price
+
+    def judge_free(self, free):
+        """Judges the drops that have to be by rules that take nothing; what these hold back comes with least sums."""
+        for slot, prices in self.table.items():
+            if isinstance(slot[0], str) or slot[:-1] not in free:
+                continue
+            known = self.table.get(slot[-1], {})
+            for behind, price in prices.items():
+                if behind not in known or known[behind] > price + free[slot[:-1]]:
+                    self.wrong.append((slot[-1], behind))
+
+    def judge_rules(self, rules, marked, one):
+        """Judges the drops that have to be by plain rules, of which the marked ones are counted; one wrong may do."""
+        table = self.table
+        wrong = self.wrong
+        free = {}
+        for index, (takes, puts, _) in enumerate(rules):
+            if len(takes) == 1:
+                slot = takes[0]
+            elif takes:
+                slot = tuple(takes)
+                self.judge_reading(slot)
+            else:
+                self.note_free(free, puts, 1 if index in marked else 0)
+                continue
+            sums = table.get(puts[0]) if len(puts) == 1 else self.sums_through(puts)
+            if sums:
+                prices = table.get(slot)
+                if prices is None:
+                    wrong.extend([(slot, behind) for behind in sums])
+                else:
+                    weight = 1 if index in marked else 0
+                    for behind, price in sums.items():
+                        if behind not in prices or prices[behind] > price + weight:
+                            wrong.append((slot, behind))
+            if one and wrong:
+                return
+        if free:
+            self.judge_free(free)
+
+    def first_wrong(self, rules, marked):
+        """The least drop that lacks or is too dear by plain rules, marked ones being counted; None if there is none."""
+        self.judge_rules(rules, marked, False)
+        # Those of empty controls are less than all others.
+        least = [(slot, behind) for slot, behind in self.wrong if isinstance(slot[0], str)]
+        if least:
+            slot, behind = min(least)
+            return ((), slot, behind)
+        return min([(slot[:-1], slot[-1], behind) for slot, behind in self.wrong]) if self.wrong else None
+
+    def holds(self, rules, marked):
+        """Whether no drop lacks or is too dear by plain rules, marked ones being counted."""
+        self.judge_rules(rules, marked, True)
+        return not self.wrong
+
+    def least_through(self, row):
+        """The least sum of prices of drops through a row of layers to nothing held back; None if there are none."""
+        sums = self.sums_through(row)
+        return sums.get(()) if sums else None
