@@ -16,6 +16,8 @@ class Priced:
         # Agents that need not be looked at again.
         self.known = known
         self.table = {}
+        # Whether some price is more than nothing: else no drop is too dear, whatever it comes by.
+        self.dear = False
         self.wrong = []
 
     def note(self, thing, price):
@@ -25,6 +27,8 @@ class Priced:
             return None
         control, layer, behind = drop
         slot = control + (layer,) if control else layer
+        if price:
+            self.dear = True
         prices = self.table.get(slot)
         if prices is None:
             self.table[slot] = {behind: price}
@@ -34,24 +38,30 @@ class Priced:
         prices[behind] = price
         return True
 
+    def sums_behind(self, sums, layer):
+        """Least sums of prices, as sums_through tells them, behind a drop of a layer more."""
+        table = self.table
+        if not self.dear:
+            return {behind: 0 for control in sums for behind in table.get(control + (layer,) if control else layer, ())}
+        further = {}
+        for control, ahead in sums.items():
+            prices = table.get(control + (layer,) if control else layer)
+            if prices is not None:
+                for behind, price in prices.items():
+                    price += ahead
+                    if behind not in further or price < further[behind]:
+                        further[behind] = price
+        return further
+
     def sums_through(self, row):
         """For what is held back behind drops through a row of layers the least sum of their prices; None for none."""
         if not row:
             return {(): 0}
-        table = self.table
-        sums = table.get(row[0])
+        sums = self.table.get(row[0])
         for layer in row[1:]:
             if not sums:
                 return None
-            further = {}
-            for control, ahead in sums.items():
-                prices = table.get(control + (layer,) if control else layer)
-                if prices is not None:
-                    for behind, price in prices.items():
-                        price += ahead
-                        if behind not in further or price < further[behind]:
-                            further[behind] = price
-            sums = further
+            sums = self.sums_behind(sums, layer)
         return sums
 
     def judge_reading(self, takes):
@@ -101,6 +111,8 @@ class Priced:
                 prices = table.get(slot)
                 if prices is None:
                     wrong.extend([(slot, behind) for behind in sums])
+                elif not self.dear:
+                    wrong.extend([(slot, behind) for behind in sums if behind not in prices])
                 else:
                     weight = 1 if index in marked else 0
                     for behind, price in sums.items():
