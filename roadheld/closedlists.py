@@ -2,29 +2,17 @@
 
 from roadheld.bookrows import as_known_drop, written
 from roadheld.errors import BadDrop, BadDrops
-from roadheld.forms import is_row
 from roadheld.handed import coded_of, known_rules
 from roadheld.pricelists import Priced
 from roadheld.tracing import Traced
-
-
-def as_drops(thing, known):
-    """A list of drops of any layers, each with a price of nothing; None for anything else."""
-    if not is_row(thing):
-        return None
-    listed = Priced(known)
-    for part in thing:
-        if listed.note(part, 0) is None:
-            return None
-    return listed
 
 
 def lacking(rules, drops):
     """The least drop that a list of drops lacks to be closed, None if it is closed."""
     known = {}
     plain = known_rules(rules, known)
-    listed = as_drops(drops, known)
-    if listed is None:
+    listed = Priced(known)
+    if not listed.note_all(drops, False):
         raise BadDrops(drops)
     return listed.first_wrong(plain, {})
 
@@ -33,8 +21,8 @@ def is_closed(rules, thing):
     """Whether any object is a closed list of drops."""
     known = {}
     plain = known_rules(rules, known)
-    listed = as_drops(thing, known)
-    return listed is not None and listed.holds(plain, {})
+    listed = Priced(known)
+    return listed.note_all(thing, False) and listed.holds(plain, {})
 
 
 def shown(rules, drop):

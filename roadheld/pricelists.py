@@ -6,7 +6,7 @@ prices of nothing, no rules being counted.
 The slot of a drop (c, a, q) is a where c is empty, else c and a behind it, as a tuple.
 """
 
-from roadheld.bookrows import as_known_drop
+from roadheld.forms import as_known_layer, as_known_layers
 
 
 class Priced:
@@ -20,22 +20,45 @@ class Priced:
         self.dear = False
         self.wrong = []
 
-    def note(self, thing, price):
-        """Notes the price of a drop of any layers; tells whether it had none yet, None for any other object."""
-        drop = as_known_drop(thing, self.known)
-        if drop is None:
-            return None
-        control, layer, behind = drop
-        slot = control + (layer,) if control else layer
-        if price:
-            self.dear = True
-        prices = self.table.get(slot)
-        if prices is None:
-            self.table[slot] = {behind: price}
-            return True
-        if behind in prices:
+    def note_all(self, thing, priced):
+        """Whether any object is a list of drops of any layers, or, if priced, of unlike ones and prices: it is noted.
+
+        Drops are looked at here as as_known_drop does it, since this is done for each row of each list.
+        """
+        if not isinstance(thing, list) and not isinstance(thing, tuple):
             return False
-        prices[behind] = price
+        known = self.known
+        table = self.table
+        price = 0
+        for row in thing:
+            drop = row
+            if priced:
+                if not isinstance(row, tuple) and not isinstance(row, list) or len(row) != 2:
+                    return False
+                drop, price = row
+                if not isinstance(price, int) or price is True or price is False or price < 0:
+                    return False
+            if not isinstance(drop, tuple) and not isinstance(drop, list) or len(drop) != 3:
+                return False
+            control, part, behind = drop
+            slot = as_known_layer(part, known, True)
+            if not isinstance(control, tuple) or control:
+                control = as_known_layers(control, known, True)
+            if not isinstance(behind, tuple) or behind:
+                behind = as_known_layers(behind, known, True)
+            if slot is None or control is None or behind is None:
+                return False
+            if control:
+                slot = tuple(control + [slot])
+            behind = tuple(behind)
+            prices = table.get(slot)
+            if prices is None:
+                table[slot] = {behind: price}
+            elif behind not in prices:
+                prices[behind] = price
+            elif priced:
+                return False
+            self.dear = self.dear or price > 0
         return True
 
     def sums_behind(self, sums, layer):

@@ -10,26 +10,10 @@ from roadheld.refusals import BadPrices
 from roadheld.tracing import Traced
 
 
-def as_prices(thing, known):
-    """A list of pairs of a drop, unlike ones, and a number, as prices; None for anything else."""
-    if not isinstance(thing, list) and not isinstance(thing, tuple):
-        return None
-    listed = Priced(known)
-    for pair in thing:
-        if not isinstance(pair, tuple) and not isinstance(pair, list) or len(pair) != 2:
-            return None
-        drop, price = pair
-        if not isinstance(price, int) or price is True or price is False or price < 0:
-            return None
-        if not listed.note(drop, price):
-            return None
-    return listed
-
-
 def checked_prices(prices, known):
-    """A price list of any layers."""
-    listed = as_prices(prices, known)
-    if listed is None:
+    """A price list of any layers; agents that are known need not be looked at."""
+    listed = Priced(known)
+    if not listed.note_all(prices, True):
         raise BadPrices(prices)
     return listed
 
@@ -47,8 +31,8 @@ def is_price_list(rules, counted, thing):
     known = {}
     plain = known_rules(rules, known)
     marked = checked_counted(counted, len(plain))
-    listed = as_prices(thing, known)
-    return listed is not None and listed.holds(plain, marked)
+    listed = Priced(known)
+    return listed.note_all(thing, True) and listed.holds(plain, marked)
 
 
 def least_sum(prices, layers):
